@@ -2,9 +2,11 @@ package field_test
 
 import (
 	"math/big"
+	"slices"
 	"testing"
 
 	"gauger/field"
+	"gauger/strewn"
 )
 
 const p = field.P
@@ -21,15 +23,7 @@ var edges = []uint64{
 
 // samples has the edges and numbers strewn over all sixty-four bits.
 func samples() []uint64 {
-	all := append([]uint64(nil), edges...)
-	x := uint64(88172645463325252)
-	for range 60 {
-		x ^= x << 13
-		x ^= x >> 7
-		x ^= x << 17
-		all = append(all, x)
-	}
-	return all
+	return slices.Concat(edges, strewn.Numbers(60))
 }
 
 func wide(x uint64) *big.Int { return new(big.Int).SetUint64(x) }

@@ -7,6 +7,7 @@ import (
 
 	"gauger/field"
 	"gauger/seeds"
+	"gauger/strewn"
 )
 
 const (
@@ -25,14 +26,7 @@ func samples() []uint64 {
 	for bit := range 64 {
 		all = append(all, 1<<bit, 1<<bit-1, full<<bit)
 	}
-	x := uint64(88172645463325252)
-	for range 500 {
-		x ^= x << 13
-		x ^= x >> 7
-		x ^= x << 17
-		all = append(all, x)
-	}
-	return all
+	return append(all, strewn.Numbers(500)...)
 }
 
 func whole(x uint64) *big.Int { return new(big.Int).SetUint64(x) }

@@ -6,6 +6,7 @@ import (
 	"testing"
 
 	"gauger/api"
+	"gauger/strewn"
 	"gauger/wide"
 )
 
@@ -51,19 +52,6 @@ func narrow(n *big.Int) (int64, bool) {
 	return n.Int64(), true
 }
 
-// strewn tells so many numbers over all sixty-four bits.
-func strewn(count int) []uint64 {
-	var all []uint64
-	x := uint64(88172645463325252)
-	for range count {
-		x ^= x << 13
-		x ^= x >> 7
-		x ^= x << 17
-		all = append(all, x)
-	}
-	return all
-}
-
 // narrows has the edges of sixty-four bits, and numbers strewn between them.
 func narrows() []int64 {
 	all := []int64{
@@ -72,7 +60,7 @@ func narrows() []int64 {
 		-1, -2, -3, -9, -10, -11, -12345,
 		-1 << 31, -1 << 32, -1<<62 + 1, -1 << 62, -1<<62 - 1, least + 1, least,
 	}
-	for i, x := range strewn(60) {
+	for i, x := range strewn.Numbers(60) {
 		all = append(all, int64(x)>>(i%40))
 	}
 	return all
@@ -92,7 +80,7 @@ func wides() []api.Wide {
 			all = append(all, a)
 		}
 	}
-	x := strewn(60)
+	x := strewn.Numbers(60)
 	for i := range 30 {
 		all = append(all, api.Wide{Hi: int64(x[i]) >> (2 * i), Lo: x[59-i]})
 	}
