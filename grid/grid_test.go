@@ -109,16 +109,6 @@ func of(t *testing.T, rows, width int, l ...int64) *grid.Grid {
 	return g
 }
 
-// numbers tells so many strewn numbers, from the given one on, none of which has
-// more bits than is left of sixty-four behind the shift.
-func numbers(from, count int, shift uint) []int64 {
-	var all []int64
-	for _, x := range strewn.Numbers(from + count)[from:] {
-		all = append(all, int64(x)>>shift)
-	}
-	return all
-}
-
 func TestNew(t *testing.T) {
 	for _, x := range sizes {
 		hold(t, grid.New(x.askedRows, x.askedWidth), x.rows, x.width, make([]int64, x.rows*x.width))
@@ -161,7 +151,7 @@ func TestPutOfAll(t *testing.T) {
 	for _, x := range sizes {
 		g := grid.New(x.askedRows, x.askedWidth)
 		for from := range 3 {
-			l := numbers(from, x.rows*x.width, 0)
+			l := strewn.Signed(from, x.rows*x.width, 0)
 			fill(t, g, l)
 			hold(t, g, x.rows, x.width, l)
 		}
@@ -210,12 +200,12 @@ func TestCellsAreOfTheirOwn(t *testing.T) {
 
 func TestCopy(t *testing.T) {
 	for _, x := range sizes {
-		l := numbers(1, x.rows*x.width, 0)
+		l := strewn.Signed(1, x.rows*x.width, 0)
 		g := grid.New(x.askedRows, x.askedWidth)
 		fill(t, g, l)
 		h := g.Copy()
 		hold(t, h, x.rows, x.width, l)
-		other := numbers(2, x.rows*x.width, 0)
+		other := strewn.Signed(2, x.rows*x.width, 0)
 		fill(t, h, other)
 		hold(t, g, x.rows, x.width, l)
 		k := h.Copy()
@@ -353,7 +343,7 @@ func TestCellsAreOnTheirOwn(t *testing.T) {
 
 func TestNil(t *testing.T) {
 	for _, x := range sizes {
-		l := numbers(3, x.rows*x.width, 0)
+		l := strewn.Signed(3, x.rows*x.width, 0)
 		g := grid.New(x.askedRows, x.askedWidth)
 		fill(t, g, l)
 		if e := g.Plus(nil); e != api.ErrIncompatible {
@@ -452,8 +442,8 @@ func TestJoinedOfAll(t *testing.T) {
 			if x.askedRows != x.rows || x.askedWidth != x.width || x.rows*x.width > 9 {
 				continue
 			}
-			a := numbers(from, x.rows*x.width, uint(from%4))
-			b := numbers(from+50, x.rows*x.width, uint(from/4%4))
+			a := strewn.Signed(from, x.rows*x.width, uint(from%4))
+			b := strewn.Signed(from+50, x.rows*x.width, uint(from/4%4))
 			for _, way := range []struct {
 				call  func(g, h *grid.Grid) api.Errno
 				whole func(z, x, y *big.Int) *big.Int
@@ -480,7 +470,7 @@ func TestJoinedOfAll(t *testing.T) {
 func TestWhatFollows(t *testing.T) {
 	for _, x := range sizes {
 		for from := range 4 {
-			a, b := numbers(from, x.rows*x.width, 1), numbers(from+9, x.rows*x.width, 1)
+			a, b := strewn.Signed(from, x.rows*x.width, 1), strewn.Signed(from+9, x.rows*x.width, 1)
 			g, h := grid.New(x.askedRows, x.askedWidth), grid.New(x.askedRows, x.askedWidth)
 			fill(t, g, a)
 			fill(t, h, b)

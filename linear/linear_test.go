@@ -7,6 +7,7 @@ import (
 	"testing"
 
 	"gauger/api"
+	"gauger/columns"
 	"gauger/grid"
 	"gauger/linear"
 	"gauger/strewn"
@@ -16,102 +17,6 @@ const (
 	lowest  = math.MinInt64
 	highest = math.MaxInt64
 )
-
-// sizes has the rows and columns of grids that columns can meet.
-var sizes = []struct{ rows, width int }{
-	{1, 1}, {1, 2}, {1, 6}, {1, 128},
-	{2, 1}, {2, 2}, {2, 3}, {3, 2}, {3, 3},
-	{4, 5}, {5, 4}, {7, 127}, {8, 1}, {8, 2}, {8, 128},
-}
-
-// bare has the rows and columns of grids without a cell, which no columns meet.
-var bare = []struct{ rows, width int }{
-	{0, 0}, {0, 1}, {0, 3}, {0, 128}, {1, 0}, {2, 0}, {8, 0},
-}
-
-// nowhere has columns that a row of so many has not: the first ones are just below 0,
-// and just behind the last one.
-func nowhere(width int) []int {
-	return []int{
-		-1, width, -2, width + 1, -width - 1, 2*width + 1, 128, 129, -128, 1 << 32, -1 << 32, 1<<32 - 1,
-		1 << 62, math.MaxInt - 1, math.MaxInt, math.MinInt + 1, math.MinInt,
-	}
-}
-
-// astray tells rows of numbers that do not meet a grid of so many rows and columns:
-// too few, too many, and those with one number, or all, where no column is.
-func astray(rows, width int) [][]int {
-	all := [][]int{nil}
-	for _, count := range []int{0, 1, 2, 7, 8, 9, rows - 1, rows + 1, 2 * rows, rows + 256, 1000} {
-		if count != rows && count >= 0 {
-			all = append(all, make([]int, count), slices.Repeat([]int{max(width-1, 0)}, count))
-		}
-	}
-	for _, col := range nowhere(width) {
-		all = append(all, slices.Repeat([]int{col}, rows))
-		for row := range rows {
-			one := slices.Repeat([]int{max(width-1, 0)}, rows)
-			one[row] = col
-			other := make([]int, rows)
-			other[row] = col
-			all = append(all, one, other)
-		}
-	}
-	return all
-}
-
-// within tells rows of numbers that meet a grid of so many rows and columns: the same
-// column in all rows, the first and the last one by turns, all in turn from either
-// side, and strewn ones.
-func within(rows, width int) [][]int {
-	var all [][]int
-	for _, col := range []int{0, width - 1, width / 2} {
-		all = append(all, slices.Repeat([]int{col}, rows))
-	}
-	some := strewn.Numbers(5 * rows)
-	for from := range 4 {
-		var turns, rising, falling, others []int
-		for row := range rows {
-			turns = append(turns, (row+from)%2*(width-1))
-			rising = append(rising, (row+from)%width)
-			falling = append(falling, width-1-(row+from)%width)
-			others = append(others, int(some[from*rows+row]%uint64(width)))
-		}
-		all = append(all, turns, rising, falling, others)
-	}
-	return all
-}
-
-// numbers tells so many strewn numbers, from the given one on, none of which has
-// more bits than is left of sixty-four behind the shift.
-func numbers(from, count int, shift uint) []int64 {
-	var all []int64
-	for _, x := range strewn.Numbers(from + count)[from:] {
-		all = append(all, int64(x)>>shift)
-	}
-	return all
-}
-
-// of tells a grid of so many rows and columns, with these numbers.
-func of(t *testing.T, rows, width int, l ...int64) *grid.Grid {
-	t.Helper()
-	g := grid.New(rows, width)
-	for i, n := range l {
-		if !g.Put(i/width, i%width, n) {
-			t.Fatalf("nothing is put into the cell %d of row %d", i%width, i/width)
-		}
-	}
-	return g
-}
-
-// named tells the numbers that the columns name among all cells.
-func named(l []int64, cols []int, width int) []int64 {
-	var all []int64
-	for row, col := range cols {
-		all = append(all, l[row*width+col])
-	}
-	return all
-}
 
 // hold holds the cells against these numbers.
 func hold(t *testing.T, g *grid.Grid, want []int64) {
@@ -187,9 +92,9 @@ func TestNoGrid(t *testing.T) {
 }
 
 func TestNoRowsOrNoColumns(t *testing.T) {
-	for _, x := range bare {
-		g := grid.New(x.rows, x.width)
-		for _, cols := range append(astray(x.rows, x.width), []int{}, make([]int, x.rows)) {
+	for _, x := range columns.Bare() {
+		g := grid.New(x.Rows, x.Width)
+		for _, cols := range append(columns.Astray(x.Rows, x.Width), []int{}, make([]int, x.Rows)) {
 			holdArg(t, g, cols)
 		}
 		hold(t, g, nil)
@@ -199,10 +104,10 @@ func TestNoRowsOrNoColumns(t *testing.T) {
 // Of cells that any number would bring beyond what fits, and none of which is 0:
 // columns astray come ahead of sums that do not fit, and all cells stay.
 func TestColumnsAstray(t *testing.T) {
-	for _, x := range sizes {
-		l := slices.Repeat([]int64{highest, lowest}, x.rows*x.width)[:x.rows*x.width]
-		g := of(t, x.rows, x.width, l...)
-		for _, cols := range astray(x.rows, x.width) {
+	for _, x := range columns.Sizes() {
+		l := slices.Repeat([]int64{highest, lowest}, x.Rows*x.Width)[:x.Rows*x.Width]
+		g := columns.Filled(x.Rows, x.Width, l...)
+		for _, cols := range columns.Astray(x.Rows, x.Width) {
 			holdArg(t, g, cols)
 		}
 		hold(t, g, l)
@@ -210,7 +115,7 @@ func TestColumnsAstray(t *testing.T) {
 }
 
 func TestArgAheadOfOverflow(t *testing.T) {
-	g := of(t, 3, 2, highest, highest, highest, highest, highest, highest)
+	g := columns.Filled(3, 2, highest, highest, highest, highest, highest, highest)
 	for _, cols := range [][]int{{0, 0, -1}, {0, 0, 2}, {-1, 0, 0}, {2, 1, 1}, {1, 1}, {0, 1, 0, 1}, nil} {
 		if e := linear.Change(g, cols, 1); e != api.ErrArg {
 			t.Errorf("Change of %v: %v", cols, e)
@@ -224,18 +129,18 @@ func TestArgAheadOfOverflow(t *testing.T) {
 
 // Every cell of its own: the one that each row's column names, and no other, has its sum.
 func TestChangeOfEachCell(t *testing.T) {
-	for _, x := range sizes {
-		for _, cols := range within(x.rows, x.width) {
+	for _, x := range columns.Sizes() {
+		for _, cols := range columns.Meeting(x.Rows, x.Width) {
 			for _, d := range []int64{5, -7, 0, highest, lowest} {
-				g, want := grid.New(x.rows, x.width), make([]int64, x.rows*x.width)
+				g, want := grid.New(x.Rows, x.Width), make([]int64, x.Rows*x.Width)
 				for row, col := range cols {
-					want[row*x.width+col] = d
+					want[row*x.Width+col] = d
 				}
 				if e := linear.Change(g, cols, d); e != api.OK {
 					t.Errorf("Change of %v by %d: %v", cols, d, e)
 				}
 				hold(t, g, want)
-				holdTold(t, g, cols, slices.Repeat([]int64{d}, x.rows))
+				holdTold(t, g, cols, slices.Repeat([]int64{d}, x.Rows))
 			}
 		}
 	}
@@ -243,7 +148,7 @@ func TestChangeOfEachCell(t *testing.T) {
 
 // The last column and the one behind it, 0 and the one just below, in each row.
 func TestEdgesOfColumns(t *testing.T) {
-	g := of(t, 3, 4, 1, 2, 3, 4, 5, 6, 7, 8, 9, 10, 11, 12)
+	g := columns.Filled(3, 4, 1, 2, 3, 4, 5, 6, 7, 8, 9, 10, 11, 12)
 	for _, x := range []struct {
 		cols        []int
 		want        []int64
@@ -305,17 +210,17 @@ var edges = []struct {
 // Each edge in each row alone, while the others have room enough, in the first and the
 // last one at once, and in all rows.
 func TestChangeAtTheEdges(t *testing.T) {
-	for _, size := range sizes {
-		last := size.rows - 1
+	for _, size := range columns.Sizes() {
+		last := size.Rows - 1
 		places := [][]int{{0, last}}
 		var every []int
-		for row := range size.rows {
+		for row := range size.Rows {
 			places = append(places, []int{row})
 			every = append(every, row)
 		}
 		for _, rows := range append(places, every) {
 			for i, x := range edges {
-				holdEdge(t, size.rows, size.width, rows, i, x.n, x.d, x.fits)
+				holdEdge(t, size.Rows, size.Width, rows, i, x.n, x.d, x.fits)
 			}
 		}
 	}
@@ -326,7 +231,7 @@ func TestChangeAtTheEdges(t *testing.T) {
 // if those do not fit, against what they were.
 func holdEdge(t *testing.T, rows, width int, at []int, turn int, n, d int64, fits bool) {
 	t.Helper()
-	all := within(rows, width)
+	all := columns.Meeting(rows, width)
 	cols := all[turn%len(all)]
 	// Cells that no column names may have any number.
 	before := slices.Repeat([]int64{highest, lowest}, rows*width)[:rows*width]
@@ -347,7 +252,7 @@ func holdEdge(t *testing.T, rows, width int, at []int, turn int, n, d int64, fit
 			want[row*width+col] += d
 		}
 	}
-	g := of(t, rows, width, before...)
+	g := columns.Filled(rows, width, before...)
 	if e := linear.Change(g, cols, d); e != fails {
 		t.Errorf("%d by %d in rows %v of %d: %v, not %v", n, d, at, rows, e, fails)
 	}
@@ -357,7 +262,7 @@ func holdEdge(t *testing.T, rows, width int, at []int, turn int, n, d int64, fit
 // One cell, so that the sum stands there as the table says it.
 func TestChangeNamed(t *testing.T) {
 	for _, x := range edges {
-		g, want, fails := of(t, 1, 1, x.n), x.sum, api.OK
+		g, want, fails := columns.Filled(1, 1, x.n), x.sum, api.OK
 		if !x.fits {
 			want, fails = x.n, api.ErrOverflow
 		}
@@ -372,7 +277,7 @@ func TestChangeNamed(t *testing.T) {
 // does not; and one that has room does not make good one that has none.
 func TestOverflowLeavesAll(t *testing.T) {
 	l := []int64{1, highest, lowest, 2, 3, highest, lowest, 4}
-	g := of(t, 4, 2, l...)
+	g := columns.Filled(4, 2, l...)
 	for _, x := range []struct {
 		cols []int
 		d    int64
@@ -402,12 +307,12 @@ func TestOverflowLeavesAll(t *testing.T) {
 }
 
 func TestReadOfAll(t *testing.T) {
-	for _, x := range sizes {
+	for _, x := range columns.Sizes() {
 		for from := range 4 {
-			l := numbers(from, x.rows*x.width, uint(from*20))
-			g := of(t, x.rows, x.width, l...)
-			for _, cols := range within(x.rows, x.width) {
-				holdTold(t, g, cols, named(l, cols, x.width))
+			l := strewn.Signed(from, x.Rows*x.Width, uint(from*20))
+			g := columns.Filled(x.Rows, x.Width, l...)
+			for _, cols := range columns.Meeting(x.Rows, x.Width) {
+				holdTold(t, g, cols, columns.Named(l, cols, x.Width))
 			}
 			hold(t, g, l)
 		}
@@ -440,7 +345,7 @@ func TestLeastAndMiddleNamed(t *testing.T) {
 		{[]int64{8, 7, 6, 5, 4, 3, 2, 1}, 1, 4},
 		{[]int64{1, -2, 3, -4, 5, -6, 7, -8}, -8, -2},
 	} {
-		g, cols := of(t, len(x.l), 1, x.l...), make([]int, len(x.l))
+		g, cols := columns.Filled(len(x.l), 1, x.l...), make([]int, len(x.l))
 		n, e := linear.Least(g, cols)
 		m, f := linear.Middle(g, cols)
 		if n != x.least || m != x.middle || e != api.OK || f != api.OK {
@@ -469,7 +374,7 @@ func TestSameColumnInAllRows(t *testing.T) {
 // What Read told may be written over, and stays when the cells change.
 func TestReadIsOfItsOwn(t *testing.T) {
 	l, cols := []int64{1, 2, 3, 4, 5, 6}, []int{1, 0, 1}
-	g := of(t, 3, 2, l...)
+	g := columns.Filled(3, 2, l...)
 	first, _ := linear.Read(g, cols)
 	second, _ := linear.Read(g, cols)
 	clear(first)
@@ -489,7 +394,7 @@ func TestReadIsOfItsOwn(t *testing.T) {
 // Columns stay as they were, those that do not meet the grid, too, with what lies
 // behind them; and they may be written over.
 func TestColumnsStay(t *testing.T) {
-	g := of(t, 3, 2, highest, 2, 3, 4, 5, 6)
+	g := columns.Filled(3, 2, highest, 2, 3, 4, 5, 6)
 	for _, x := range []struct {
 		cols  []int
 		fails api.Errno
@@ -544,12 +449,12 @@ func changed(l []int64, cols []int, width int, d int64) ([]int64, bool) {
 // Many changes, one behind another, of which some do not fit.
 func TestChangeOfAll(t *testing.T) {
 	count := map[bool]int{}
-	for i, x := range sizes {
-		g, want := grid.New(x.rows, x.width), make([]int64, x.rows*x.width)
-		all, some := within(x.rows, x.width), numbers(i, 200, uint(i%4))
+	for i, x := range columns.Sizes() {
+		g, want := grid.New(x.Rows, x.Width), make([]int64, x.Rows*x.Width)
+		all, some := columns.Meeting(x.Rows, x.Width), strewn.Signed(i, 200, uint(i%4))
 		for turn, d := range some {
 			cols := all[turn%len(all)]
-			next, ok := changed(want, cols, x.width, d)
+			next, ok := changed(want, cols, x.Width, d)
 			fails := api.ErrOverflow
 			if ok {
 				fails = api.OK
@@ -569,54 +474,33 @@ func TestChangeOfAll(t *testing.T) {
 	}
 }
 
-// addition is a number that was added, and by which columns.
-type addition struct {
-	cols []int
-	d    int64
-}
-
-// additions tells some additions to a grid of so many rows and columns, none of which
-// is below 0, and all of which are less than 2^63 together; the columns come again.
-func additions(rows, width, from int) []addition {
-	var all []addition
-	for i, cols := range slices.Repeat(within(rows, width), 3) {
-		all = append(all, addition{cols, numbers(from+i, 1, 0)[0] >> 8 & (1<<55 - 1)})
-	}
-	return all
-}
-
 // The chapter's section "What follows": each cell is the sum of all that was added by
 // columns that name it, and what was added by some columns, and none of it below 0, is
 // never more than Least. What was added is taken away again.
 func TestWhatFollows(t *testing.T) {
-	for i, x := range sizes {
-		g, want := grid.New(x.rows, x.width), make([]int64, x.rows*x.width)
-		all := additions(x.rows, x.width, i)
+	for i, x := range columns.Sizes() {
+		g, want := grid.New(x.Rows, x.Width), make([]int64, x.Rows*x.Width)
+		all := columns.Additions(x.Rows, x.Width, i)
 		for _, a := range all {
-			if e := linear.Change(g, a.cols, a.d); e != api.OK {
+			if e := linear.Change(g, a.Cols, a.Delta); e != api.OK {
 				t.Error(e)
 			}
-			for row, col := range a.cols {
-				want[row*x.width+col] += a.d
+			for row, col := range a.Cols {
+				want[row*x.Width+col] += a.Delta
 			}
 		}
 		hold(t, g, want)
 		for _, a := range all {
-			added := int64(0)
-			for _, b := range all {
-				if slices.Equal(a.cols, b.cols) {
-					added += b.d
-				}
-			}
-			if n, e := linear.Least(g, a.cols); e != api.OK || n < added {
-				t.Errorf("Least of %v is %d, %v, though %d was added", a.cols, n, e, added)
+			added := columns.Added(all, a.Cols)
+			if n, e := linear.Least(g, a.Cols); e != api.OK || n < added {
+				t.Errorf("Least of %v is %d, %v, though %d was added", a.Cols, n, e, added)
 			}
 		}
 		for _, a := range all {
-			if e := linear.Change(g, a.cols, -a.d); e != api.OK {
+			if e := linear.Change(g, a.Cols, -a.Delta); e != api.OK {
 				t.Error(e)
 			}
 		}
-		hold(t, g, make([]int64, x.rows*x.width))
+		hold(t, g, make([]int64, x.Rows*x.Width))
 	}
 }

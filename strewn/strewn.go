@@ -13,3 +13,14 @@ func Numbers(count int) []uint64 {
 	}
 	return all
 }
+
+// Signed tells so many of the numbers, from the given one on, below 0 as above it, none
+// of which has more bits than is left of sixty-four behind the shift.
+func Signed(from, count int, shift uint) []int64 {
+	from, count = max(from, 0), max(count, 0)
+	all := make([]int64, count)
+	for i, x := range Numbers(from + count)[from:] {
+		all[i] = int64(x) >> shift
+	}
+	return all
+}
