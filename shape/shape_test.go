@@ -7,6 +7,7 @@ import (
 	"testing"
 
 	"gauger/api"
+	"gauger/configs"
 	"gauger/hash"
 	"gauger/seeds"
 	"gauger/shape"
@@ -14,103 +15,6 @@ import (
 )
 
 const full = 1<<64 - 1
-
-// fields has numbers of a config's fields that may be, and some that may not: the
-// limits met, and just missed on each side.
-var fields = []struct {
-	name        string
-	put         func(c *api.Config, n int)
-	good, wrong []int
-}{
-	{"Bits", func(c *api.Config, n int) { c.Bits = n }, []int{1, 2, 3, 31, 32, 33, 58, 59}, []int{0, -1, -59, 60, 61, 63, 64, 128}},
-	{"Rows", func(c *api.Config, n int) { c.Rows = n }, []int{1, 2, 5, 7, 8}, []int{0, -1, -8, 9, 10, 59, 128}},
-	{"Width", func(c *api.Config, n int) { c.Width = n }, []int{1, 2, 3, 64, 127, 128}, []int{0, -1, -128, 129, 130, 256}},
-	{"Mode", func(c *api.Config, n int) { c.Mode = n }, []int{api.Linear, api.Conservative, api.Median}, []int{0, -1, -2, -3, 4, 5, 8}},
-}
-
-// nowhere has numbers that no field may be.
-var nowhere = []int{
-	math.MinInt, math.MinInt + 1, math.MaxInt - 1, math.MaxInt,
-	1 << 32, 1<<32 + 1, 1<<32 + 3, -1 << 32, -1<<32 + 1, 1<<62 + 1, 257,
-}
-
-// someSeeds has the edges of what a seed is, which is any number.
-var someSeeds = []uint64{0, 1, 99, 1<<59 - 1, 1<<61 - 1, 1 << 63, full}
-
-// base tells a config that is right.
-func base() api.Config {
-	return api.Config{Bits: 10, Rows: 3, Width: 7, Mode: api.Linear, Seed: 99}
-}
-
-// wrongConfigs tells configs each of which has one number that may not be, and the
-// empty one.
-func wrongConfigs() []api.Config {
-	all := []api.Config{{}, {Seed: 99}}
-	for _, f := range fields {
-		for _, n := range slices.Concat(f.wrong, nowhere) {
-			c := base()
-			f.put(&c, n)
-			all = append(all, c)
-		}
-	}
-	return all
-}
-
-// someConfigs tells configs that are right, from the least to the greatest.
-func someConfigs() []api.Config {
-	var all []api.Config
-	for _, bits := range []int{1, 2, 3, 7, 8, 10, 33, 58, 59} {
-		for _, rows := range []int{1, 2, 8} {
-			for _, width := range []int{1, 2, 3, 7, 127, 128} {
-				for i, seed := range someSeeds {
-					all = append(all, api.Config{Bits: bits, Rows: rows, Width: width, Mode: 1 + i%3, Seed: seed})
-				}
-			}
-		}
-	}
-	return all
-}
-
-// levels tells all levels that a config of so many bits has.
-func levels(bits int) []int {
-	var all []int
-	for level := range bits + 1 {
-		all = append(all, level)
-	}
-	return all
-}
-
-// beyond tells numbers of levels that a config of so many bits has not.
-func beyond(bits int) []int {
-	return []int{
-		-1, -2, -64, math.MinInt, math.MinInt + 1, -1 << 32,
-		bits + 1, bits + 2, 2*bits + 1, bits + 64, bits + 1<<32, math.MaxInt - 1, math.MaxInt,
-	}
-}
-
-// keyCount tells how many keys a level that is there has, by doubling.
-func keyCount(bits, level int) uint64 {
-	n := uint64(1)
-	for ; level < bits; level++ {
-		n += n
-	}
-	return n
-}
-
-// within tells the first and the last of so many keys, some between, and those of
-// strewn numbers.
-func within(count uint64) []uint64 {
-	all := []uint64{0, count - 1, count / 2, (count - 1) / 2, count / 3}
-	for _, x := range strewn.Numbers(5) {
-		all = append(all, x%count)
-	}
-	return all
-}
-
-// outside tells numbers that are none of so many keys.
-func outside(count uint64) []uint64 {
-	return []uint64{count, count + 1, 2 * count, 1 << 60, 1<<61 - 1, 1 << 63, full}
-}
 
 func TestRightNamed(t *testing.T) {
 	for _, x := range []struct {
@@ -120,7 +24,7 @@ func TestRightNamed(t *testing.T) {
 	}{
 		{"the least one", api.Config{Bits: 1, Rows: 1, Width: 1, Mode: api.Linear}, true},
 		{"the greatest one", api.Config{Bits: 59, Rows: 8, Width: 128, Mode: api.Median, Seed: full}, true},
-		{"one between", base(), true},
+		{"one between", configs.Base(), true},
 		{"Conservative", api.Config{Bits: 59, Rows: 1, Width: 128, Mode: api.Conservative, Seed: 1}, true},
 		{"the empty one", api.Config{}, false},
 		{"a seed alone", api.Config{Seed: full}, false},
@@ -146,6 +50,7 @@ func TestRightNamed(t *testing.T) {
 
 // Each number of each field, along with each one of all others, and any seed.
 func TestRightOfAll(t *testing.T) {
+	fields := configs.Fields()
 	var try func(c api.Config, i int, want bool)
 	try = func(c api.Config, i int, want bool) {
 		if i == len(fields) {
@@ -154,31 +59,31 @@ func TestRightOfAll(t *testing.T) {
 			}
 			return
 		}
-		for _, n := range fields[i].good {
-			fields[i].put(&c, n)
+		for _, n := range fields[i].Good {
+			fields[i].Put(&c, n)
 			try(c, i+1, want)
 		}
-		for _, n := range fields[i].wrong {
-			fields[i].put(&c, n)
+		for _, n := range fields[i].Wrong {
+			fields[i].Put(&c, n)
 			try(c, i+1, false)
 		}
 	}
 	for _, seed := range []uint64{0, 99, full} {
 		try(api.Config{Seed: seed}, 0, true)
 	}
-	for _, seed := range slices.Concat(someSeeds, strewn.Numbers(50)) {
-		c := base()
+	for _, seed := range slices.Concat(configs.Seeds(), strewn.Numbers(50)) {
+		c := configs.Base()
 		c.Seed = seed
 		if !shape.Right(c) {
 			t.Errorf("%v is not right", c)
 		}
 	}
 	for _, f := range fields {
-		for _, n := range nowhere {
-			c := base()
-			f.put(&c, n)
+		for _, n := range configs.Nowhere() {
+			c := configs.Base()
+			f.Put(&c, n)
 			if shape.Right(c) {
-				t.Errorf("%v is right, with %s of %d", c, f.name, n)
+				t.Errorf("%v is right, with %s of %d", c, f.Name, n)
 			}
 		}
 	}
@@ -241,8 +146,8 @@ func TestKeysAndExactOfAllLevels(t *testing.T) {
 	for bits := 1; bits <= 59; bits++ {
 		for width := 1; width <= 128; width++ {
 			c := api.Config{Bits: bits, Rows: 1 + bits%8, Width: width, Mode: 1 + width%3, Seed: uint64(bits)}
-			for _, level := range levels(bits) {
-				count := keyCount(bits, level)
+			for _, level := range configs.Levels(bits) {
+				count := configs.Count(bits, level)
 				if got := shape.Keys(c, level); got != count {
 					t.Errorf("Keys of %v at level %d: %d, not %d", c, level, got, count)
 				}
@@ -250,7 +155,7 @@ func TestKeysAndExactOfAllLevels(t *testing.T) {
 					t.Errorf("Exact of %v at level %d: %t, not %t", c, level, got, want)
 				}
 			}
-			for _, level := range beyond(bits) {
+			for _, level := range configs.Beyond(bits) {
 				if n, exact := shape.Keys(c, level), shape.Exact(c, level); n != 0 || exact {
 					t.Errorf("%v has %d keys at level %d, and it is exact: %t", c, n, level, exact)
 				}
@@ -262,8 +167,8 @@ func TestKeysAndExactOfAllLevels(t *testing.T) {
 // What a level has hangs on the bits alone, and on the columns whether it is exact.
 func TestKeysAndExactHangOnNothingElse(t *testing.T) {
 	for rows := 1; rows <= 8; rows++ {
-		for _, mode := range []int{api.Linear, api.Conservative, api.Median} {
-			for _, seed := range someSeeds {
+		for _, mode := range configs.Modes() {
+			for _, seed := range configs.Seeds() {
 				c := api.Config{Bits: 10, Rows: rows, Width: 64, Mode: mode, Seed: seed}
 				if shape.Keys(c, 3) != 128 || shape.Exact(c, 3) || shape.Keys(c, 4) != 64 || !shape.Exact(c, 4) {
 					t.Errorf("%v has %d, %t and %d, %t", c, shape.Keys(c, 3), shape.Exact(c, 3), shape.Keys(c, 4), shape.Exact(c, 4))
@@ -275,7 +180,7 @@ func TestKeysAndExactHangOnNothingElse(t *testing.T) {
 
 // A config that is not right has no levels, and no keys.
 func TestWrongConfigs(t *testing.T) {
-	for _, c := range wrongConfigs() {
+	for _, c := range configs.Wrong() {
 		for _, level := range []int{0, 1, 5, 9, 10, 11, 59, 60, -1, c.Bits, c.Bits - 1, math.MaxInt, math.MinInt} {
 			if n, exact := shape.Keys(c, level), shape.Exact(c, level); n != 0 || exact {
 				t.Errorf("%v has %d keys at level %d, and it is exact: %t", c, n, level, exact)
@@ -294,31 +199,9 @@ func TestWrongConfigs(t *testing.T) {
 
 // The columns that are wanted here were reckoned apart from this program.
 func TestColumnsNamed(t *testing.T) {
-	for _, x := range []struct {
-		bits, rows, width int
-		seed              uint64
-		level             int
-		key               uint64
-		want              []int
-	}{
-		{59, 8, 128, 0, 0, 0, []int{119, 115, 108, 66, 45, 124, 51, 47}},
-		{59, 8, 128, 0, 0, 1<<59 - 1, []int{40, 119, 118, 22, 24, 47, 16, 83}},
-		{59, 8, 128, full, 59, 0, []int{75, 41, 84, 69, 110, 63, 0, 21}},
-		{10, 3, 7, 99, 4, 63, []int{5, 0, 4}},
-		{10, 3, 7, 99, 0, 1023, []int{3, 5, 6}},
-		{10, 3, 7, 99, 10, 0, []int{0, 6, 0}},
-		{3, 1, 1, 5, 2, 1, []int{0}},
-		{3, 2, 2, 7, 0, 6, []int{0, 0}},
-		{3, 2, 2, 7, 1, 3, []int{1, 0}},
-		{3, 2, 2, 7, 2, 1, []int{1, 0}},
-		{59, 4, 100, 12345, 30, 1<<29 - 1, []int{96, 35, 45, 94}},
-		{45, 5, 127, 1 << 63, 17, 123456789, []int{3, 119, 81, 58, 77}},
-	} {
-		for _, mode := range []int{api.Linear, api.Conservative, api.Median} {
-			c := api.Config{Bits: x.bits, Rows: x.rows, Width: x.width, Mode: mode, Seed: x.seed}
-			if got := shape.Columns(c, x.level, x.key); !slices.Equal(got, x.want) {
-				t.Errorf("Columns of %v at level %d of %d: %v, not %v", c, x.level, x.key, got, x.want)
-			}
+	for _, x := range configs.Known() {
+		if got := shape.Columns(x.Config, x.Level, x.Key); !slices.Equal(got, x.Cols) {
+			t.Errorf("Columns of %v at level %d of %d: %v, not %v", x.Config, x.Level, x.Key, got, x.Cols)
 		}
 	}
 }
@@ -334,9 +217,9 @@ func columnsOf(c api.Config, level int, key uint64) []int {
 }
 
 func TestColumnsOfAllLevels(t *testing.T) {
-	for _, c := range someConfigs() {
-		for _, level := range levels(c.Bits) {
-			for _, key := range within(keyCount(c.Bits, level)) {
+	for _, c := range configs.Right() {
+		for _, level := range configs.Levels(c.Bits) {
+			for _, key := range configs.Within(configs.Count(c.Bits, level)) {
 				got, want := shape.Columns(c, level, key), columnsOf(c, level, key)
 				if !slices.Equal(got, want) {
 					t.Errorf("Columns of %v at level %d of %d: %v, not %v", c, level, key, got, want)
@@ -353,8 +236,8 @@ func TestColumnsOfAllLevels(t *testing.T) {
 func TestColumnsOfAllKeys(t *testing.T) {
 	for _, width := range []int{1, 2, 5, 16, 64, 128} {
 		c := api.Config{Bits: 7, Rows: 8, Width: width, Mode: api.Linear, Seed: 3}
-		for _, level := range levels(c.Bits) {
-			count := keyCount(c.Bits, level)
+		for _, level := range configs.Levels(c.Bits) {
+			count := configs.Count(c.Bits, level)
 			for key := range count {
 				if got, want := shape.Columns(c, level, key), columnsOf(c, level, key); !slices.Equal(got, want) {
 					t.Errorf("Columns of %v at level %d of %d: %v, not %v", c, level, key, got, want)
@@ -370,20 +253,20 @@ func TestColumnsOfAllKeys(t *testing.T) {
 }
 
 func TestNoSuchKeyOrLevel(t *testing.T) {
-	for _, c := range someConfigs() {
-		for _, level := range levels(c.Bits) {
-			for _, key := range outside(keyCount(c.Bits, level)) {
+	for _, c := range configs.Right() {
+		for _, level := range configs.Levels(c.Bits) {
+			for _, key := range configs.Outside(configs.Count(c.Bits, level)) {
 				if got := shape.Columns(c, level, key); len(got) != 0 {
 					t.Errorf("Columns of %v at level %d of %d: %v", c, level, key, got)
 				}
 			}
-			for _, key := range outside(keyCount(c.Bits, 0)) {
+			for _, key := range configs.Outside(configs.Count(c.Bits, 0)) {
 				if k, ok := shape.Above(c, level, key); k != 0 || ok {
 					t.Errorf("Above of %v at level %d of %d: %d, %t", c, level, key, k, ok)
 				}
 			}
 		}
-		for _, level := range beyond(c.Bits) {
+		for _, level := range configs.Beyond(c.Bits) {
 			for _, key := range []uint64{0, 1, full} {
 				if got := shape.Columns(c, level, key); len(got) != 0 {
 					t.Errorf("Columns of %v at level %d of %d: %v", c, level, key, got)
@@ -400,9 +283,9 @@ func TestNoSuchKeyOrLevel(t *testing.T) {
 // the first ones.
 func TestColumnsAreApart(t *testing.T) {
 	seen := map[[8]int]bool{}
-	for _, seed := range someSeeds {
+	for _, seed := range configs.Seeds() {
 		c := api.Config{Bits: 59, Rows: 8, Width: 128, Mode: api.Linear, Seed: seed}
-		for _, level := range levels(c.Bits) {
+		for _, level := range configs.Levels(c.Bits) {
 			row := [8]int(shape.Columns(c, level, 0))
 			if seen[row] {
 				t.Errorf("level %d of the seed %d has the columns %v, too", level, seed, row)
@@ -418,7 +301,7 @@ func TestColumnsAreApart(t *testing.T) {
 }
 
 func TestColumnsAreOfTheirOwn(t *testing.T) {
-	c := base()
+	c := configs.Base()
 	first, second := shape.Columns(c, 4, 63), shape.Columns(c, 4, 63)
 	clear(first)
 	_ = append(first[:1], 77)
@@ -471,9 +354,9 @@ func TestAboveNamed(t *testing.T) {
 // of a whole number without its lowest bits is the whole part of it, parted by 2
 // to the power of the level.
 func TestAboveOfAllLevels(t *testing.T) {
-	for _, c := range someConfigs() {
-		for _, key := range within(keyCount(c.Bits, 0)) {
-			for _, level := range levels(c.Bits) {
+	for _, c := range configs.Right() {
+		for _, key := range configs.Within(configs.Count(c.Bits, 0)) {
+			for _, level := range configs.Levels(c.Bits) {
 				parts := new(big.Int).Exp(big.NewInt(2), big.NewInt(int64(level)), nil)
 				want := new(big.Int).Div(new(big.Int).SetUint64(key), parts).Uint64()
 				if k, ok := shape.Above(c, level, key); k != want || !ok {
@@ -486,7 +369,7 @@ func TestAboveOfAllLevels(t *testing.T) {
 
 // The chapter's section "What follows".
 func TestWhatFollows(t *testing.T) {
-	for _, c := range someConfigs() {
+	for _, c := range configs.Right() {
 		for level := range c.Bits {
 			if low, high := shape.Keys(c, level), shape.Keys(c, level+1); low != 2*high || high == 0 {
 				t.Errorf("%v has %d keys at level %d, and %d above", c, low, level, high)
@@ -494,7 +377,7 @@ func TestWhatFollows(t *testing.T) {
 			if shape.Exact(c, level) && !shape.Exact(c, level+1) {
 				t.Errorf("%v is exact at level %d, but not above", c, level)
 			}
-			for _, key := range within(keyCount(c.Bits, 0)) {
+			for _, key := range configs.Within(configs.Count(c.Bits, 0)) {
 				low, _ := shape.Above(c, level, key)
 				high, ok := shape.Above(c, level+1, key)
 				if !ok || low/2 != high || high >= shape.Keys(c, level+1) {
