@@ -14,6 +14,7 @@ import (
 	"gauger/linear"
 	"gauger/shape"
 	"gauger/sketch"
+	"gauger/sketches"
 	"gauger/strewn"
 )
 
@@ -21,19 +22,6 @@ const (
 	lowest  = math.MinInt64
 	highest = math.MaxInt64
 )
-
-// few tells configs of each mode, of all sizes that columns can meet.
-func few() []api.Config {
-	bits, seeds := []int{10, 1, 33, 2, 59, 7, 3, 58}, configs.Seeds()
-	var all []api.Config
-	for _, mode := range configs.Modes() {
-		for i, x := range columns.Sizes() {
-			c := api.Config{Bits: bits[i%len(bits)], Rows: x.Rows, Width: x.Width, Mode: mode, Seed: seeds[i%len(seeds)]}
-			all = append(all, c)
-		}
-	}
-	return all
-}
 
 // ofMode tells the config in another mode.
 func ofMode(c api.Config, mode int) api.Config {
@@ -49,22 +37,6 @@ func made(t *testing.T, c api.Config, level int) *sketch.Sketch {
 		t.Fatalf("New of %v at level %d: %v, %v", c, level, s, e)
 	}
 	return s
-}
-
-// loaded tells the sketch of a level that is there, with these cells.
-func loaded(t *testing.T, c api.Config, level int, l ...int64) *sketch.Sketch {
-	t.Helper()
-	s := made(t, c, level)
-	if !s.Load(l) {
-		t.Fatalf("%d cells are not loaded into %v", len(l), c)
-	}
-	return s
-}
-
-// full tells as many numbers as the config's grid has cells, the given ones by turns.
-func full(c api.Config, turns ...int64) []int64 {
-	count := c.Rows * c.Width
-	return slices.Repeat(turns, count)[:count]
 }
 
 // hold holds all that a sketch tells of itself against these.
@@ -119,14 +91,14 @@ func TestExample(t *testing.T) {
 
 // All keys share one column, in each mode.
 func TestOneColumn(t *testing.T) {
-	for _, c := range few() {
+	for _, c := range sketches.Configs() {
 		if c.Width > 1 {
 			continue
 		}
 		for level := range c.Bits {
 			s := made(t, c, level)
-			holdUpdate(t, s, 0, 5, api.OK, full(c, 5))
-			holdUpdate(t, s, 1, 2, api.OK, full(c, 7))
+			holdUpdate(t, s, 0, 5, api.OK, sketches.Full(c, 5))
+			holdUpdate(t, s, 1, 2, api.OK, sketches.Full(c, 7))
 			for _, key := range configs.Within(configs.Count(c.Bits, level)) {
 				holdPoint(t, s, key, 7)
 			}
@@ -139,7 +111,7 @@ func TestNew(t *testing.T) {
 	exact := map[bool]int{}
 	for _, c := range configs.Right() {
 		for _, level := range configs.Levels(c.Bits) {
-			hold(t, made(t, c, level), c, level, full(c, 0))
+			hold(t, made(t, c, level), c, level, sketches.Full(c, 0))
 			exact[shape.Exact(c, level)]++
 		}
 	}
@@ -178,7 +150,7 @@ func TestNewNamed(t *testing.T) {
 			t.Errorf("%s: %v, %v", x.name, s, e)
 		}
 		if s != nil {
-			hold(t, s, x.c, x.level, full(x.c, 0))
+			hold(t, s, x.c, x.level, sketches.Full(x.c, 0))
 		}
 	}
 }
@@ -202,7 +174,7 @@ func TestNewOfNone(t *testing.T) {
 
 // named tells the cells of a sketch with noughts, but these numbers where the columns are.
 func named(c api.Config, cols []int, numbers ...int64) []int64 {
-	all := full(c, 0)
+	all := sketches.Full(c, 0)
 	for row, col := range cols {
 		all[row*c.Width+col] = numbers[row]
 	}
@@ -269,7 +241,7 @@ func TestModesNamed(t *testing.T) {
 		{api.Median, lowest, api.OK, []int64{lowest + 6, lowest + 8, lowest + 19}, 8, lowest + 8},
 	} {
 		c := ofMode(configs.Base(), x.mode)
-		s := loaded(t, c, 4, before...)
+		s := sketches.Filled(c, 4, before...)
 		holdPoint(t, s, 63, x.point)
 		want := slices.Clone(before)
 		want[5], want[7], want[18] = x.want[0], x.want[1], x.want[2]
@@ -280,7 +252,7 @@ func TestModesNamed(t *testing.T) {
 
 // The first and the last key of each level, and some between.
 func TestKeys(t *testing.T) {
-	for _, c := range few() {
+	for _, c := range sketches.Configs() {
 		for _, level := range configs.Levels(c.Bits) {
 			for _, key := range configs.Within(configs.Count(c.Bits, level)) {
 				s, numbers := made(t, c, level), slices.Repeat([]int64{9}, c.Rows)
@@ -294,10 +266,10 @@ func TestKeys(t *testing.T) {
 // The key behind the last one, and others that are not there: also where the mode would
 // refuse d, or a sum would not fit.
 func TestNoSuchKey(t *testing.T) {
-	for _, c := range few() {
+	for _, c := range sketches.Configs() {
 		for i, level := range configs.Levels(c.Bits) {
-			l := full(c, [][]int64{{highest}, {lowest}, {0}, {highest, lowest, 7}}[i%4]...)
-			s := loaded(t, c, level, l...)
+			l := sketches.Full(c, [][]int64{{highest}, {lowest}, {0}, {highest, lowest, 7}}[i%4]...)
+			s := sketches.Filled(c, level, l...)
 			for _, key := range configs.Outside(configs.Count(c.Bits, level)) {
 				for _, d := range []int64{0, 1, -1, highest, lowest} {
 					holdUpdate(t, s, key, d, api.ErrKey, l)
@@ -343,8 +315,8 @@ func TestErrorsInTheirOrder(t *testing.T) {
 		{api.Median, lowest, 3, 0, api.OK},
 	} {
 		c := api.Config{Bits: 3, Rows: 2, Width: 2, Mode: x.mode, Seed: 7}
-		l := full(c, x.n)
-		holdUpdate(t, loaded(t, c, 1, l...), x.key, x.d, x.fails, l)
+		l := sketches.Full(c, x.n)
+		holdUpdate(t, sketches.Filled(c, 1, l...), x.key, x.d, x.fails, l)
 	}
 }
 
@@ -383,7 +355,7 @@ var edges = []struct{ n, d int64 }{
 // as the least one's sum alone counts there.
 func TestEdgesInOneRow(t *testing.T) {
 	count := map[int]map[api.Errno]int{}
-	for i, c := range few() {
+	for i, c := range sketches.Configs() {
 		level := i % (c.Bits + 1)
 		key := configs.Count(c.Bits, level) - 1
 		cols := shape.Columns(c, level, key)
@@ -397,12 +369,12 @@ func TestEdgesInOneRow(t *testing.T) {
 				numbers[row] = x.n
 				behind, fails := after(c.Mode, numbers, x.d)
 				// Cells of other columns may have any number.
-				before := full(c, highest, lowest, x.n)
+				before := sketches.Full(c, highest, lowest, x.n)
 				want := slices.Clone(before)
 				for row, col := range cols {
 					before[row*c.Width+col], want[row*c.Width+col] = numbers[row], behind[row]
 				}
-				holdUpdate(t, loaded(t, c, level, before...), key, x.d, fails, want)
+				holdUpdate(t, sketches.Filled(c, level, before...), key, x.d, fails, want)
 				if count[c.Mode] == nil {
 					count[c.Mode] = map[api.Errno]int{}
 				}
@@ -421,7 +393,7 @@ func TestEdgesInOneRow(t *testing.T) {
 // Columns of shape, and Change of linear, or Raise of conserve.
 func TestUpdateOfAll(t *testing.T) {
 	count := map[api.Errno]int{}
-	for i, c := range few() {
+	for i, c := range sketches.Configs() {
 		for _, level := range []int{0, c.Bits / 2, c.Bits} {
 			s, g := made(t, c, level), grid.New(c.Rows, c.Width)
 			change, keys := linear.Change, configs.Within(configs.Count(c.Bits, level))
@@ -480,7 +452,7 @@ func TestPointNamed(t *testing.T) {
 	} {
 		for mode, want := range map[int]int64{api.Linear: x.least, api.Conservative: x.least, api.Median: x.middle} {
 			c := api.Config{Bits: 2, Rows: len(x.l), Width: 1, Mode: mode}
-			s := loaded(t, c, 1, x.l...)
+			s := sketches.Filled(c, 1, x.l...)
 			holdPoint(t, s, 0, want)
 			holdPoint(t, s, 1, want)
 		}
@@ -488,10 +460,10 @@ func TestPointNamed(t *testing.T) {
 }
 
 func TestPointOfAll(t *testing.T) {
-	for i, c := range few() {
+	for i, c := range sketches.Configs() {
 		for _, level := range configs.Levels(c.Bits) {
 			l := strewn.Signed(i+level, c.Rows*c.Width, uint(level))
-			s := loaded(t, c, level, l...)
+			s := sketches.Filled(c, level, l...)
 			for _, key := range configs.Within(configs.Count(c.Bits, level)) {
 				holdTold(t, s, key)
 			}
@@ -502,12 +474,12 @@ func TestPointOfAll(t *testing.T) {
 
 // Just as many numbers are loaded, and no others, each in its place.
 func TestLoad(t *testing.T) {
-	for i, c := range few() {
+	for i, c := range sketches.Configs() {
 		level, count := i%(c.Bits+1), c.Rows*c.Width
 		numbers := strewn.Signed(i, 2*count+c.Width+2, 0)
 		s := made(t, c, level)
-		want := full(c, 0)
-		for turn, l := range [][]int64{numbers[1:][:count], full(c, highest, lowest), full(c, 0), numbers[:count]} {
+		want := sketches.Full(c, 0)
+		for turn, l := range [][]int64{numbers[1:][:count], sketches.Full(c, highest, lowest), sketches.Full(c, 0), numbers[:count]} {
 			for _, other := range []int{0, 1, count - 1, count + 1, count - c.Width, count + c.Width, 2 * count, len(numbers)} {
 				if other != count && s.Load(numbers[:other]) {
 					t.Errorf("%d numbers are loaded into %d cells", other, count)
@@ -528,7 +500,7 @@ func TestLoad(t *testing.T) {
 
 func TestLoadNamed(t *testing.T) {
 	c := api.Config{Bits: 6, Rows: 2, Width: 3, Mode: api.Conservative, Seed: 5}
-	s := loaded(t, c, 0, 1, -2, 3, -4, 5, lowest)
+	s := sketches.Filled(c, 0, 1, -2, 3, -4, 5, lowest)
 	for _, l := range [][]int64{nil, {}, {7}, {7, 7, 7}, {7, 7, 7, 7, 7}, {7, 7, 7, 7, 7, 7, 7}, make([]int64, 12)} {
 		if s.Load(l) {
 			t.Errorf("%v is loaded", l)
@@ -541,7 +513,7 @@ func TestLoadNamed(t *testing.T) {
 func TestLoadKeepsNothing(t *testing.T) {
 	c := api.Config{Bits: 6, Rows: 2, Width: 3, Mode: api.Linear, Seed: 5}
 	whole := []int64{1, 2, 3, 4, 5, 6, 77, 78}
-	s := loaded(t, c, 1, whole[:6]...)
+	s := sketches.Filled(c, 1, whole[:6]...)
 	holdUpdate(t, s, 0, 0, api.OK, []int64{1, 2, 3, 4, 5, 6})
 	if s.Load(whole[:7]) || !slices.Equal(whole, []int64{1, 2, 3, 4, 5, 6, 77, 78}) {
 		t.Errorf("the numbers became %v", whole)
@@ -552,14 +524,14 @@ func TestLoadKeepsNothing(t *testing.T) {
 	if !s.Load(l) || s.Merge(s) != api.OK || !slices.Equal(l, []int64{9, 9, 9, 9, 9, 9}) {
 		t.Errorf("the numbers became %v", l)
 	}
-	hold(t, s, c, 1, full(c, 18))
+	hold(t, s, c, 1, sketches.Full(c, 18))
 }
 
 // What Cells told may be written over, and stays when the cells change.
 func TestCellsAreOfTheirOwn(t *testing.T) {
 	for _, mode := range configs.Modes() {
 		c := api.Config{Bits: 6, Rows: 2, Width: 1, Mode: mode, Seed: 5}
-		s := loaded(t, c, 0, 3, 4)
+		s := sketches.Filled(c, 0, 3, 4)
 		first, second, third := s.Cells(), s.Cells(), s.Cells()
 		clear(first)
 		_ = append(third[:1], 77)
@@ -575,18 +547,18 @@ func TestCellsAreOfTheirOwn(t *testing.T) {
 
 // A copy is the same at first, and each of both changes alone, by each call that changes.
 func TestCopy(t *testing.T) {
-	for i, c := range few() {
+	for i, c := range sketches.Configs() {
 		level := i % (c.Bits + 1)
 		before := strewn.Signed(i, c.Rows*c.Width, 2)
-		other := loaded(t, c, level, full(c, 1, 2, 3)...)
+		other := sketches.Filled(c, level, sketches.Full(c, 1, 2, 3)...)
 		for _, change := range []func(s *sketch.Sketch) bool{
 			func(s *sketch.Sketch) bool { return s.Update(0, 1<<61) == api.OK },
-			func(s *sketch.Sketch) bool { return s.Load(full(c, 7, lowest)) },
+			func(s *sketch.Sketch) bool { return s.Load(sketches.Full(c, 7, lowest)) },
 			func(s *sketch.Sketch) bool { return s.Merge(other) == api.OK },
 			func(s *sketch.Sketch) bool { return s.Merge(s) == api.OK },
 			func(s *sketch.Sketch) bool { return s.Subtract(other) == api.OK || c.Mode == api.Conservative },
 		} {
-			s := loaded(t, c, level, before...)
+			s := sketches.Filled(c, level, before...)
 			k := s.Copy()
 			hold(t, k, c, level, before)
 			if !change(k) {
@@ -601,7 +573,7 @@ func TestCopy(t *testing.T) {
 			hold(t, k, c, level, changed)
 			hold(t, then, c, level, before)
 		}
-		hold(t, other, c, level, full(c, 1, 2, 3))
+		hold(t, other, c, level, sketches.Full(c, 1, 2, 3))
 	}
 }
 
@@ -633,7 +605,7 @@ func holdJoined(t *testing.T, c api.Config, level int, a, b, plus, minus []int64
 		{"Merge", (*sketch.Sketch).Merge, plus, over},
 		{"Subtract", (*sketch.Sketch).Subtract, minus, under},
 	} {
-		s, o := loaded(t, c, level, a...), loaded(t, c, level, b...)
+		s, o := sketches.Filled(c, level, a...), sketches.Filled(c, level, b...)
 		if e := x.call(s, o); e != x.fails {
 			t.Errorf("%s of %v and %v in %v: %v, not %v", x.name, a, b, c, e, x.fails)
 		}
@@ -655,12 +627,12 @@ func TestJoinedNamed(t *testing.T) {
 
 // One cell that does not fit is enough, wherever it is; one less, and it fits.
 func TestJoinedAtTheEdges(t *testing.T) {
-	for i, c := range few() {
+	for i, c := range sketches.Configs() {
 		level, count := i%(c.Bits+1), c.Rows*c.Width
 		// Of many cells each seventh one, and the last.
 		for at := 0; at < count; at = max(at+1, min(at+1+count/7, count-1)) {
-			a, b := full(c, 5), full(c, 1)
-			plus, minus := full(c, 6), full(c, 4)
+			a, b := sketches.Full(c, 5), sketches.Full(c, 1)
+			plus, minus := sketches.Full(c, 6), sketches.Full(c, 4)
 			a[at], plus[at], minus[at] = highest-1, highest, highest-2
 			holdJoined(t, c, level, a, b, plus, minus, api.OK, api.OK)
 			a[at], minus[at] = highest, highest-1
@@ -674,7 +646,7 @@ func TestJoinedAtTheEdges(t *testing.T) {
 }
 
 func TestJoinedOfAll(t *testing.T) {
-	for i, c := range few() {
+	for i, c := range sketches.Configs() {
 		count := c.Rows * c.Width
 		a, b := strewn.Signed(i, count, 1), strewn.Signed(i+50, count, 1)
 		var plus, minus []int64
@@ -710,17 +682,17 @@ func holdIncompatible(t *testing.T, s, o *sketch.Sketch) {
 // None, another config in each of its fields, and another level: in the mode
 // Conservative, too, and where sums would not fit.
 func TestIncompatible(t *testing.T) {
-	for _, c := range few() {
-		for _, l := range [][]int64{full(c, highest), full(c, lowest), full(c, 0), full(c, 3, -3)} {
-			s := loaded(t, c, 0, l...)
+	for _, c := range sketches.Configs() {
+		for _, l := range [][]int64{sketches.Full(c, highest), sketches.Full(c, lowest), sketches.Full(c, 0), sketches.Full(c, 3, -3)} {
+			s := sketches.Filled(c, 0, l...)
 			holdIncompatible(t, s, nil)
 			for _, other := range configs.Others(c) {
-				o := loaded(t, other, 0, full(other, 1, -1)...)
+				o := sketches.Filled(other, 0, sketches.Full(other, 1, -1)...)
 				holdIncompatible(t, s, o)
 				holdIncompatible(t, o, s)
 			}
 			for level := 1; level <= c.Bits; level++ {
-				o := loaded(t, c, level, full(c, highest, lowest)...)
+				o := sketches.Filled(c, level, sketches.Full(c, highest, lowest)...)
 				holdIncompatible(t, s, o)
 				holdIncompatible(t, o, s)
 			}
@@ -738,7 +710,7 @@ func TestConservativeJoined(t *testing.T) {
 		{[]int64{4, 4, 4, lowest}, []int64{1, 2, 3, 4}},
 		{[]int64{lowest, highest, 0, 0}, []int64{highest, lowest, lowest, 1}},
 	} {
-		s, o := loaded(t, c, 2, x.a...), loaded(t, c, 2, x.b...)
+		s, o := sketches.Filled(c, 2, x.a...), sketches.Filled(c, 2, x.b...)
 		if e := s.Subtract(o); e != api.ErrMode {
 			t.Errorf("Subtract of %v from %v: %v", x.b, x.a, e)
 		}
@@ -748,8 +720,8 @@ func TestConservativeJoined(t *testing.T) {
 		hold(t, s, c, 2, x.a)
 		hold(t, o, c, 2, x.b)
 	}
-	s := loaded(t, c, 2, 1, 2, 3, highest)
-	if e := s.Merge(loaded(t, c, 2, 1, 1, 1, 1)); e != api.ErrOverflow {
+	s := sketches.Filled(c, 2, 1, 2, 3, highest)
+	if e := s.Merge(sketches.Filled(c, 2, 1, 1, 1, 1)); e != api.ErrOverflow {
 		t.Errorf("Merge: %v", e)
 	}
 	hold(t, s, c, 2, []int64{1, 2, 3, highest})
@@ -765,7 +737,7 @@ func TestWithItself(t *testing.T) {
 	} {
 		for _, mode := range configs.Modes() {
 			c := api.Config{Bits: 6, Rows: 2, Width: 2, Mode: mode, Seed: 5}
-			s, want, fails := loaded(t, c, 0, x.l...), x.plus, api.OK
+			s, want, fails := sketches.Filled(c, 0, x.l...), x.plus, api.OK
 			if want == nil {
 				want, fails = x.l, api.ErrOverflow
 			}
@@ -779,7 +751,7 @@ func TestWithItself(t *testing.T) {
 			if e := s.Subtract(s); e != api.OK {
 				t.Errorf("%v without itself: %v", want, e)
 			}
-			hold(t, s, c, 0, full(c, 0))
+			hold(t, s, c, 0, sketches.Full(c, 0))
 		}
 	}
 }
@@ -788,7 +760,7 @@ func TestWithItself(t *testing.T) {
 func TestJoinedKeepsNothing(t *testing.T) {
 	for _, mode := range configs.Modes() {
 		c := api.Config{Bits: 6, Rows: 2, Width: 1, Mode: mode, Seed: 5}
-		s, o := made(t, c, 0), loaded(t, c, 0, 3, 3)
+		s, o := made(t, c, 0), sketches.Filled(c, 0, 3, 3)
 		if e := s.Merge(o); e != api.OK {
 			t.Error(e)
 		}
@@ -799,51 +771,10 @@ func TestJoinedKeepsNothing(t *testing.T) {
 	}
 }
 
-// fed tells the sketch of a level that was fed these updates.
-func fed(t *testing.T, c api.Config, level int, all []api.Update) *sketch.Sketch {
-	t.Helper()
-	s := made(t, c, level)
-	for _, u := range all {
-		if e := s.Update(u.Key, u.Delta); e != api.OK {
-			t.Fatalf("Update of %d by %d: %v", u.Key, u.Delta, e)
-		}
-	}
-	return s
-}
-
-// updates tells strewn updates of so many keys, less than 2^63 together.
-func updates(from int, keys uint64) []api.Update {
-	var all []api.Update
-	numbers := strewn.Numbers(from + 80)[from:]
-	for i, d := range strewn.Signed(from+9, 80, 8) {
-		all = append(all, api.Update{Key: numbers[i] % keys, Delta: d})
-	}
-	return all
-}
-
-// small tells configs of each mode with few keys.
-func small() []api.Config {
-	var all []api.Config
-	for i, c := range few() {
-		c.Bits = 1 + i%6
-		all = append(all, c)
-	}
-	return all
-}
-
-// sums tells what each key of the level has by the updates.
-func sums(keys uint64, all []api.Update) []int64 {
-	has := make([]int64, keys)
-	for _, u := range all {
-		has[u.Key] += u.Delta
-	}
-	return has
-}
-
 // ofSums calls for each level of the small configs whose cells are sums, with how many
 // keys it has.
 func ofSums(call func(from int, c api.Config, level int, keys uint64)) {
-	for i, c := range small() {
+	for i, c := range sketches.Small() {
 		if c.Mode == api.Conservative {
 			continue
 		}
@@ -858,9 +789,9 @@ func ofSums(call func(from int, c api.Config, level int, keys uint64)) {
 // and the least sum of what others have in its columns.
 func TestWhatFollows(t *testing.T) {
 	ofSums(func(from int, c api.Config, level int, keys uint64) {
-		all := updates(from, keys)
-		s, has := fed(t, c, level, all), sums(keys, all)
-		want := full(c, 0)
+		all := sketches.Updates(from, keys)
+		s, has := sketches.Fed(c, level, all), sketches.Sums(keys, all)
+		want := sketches.Full(c, 0)
 		for key, n := range has {
 			for row, col := range shape.Columns(c, level, uint64(key)) {
 				want[row*c.Width+col] += n
@@ -896,9 +827,9 @@ func leastOfOthers(c api.Config, level int, has []int64, key uint64) int64 {
 // were, and one is taken away again.
 func TestFedTogether(t *testing.T) {
 	ofSums(func(from int, c api.Config, level int, keys uint64) {
-		first, second := updates(from, keys), updates(from+20, keys)
-		s, o := fed(t, c, level, first), fed(t, c, level, second)
-		alone, both := s.Cells(), fed(t, c, level, slices.Concat(second, first))
+		first, second := sketches.Updates(from, keys), sketches.Updates(from+20, keys)
+		s, o := sketches.Fed(c, level, first), sketches.Fed(c, level, second)
+		alone, both := s.Cells(), sketches.Fed(c, level, slices.Concat(second, first))
 		if e := s.Merge(o); e != api.OK {
 			t.Errorf("Merge: %v", e)
 		}
@@ -914,24 +845,19 @@ func TestFedTogether(t *testing.T) {
 // none is told more than in the mode Linear: behind updates, and behind a merge.
 func TestBetween(t *testing.T) {
 	less := 0
-	for i, c := range small() {
+	for i, c := range sketches.Small() {
 		if c.Mode != api.Conservative {
 			continue
 		}
 		keys := configs.Count(c.Bits, 0)
-		var halves [2][]api.Update
-		for from := range halves {
-			for _, u := range updates(i+from, keys) {
-				halves[from] = append(halves[from], api.Update{Key: u.Key, Delta: u.Delta & (1<<54 - 1)})
-			}
-		}
-		s, o := fed(t, c, 0, halves[0]), fed(t, c, 0, halves[1])
+		first, second := sketches.Rises(i, keys), sketches.Rises(i+1, keys)
+		s, o := sketches.Fed(c, 0, first), sketches.Fed(c, 0, second)
 		if e := s.Merge(o); e != api.OK {
 			t.Errorf("Merge: %v", e)
 		}
-		all := slices.Concat(halves[0], halves[1])
-		most := fed(t, ofMode(c, api.Linear), 0, all)
-		for key, n := range sums(keys, all) {
+		all := slices.Concat(first, second)
+		most := sketches.Fed(ofMode(c, api.Linear), 0, all)
+		for key, n := range sketches.Sums(keys, all) {
 			told, _ := s.Point(uint64(key))
 			end, _ := most.Point(uint64(key))
 			if told < n || told > end {
