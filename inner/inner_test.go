@@ -9,6 +9,7 @@ import (
 	"gauger/api"
 	"gauger/configs"
 	"gauger/inner"
+	"gauger/levels"
 	"gauger/shape"
 	"gauger/sketch"
 	"gauger/sketches"
@@ -651,9 +652,9 @@ func TestWhatFollows(t *testing.T) {
 	for i, c := range linear(sketches.Small()) {
 		for _, level := range configs.Levels(c.Bits) {
 			keys := configs.Count(c.Bits, level)
-			first, second := sketches.Rises(i, keys), sketches.Rises(i+20, keys)
+			first, second := levels.Rises(i, keys), levels.Rises(i+20, keys)
 			a, b := sketches.Fed(c, level, first), sketches.Fed(c, level, second)
-			has, have := sketches.Sums(keys, first), sketches.Sums(keys, second)
+			has, have := levels.Sums(keys, first), levels.Sums(keys, second)
 			same := ofSame(t, has, have)
 			want := plus(t, same, ofUnlike(t, c, level, has, have))
 			holdInner(t, a, b, want, api.OK)

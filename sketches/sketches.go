@@ -1,15 +1,13 @@
-// Package sketches has the sketches that the layers' tests try, with what their cells are
-// filled, and their keys are updated by.
+// Package sketches has the sketches that the layers' tests try, filled with cells, or fed
+// with updates.
 package sketches
 
 import (
-	"slices"
-
 	"gauger/api"
 	"gauger/columns"
 	"gauger/configs"
+	"gauger/levels"
 	"gauger/sketch"
-	"gauger/strewn"
 )
 
 // Configs tells configs of each mode, of all sizes that columns can meet.
@@ -34,61 +32,25 @@ func Small() []api.Config {
 	return all
 }
 
+// Kind tells the kind of level that a sketch is, for its trials.
+func Kind() levels.Kind[*sketch.Sketch] {
+	count := func(c api.Config, _ int) int { return c.Rows * c.Width }
+	return levels.Kind[*sketch.Sketch]{New: sketch.New, Count: count}
+}
+
 // Full tells as many numbers as the config's grid has cells, the given ones by turns.
 func Full(c api.Config, turns ...int64) []int64 {
-	count := c.Rows * c.Width
-	return slices.Repeat(turns, count)[:count]
+	return Kind().Full(levels.At(c, 0), turns...)
 }
 
 // Filled tells the sketch of a level, with these cells; nil, if there is no such level,
 // or it has not as many.
 func Filled(c api.Config, level int, l ...int64) *sketch.Sketch {
-	s, fails := sketch.New(c, level)
-	if fails != api.OK || !s.Load(l) {
-		return nil
-	}
-	return s
-}
-
-// Updates tells strewn updates of so many keys, less than 2^63 together.
-func Updates(from int, keys uint64) []api.Update {
-	var all []api.Update
-	numbers := strewn.Numbers(from + 80)[from:]
-	for i, d := range strewn.Signed(from+9, 80, 8) {
-		all = append(all, api.Update{Key: numbers[i] % keys, Delta: d})
-	}
-	return all
-}
-
-// Rises tells updates of the same keys, none of which is below 0.
-func Rises(from int, keys uint64) []api.Update {
-	all := Updates(from, keys)
-	for i := range all {
-		all[i].Delta &= 1<<54 - 1
-	}
-	return all
+	return Kind().Filled(levels.At(c, level), l...)
 }
 
 // Fed tells the sketch of a level that was fed these updates; nil, if there is no such
 // level, or it refuses one of them.
 func Fed(c api.Config, level int, all []api.Update) *sketch.Sketch {
-	s, fails := sketch.New(c, level)
-	if fails != api.OK {
-		return nil
-	}
-	for _, u := range all {
-		if s.Update(u.Key, u.Delta) != api.OK {
-			return nil
-		}
-	}
-	return s
-}
-
-// Sums tells what each of so many keys has by the updates.
-func Sums(keys uint64, all []api.Update) []int64 {
-	has := make([]int64, keys)
-	for _, u := range all {
-		has[u.Key] += u.Delta
-	}
-	return has
+	return Kind().Fed(levels.At(c, level), all)
 }

@@ -2,7 +2,6 @@ package sketches_test
 
 import (
 	"math"
-	"math/big"
 	"slices"
 	"testing"
 
@@ -83,46 +82,8 @@ func TestFilled(t *testing.T) {
 	}
 }
 
-// sized tells the sum of all numbers, without their signs.
-func sized(all []api.Update) *big.Int {
-	sum := new(big.Int)
-	for _, u := range all {
-		sum.Add(sum, new(big.Int).Abs(big.NewInt(u.Delta)))
-	}
-	return sum
-}
-
-func TestUpdatesAndRises(t *testing.T) {
-	for _, keys := range []uint64{1, 2, 64, 1 << 59} {
-		for from := range 50 {
-			all, below := sketches.Updates(from, keys), 0
-			rises := sketches.Rises(from, keys)
-			if len(rises) != len(all) || !sized(all).IsInt64() || !sized(rises).IsInt64() {
-				t.Errorf("%d updates, %d of them rises, of %d together", len(all), len(rises), sized(all))
-			}
-			for i, u := range all {
-				if u.Key >= keys || rises[i].Key != u.Key || rises[i].Delta < 0 {
-					t.Errorf("of %d keys %d is updated by %d, and %d by %d", keys, u.Key, u.Delta, rises[i].Key, rises[i].Delta)
-				}
-				if u.Delta < 0 {
-					below++
-				}
-			}
-			if below < 20 || below > 60 {
-				t.Errorf("%d of %d updates are below 0", below, len(all))
-			}
-			if other := sketches.Updates(from+1, keys); slices.Equal(other, all) {
-				t.Errorf("the same updates come again from %d on", from)
-			}
-		}
-	}
-}
-
-func TestFedAndSums(t *testing.T) {
+func TestFed(t *testing.T) {
 	all := []api.Update{{Key: 3, Delta: 5}, {Key: 0, Delta: -2}, {Key: 3, Delta: 7}}
-	if got := sketches.Sums(4, all); !slices.Equal(got, []int64{-2, 0, 0, 12}) {
-		t.Errorf("the keys have %v", got)
-	}
 	c := api.Config{Bits: 3, Rows: 2, Width: 1, Mode: api.Linear}
 	s := sketches.Fed(c, 1, all)
 	if s == nil || s.Config() != c || s.Level() != 1 || !slices.Equal(s.Cells(), []int64{10, 10}) {

@@ -1,0 +1,150 @@
+package levels_test
+
+import (
+	"math"
+	"math/big"
+	"slices"
+	"testing"
+
+	"gauger/api"
+	"gauger/configs"
+	"gauger/levels"
+	"gauger/shape"
+)
+
+func TestFullFilledAndFed(t *testing.T) {
+	k := kind("")
+	for _, mode := range configs.Modes() {
+		p := levels.At(api.Config{Bits: 3, Rows: 2, Width: 5, Mode: mode, Seed: 7}, 1)
+		for _, x := range []struct{ turns, want []int64 }{
+			{[]int64{7}, []int64{7, 7, 7, 7}},
+			{[]int64{1, -2}, []int64{1, -2, 1, -2}},
+			{[]int64{1, 2, 3}, []int64{1, 2, 3, 1}},
+			{[]int64{1, 2, 3, 4, 5}, []int64{1, 2, 3, 4}},
+		} {
+			if got := k.Full(p, x.turns...); !slices.Equal(got, x.want) {
+				t.Errorf("%v by turns are %v", x.turns, got)
+			}
+			levels.Hold(t, k.Filled(p, x.want...), p, x.want)
+		}
+		if l := k.Filled(p, 1, 2, 3); l != nil {
+			t.Errorf("%v is filled with too few: %v", p, l)
+		}
+		levels.Hold(t, k.Fed(p, nil), p, []int64{0, 0, 0, 0})
+		all := []api.Update{{Key: 3, Delta: 5}, {Key: 0, Delta: 2}, {Key: 3, Delta: 7}}
+		levels.Hold(t, k.Fed(p, all), p, []int64{2, 0, 0, 12})
+		for _, refused := range []api.Update{{Key: 4, Delta: 1}, {Key: 0, Delta: math.MaxInt64}} {
+			if l := k.Fed(p, append(all[:3:3], refused)); l != nil {
+				t.Errorf("%v was fed to %v", refused, l)
+			}
+		}
+		other := levels.At(p.Config, 4)
+		if l := k.Filled(other); l != nil {
+			t.Errorf("%v is filled: %v", other, l)
+		}
+		if l := k.Fed(other, nil); l != nil {
+			t.Errorf("%v is fed: %v", other, l)
+		}
+	}
+}
+
+func TestStrewn(t *testing.T) {
+	p := levels.At(api.Config{Bits: 5, Rows: 2, Width: 5, Mode: api.Linear}, 1)
+	all := kind("").Strewn(p, 0, 2)
+	if len(all) != 16 || slices.Max(all) <= 0 || slices.Min(all) >= 0 || slices.Max(all) >= 1<<61 || slices.Min(all) < -1<<61 {
+		t.Errorf("the strewn numbers are %v", all)
+	}
+	if other := kind("").Strewn(p, 1, 2); !slices.Equal(other[:15], all[1:]) {
+		t.Errorf("from number 1 on there are %v, behind %v", other, all)
+	}
+}
+
+func TestEdges(t *testing.T) {
+	seen := map[string]bool{}
+	for _, x := range levels.Edges() {
+		sum := new(big.Int).Add(big.NewInt(x.N), big.NewInt(x.D))
+		seen[sum.String()] = true
+	}
+	// The last sums that fit, and the first ones that do not, on each side.
+	for _, sum := range []string{"9223372036854775807", "9223372036854775808", "-9223372036854775808", "-9223372036854775809"} {
+		if !seen[sum] {
+			t.Errorf("the sum %s is not tried", sum)
+		}
+	}
+}
+
+// sized tells the sum of all numbers, without their signs.
+func sized(all []api.Update) *big.Int {
+	sum := new(big.Int)
+	for _, u := range all {
+		sum.Add(sum, new(big.Int).Abs(big.NewInt(u.Delta)))
+	}
+	return sum
+}
+
+func TestUpdatesAndRises(t *testing.T) {
+	for _, keys := range []uint64{1, 2, 64, 1 << 59} {
+		for from := range 50 {
+			all, below := levels.Updates(from, keys), 0
+			rises := levels.Rises(from, keys)
+			if len(rises) != len(all) || !sized(all).IsInt64() || !sized(rises).IsInt64() {
+				t.Errorf("%d updates, %d of them rises, of %d together", len(all), len(rises), sized(all))
+			}
+			for i, u := range all {
+				if u.Key >= keys || rises[i].Key != u.Key || rises[i].Delta < 0 {
+					t.Errorf("of %d keys %d is updated by %d, and %d by %d", keys, u.Key, u.Delta, rises[i].Key, rises[i].Delta)
+				}
+				if u.Delta < 0 {
+					below++
+				}
+			}
+			if below < 20 || below > 60 {
+				t.Errorf("%d of %d updates are below 0", below, len(all))
+			}
+			if other := levels.Updates(from+1, keys); slices.Equal(other, all) {
+				t.Errorf("the same updates come again from %d on", from)
+			}
+		}
+	}
+}
+
+func TestSums(t *testing.T) {
+	all := []api.Update{{Key: 3, Delta: 5}, {Key: 0, Delta: -2}, {Key: 3, Delta: 7}}
+	if got := levels.Sums(4, all); !slices.Equal(got, []int64{-2, 0, 0, 12}) {
+		t.Errorf("the keys have %v", got)
+	}
+}
+
+func TestNowhere(t *testing.T) {
+	wrong := map[bool]int{}
+	for _, p := range levels.Nowhere() {
+		if shape.Keys(p.Config, p.Level) != 0 {
+			t.Errorf("%v is there", p)
+		}
+		wrong[shape.Right(p.Config)]++
+	}
+	if wrong[true] < 1000 || wrong[false] < 100 {
+		t.Errorf("too few of right configs, or of others: %v", wrong)
+	}
+}
+
+func TestOthers(t *testing.T) {
+	for _, c := range configs.Right() {
+		for _, level := range configs.Levels(c.Bits) {
+			p, asMany := levels.At(c, level), 0
+			all := levels.Others(p)
+			for _, other := range all {
+				if other == p || shape.Keys(other.Config, other.Level) == 0 {
+					t.Errorf("%v is not there, or is %v", other, p)
+				}
+				if other.Level != level && shape.Keys(other.Config, other.Level) == shape.Keys(c, level) {
+					asMany++
+				}
+			}
+			// Of all keys that there may be, there are as many at one level alone.
+			if len(all) < 20 || asMany == 0 && c.Bits-level < api.MaxBits {
+				t.Errorf("%d others of %v, %d of other levels with as many keys", len(all), p, asMany)
+			}
+		}
+	}
+}
