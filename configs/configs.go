@@ -123,6 +123,16 @@ func Count(bits, level int) uint64 {
 	return n
 }
 
+// Exact tells the lowest level of a right config that has at most as many keys as there
+// are columns, by doubling; the levels above it have less.
+func Exact(c api.Config) int {
+	level := c.Bits
+	for keys := 2; keys <= c.Width && level > 0; keys += keys {
+		level--
+	}
+	return level
+}
+
 // Within tells the first and the last of so many keys, some between, and those of
 // strewn numbers.
 func Within(count uint64) []uint64 {

@@ -118,6 +118,25 @@ func TestLevels(t *testing.T) {
 	}
 }
 
+func TestExact(t *testing.T) {
+	for _, x := range []struct{ bits, width, want int }{
+		{3, 1, 3}, {3, 2, 2}, {3, 3, 2}, {3, 4, 1}, {3, 7, 1}, {3, 8, 0}, {3, 128, 0},
+		{7, 127, 1}, {7, 128, 0}, {8, 128, 1}, {59, 128, 52}, {59, 127, 53}, {59, 1, 59}, {1, 1, 1}, {1, 2, 0},
+	} {
+		c := api.Config{Bits: x.bits, Rows: 1, Width: x.width, Mode: api.Linear}
+		if got := configs.Exact(c); got != x.want {
+			t.Errorf("of %d bits and %d columns the first exact level is %d, not %d", x.bits, x.width, got, x.want)
+		}
+	}
+	for _, c := range configs.Right() {
+		for _, level := range configs.Levels(c.Bits) {
+			if (configs.Count(c.Bits, level) <= uint64(c.Width)) != (level >= configs.Exact(c)) {
+				t.Errorf("of %v level %d is on the wrong side of %d", c, level, configs.Exact(c))
+			}
+		}
+	}
+}
+
 func TestKeys(t *testing.T) {
 	for _, count := range []uint64{1, 2, 4, 128, 1 << 32, 1 << 59} {
 		within, outside := configs.Within(count), configs.Outside(count)

@@ -7,10 +7,10 @@ import (
 	"testing"
 
 	"gauger/api"
+	"gauger/arrays"
 	"gauger/configs"
 	"gauger/exact"
 	"gauger/levels"
-	"gauger/sketches"
 	"gauger/strewn"
 )
 
@@ -18,33 +18,6 @@ const (
 	lowest  = math.MinInt64
 	highest = math.MaxInt64
 )
-
-// kind tells the kind of level that an array is, for its trials.
-func kind() levels.Kind[*exact.Array] {
-	count := func(c api.Config, level int) int { return int(min(configs.Count(c.Bits, level), api.MaxWidth)) }
-	return levels.Kind[*exact.Array]{New: exact.New, Count: count}
-}
-
-// parted tells the levels of the configs that are exact, by the words of chapter 7, and
-// those that are not.
-func parted(all []api.Config) (fine, other []levels.Place) {
-	for _, c := range all {
-		for _, level := range configs.Levels(c.Bits) {
-			if configs.Count(c.Bits, level) <= uint64(c.Width) {
-				fine = append(fine, levels.At(c, level))
-			} else {
-				other = append(other, levels.At(c, level))
-			}
-		}
-	}
-	return fine, other
-}
-
-// places tells the exact levels of configs of each mode and size.
-func places() []levels.Place {
-	fine, _ := parted(append(sketches.Configs(), sketches.Small()...))
-	return fine
-}
 
 // made tells the array of a level that is exact.
 func made(t *testing.T, p levels.Place) *exact.Array {
@@ -67,12 +40,12 @@ func TestExample(t *testing.T) {
 }
 
 func TestNew(t *testing.T) {
-	fine, other := parted(configs.Right())
+	fine, other := arrays.Parted(configs.Right())
 	for _, p := range fine {
-		levels.Hold(t, made(t, p), p, kind().Full(p, 0))
+		levels.Hold(t, made(t, p), p, arrays.Kind().Full(p, 0))
 	}
-	kind().NoneMade(t, other)
-	kind().NoneMade(t, levels.Nowhere())
+	arrays.Kind().NoneMade(t, other)
+	arrays.Kind().NoneMade(t, levels.Nowhere())
 	if len(fine) < 1000 || len(other) < 1000 {
 		t.Errorf("too few levels that are exact, %d, or that are not, %d", len(fine), len(other))
 	}
@@ -84,15 +57,12 @@ func TestNewAtTheEdges(t *testing.T) {
 	for width := 1; width <= api.MaxWidth; width++ {
 		for bits := 1; bits <= api.MaxBits; bits++ {
 			c := api.Config{Bits: bits, Rows: 1 + bits%8, Width: width, Mode: 1 + width%3, Seed: uint64(width)}
-			first := bits
-			for count := 2; count <= width && first > 0; count *= 2 {
-				first--
-			}
+			first := configs.Exact(c)
 			var none []levels.Place
 			for level := first - 3; level < first; level++ {
 				none = append(none, levels.At(c, level))
 			}
-			kind().NoneMade(t, append(none, levels.At(c, -1), levels.At(c, bits+1)))
+			arrays.Kind().NoneMade(t, append(none, levels.At(c, -1), levels.At(c, bits+1)))
 			count := 1
 			for level := bits; level >= first; level-- {
 				levels.Hold(t, made(t, levels.At(c, level)), levels.At(c, level), make([]int64, count))
@@ -137,7 +107,7 @@ func TestNewNamed(t *testing.T) {
 		t.Run(x.name, func(t *testing.T) {
 			p := levels.At(x.c, x.level)
 			if x.keys == 0 {
-				kind().NoneMade(t, []levels.Place{p})
+				arrays.Kind().NoneMade(t, []levels.Place{p})
 				return
 			}
 			levels.Hold(t, made(t, p), p, make([]int64, x.keys))
@@ -148,8 +118,8 @@ func TestNewNamed(t *testing.T) {
 // What is updated, refused, loaded, told, copied, and put together, as each kind of level
 // has to do it.
 func TestTrials(t *testing.T) {
-	for _, x := range kind().Trials() {
-		t.Run(x.Name, func(t *testing.T) { x.Try(t, places()) })
+	for _, x := range arrays.Kind().Trials() {
+		t.Run(x.Name, func(t *testing.T) { x.Try(t, arrays.Places()) })
 	}
 }
 
@@ -182,7 +152,7 @@ func TestUpdateNamed(t *testing.T) {
 	} {
 		p := levels.At(api.Config{Bits: 5, Rows: 3, Width: 6, Mode: x.mode, Seed: 9}, 3)
 		want := []int64{7, -7, highest, lowest}
-		a := kind().Filled(p, want...)
+		a := arrays.Kind().Filled(p, want...)
 		if x.fails == api.OK {
 			want[x.key] = x.n
 		}
@@ -197,8 +167,8 @@ func TestUpdateNamed(t *testing.T) {
 
 // Each key of each level has its own number, in order, and no other has it.
 func TestEachKeyAlone(t *testing.T) {
-	for _, p := range places() {
-		a, want := made(t, p), kind().Full(p, 0)
+	for _, p := range arrays.Places() {
+		a, want := made(t, p), arrays.Kind().Full(p, 0)
 		for key := range want {
 			want[key] = int64(key + 1)
 			levels.HoldUpdate(t, a, uint64(key), want[key], api.OK, want)
@@ -229,13 +199,13 @@ func TestEdgesAtOneKey(t *testing.T) {
 	for _, mode := range configs.Modes() {
 		count[mode] = map[api.Errno]int{}
 	}
-	for _, p := range places() {
+	for _, p := range arrays.Places() {
 		mode := p.Config.Mode
 		for _, key := range configs.Within(configs.Count(p.Config.Bits, p.Level)) {
 			for _, x := range levels.Edges() {
-				before := kind().Full(p, highest, lowest, -x.N)
+				before := arrays.Kind().Full(p, highest, lowest, -x.N)
 				before[key] = x.N
-				a, want := kind().Filled(p, before...), slices.Clone(before)
+				a, want := arrays.Kind().Filled(p, before...), slices.Clone(before)
 				n, fails := after(mode, x.N, x.D)
 				want[key] = n
 				levels.HoldUpdate(t, a, key, x.D, fails, want)
@@ -254,8 +224,8 @@ func TestEdgesAtOneKey(t *testing.T) {
 // Updates of strewn keys, one behind another, of which some are refused.
 func TestUpdateOfAll(t *testing.T) {
 	count := map[api.Errno]int{}
-	for i, p := range places() {
-		a, want := made(t, p), kind().Full(p, 0)
+	for i, p := range arrays.Places() {
+		a, want := made(t, p), arrays.Kind().Full(p, 0)
 		keys := strewn.Numbers(60)
 		for turn, d := range strewn.Signed(i, 60, uint(i%6)) {
 			// Of twice as many keys as there are.
@@ -273,9 +243,9 @@ func TestUpdateOfAll(t *testing.T) {
 }
 
 func TestPointOfAll(t *testing.T) {
-	for i, p := range places() {
-		cells := kind().Strewn(p, i, uint(i%20))
-		a := kind().Filled(p, cells...)
+	for i, p := range arrays.Places() {
+		cells := arrays.Kind().Strewn(p, i, uint(i%20))
+		a := arrays.Kind().Filled(p, cells...)
 		for key, n := range cells {
 			levels.HoldPoint(t, a, uint64(key), n, api.OK)
 		}
@@ -285,7 +255,7 @@ func TestPointOfAll(t *testing.T) {
 func TestLoadNamed(t *testing.T) {
 	for _, mode := range configs.Modes() {
 		p := levels.At(api.Config{Bits: 5, Rows: 3, Width: 6, Mode: mode, Seed: 9}, 3)
-		a := kind().Filled(p, 1, -2, highest, lowest)
+		a := arrays.Kind().Filled(p, 1, -2, highest, lowest)
 		// As many as there are columns, as in a grid of all rows, and as all keys.
 		for _, count := range []int{0, 1, 3, 5, 6, 8, 12, 18, 32} {
 			if a.Load(make([]int64, count)) {
@@ -309,19 +279,19 @@ func TestJoinedNamed(t *testing.T) {
 	for _, mode := range configs.Modes() {
 		p := levels.At(api.Config{Bits: 5, Rows: 3, Width: 6, Mode: mode, Seed: 9}, 3)
 		a, b := []int64{1, 2, 3, 4}, []int64{10, -20, 30, -40}
-		kind().HoldJoined(t, p, a, b, []int64{11, -18, 33, -36}, []int64{-9, 22, -27, 44})
-		kind().HoldJoined(t, p, b, a, []int64{11, -18, 33, -36}, []int64{9, -22, 27, -44})
+		arrays.Kind().HoldJoined(t, p, a, b, []int64{11, -18, 33, -36}, []int64{-9, 22, -27, 44})
+		arrays.Kind().HoldJoined(t, p, b, a, []int64{11, -18, 33, -36}, []int64{9, -22, 27, -44})
 		a, b = []int64{highest, lowest, 0, -1}, []int64{0, 0, highest, lowest + 1}
-		kind().HoldJoined(t, p, a, b, []int64{highest, lowest, highest, lowest}, []int64{highest, lowest, -highest, highest - 1})
+		arrays.Kind().HoldJoined(t, p, a, b, []int64{highest, lowest, highest, lowest}, []int64{highest, lowest, -highest, highest - 1})
 		// One sum, or one difference, just does not fit, at the first key or the last.
 		a, b = []int64{highest, 1, 2, 3}, []int64{1, 1, 1, 1}
-		kind().HoldJoined(t, p, a, b, nil, []int64{highest - 1, 0, 1, 2})
+		arrays.Kind().HoldJoined(t, p, a, b, nil, []int64{highest - 1, 0, 1, 2})
 		a = []int64{1, 2, 3, lowest}
-		kind().HoldJoined(t, p, a, b, []int64{2, 3, 4, lowest + 1}, nil)
+		arrays.Kind().HoldJoined(t, p, a, b, []int64{2, 3, 4, lowest + 1}, nil)
 		a, b = []int64{0, 0, 0, -1}, []int64{1, 1, 1, lowest}
-		kind().HoldJoined(t, p, a, b, nil, []int64{-1, -1, -1, highest})
+		arrays.Kind().HoldJoined(t, p, a, b, nil, []int64{-1, -1, -1, highest})
 		a, b = []int64{0, 5, 5, 5}, []int64{lowest, 1, 1, 1}
-		kind().HoldJoined(t, p, a, b, []int64{lowest, 6, 6, 6}, nil)
+		arrays.Kind().HoldJoined(t, p, a, b, []int64{lowest, 6, 6, 6}, nil)
 	}
 }
 
@@ -345,7 +315,7 @@ func TestIncompatibleNamed(t *testing.T) {
 			{"another mode", levels.At(api.Config{Bits: 5, Rows: 3, Width: 6, Mode: other, Seed: 9}, 3), false},
 			{"another seed", levels.At(api.Config{Bits: 5, Rows: 3, Width: 6, Mode: mode, Seed: 8}, 3), false},
 		} {
-			a, b := kind().Filled(levels.At(c, 3), 1, 2, 3, 4), kind().Filled(x.p, kind().Full(x.p, 5)...)
+			a, b := arrays.Kind().Filled(levels.At(c, 3), 1, 2, 3, 4), arrays.Kind().Filled(x.p, arrays.Kind().Full(x.p, 5)...)
 			fails, want := api.ErrIncompatible, []int64{1, 2, 3, 4}
 			if x.fits {
 				fails, want = api.OK, []int64{6, 7, 8, 9}
@@ -363,25 +333,16 @@ func TestIncompatibleNamed(t *testing.T) {
 				t.Errorf("%s: Subtract: %v, not %v", x.name, e, fails)
 			}
 			levels.Hold(t, a, levels.At(c, 3), want)
-			levels.Hold(t, b, x.p, kind().Full(x.p, 5))
+			levels.Hold(t, b, x.p, arrays.Kind().Full(x.p, 5))
 		}
 	}
 }
 
-// updates tells updates of the place's keys that its mode takes.
-func updates(from int, p levels.Place) []api.Update {
-	keys := configs.Count(p.Config.Bits, p.Level)
-	if p.Config.Mode == api.Conservative {
-		return levels.Rises(from, keys)
-	}
-	return levels.Updates(from, keys)
-}
-
 // The chapter's section "What follows": each key has just what was added to it.
 func TestWhatFollows(t *testing.T) {
-	for i, p := range places() {
-		all := updates(i, p)
-		a := kind().Fed(p, all)
+	for i, p := range arrays.Places() {
+		all := levels.Taken(i, p)
+		a := arrays.Kind().Fed(p, all)
 		want := levels.Sums(configs.Count(p.Config.Bits, p.Level), all)
 		levels.Hold(t, a, p, want)
 		for key, n := range want {
@@ -392,10 +353,10 @@ func TestWhatFollows(t *testing.T) {
 
 // A merged array is the one that was fed all that both were, and one is taken away again.
 func TestFedTogether(t *testing.T) {
-	for i, p := range places() {
-		first, second := updates(i, p), updates(i+20, p)
-		a, b := kind().Fed(p, first), kind().Fed(p, second)
-		alone, both := a.Cells(), kind().Fed(p, slices.Concat(second, first))
+	for i, p := range arrays.Places() {
+		first, second := levels.Taken(i, p), levels.Taken(i+20, p)
+		a, b := arrays.Kind().Fed(p, first), arrays.Kind().Fed(p, second)
+		alone, both := a.Cells(), arrays.Kind().Fed(p, slices.Concat(second, first))
 		if e := a.Merge(b); e != api.OK {
 			t.Errorf("Merge in %v: %v", p, e)
 		}

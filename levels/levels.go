@@ -7,6 +7,7 @@ import (
 	"slices"
 
 	"gauger/api"
+	"gauger/configs"
 	"gauger/strewn"
 )
 
@@ -127,6 +128,15 @@ func Rises(from int, keys uint64) []api.Update {
 		all[i].Delta &= 1<<54 - 1
 	}
 	return all
+}
+
+// Taken tells strewn updates of the place's keys that its mode takes.
+func Taken(from int, p Place) []api.Update {
+	keys := configs.Count(p.Config.Bits, p.Level)
+	if p.Config.Mode == api.Conservative {
+		return Rises(from, keys)
+	}
+	return Updates(from, keys)
 }
 
 // Sums tells what each of so many keys has by the updates.

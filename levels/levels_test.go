@@ -108,6 +108,21 @@ func TestUpdatesAndRises(t *testing.T) {
 	}
 }
 
+func TestTaken(t *testing.T) {
+	for _, mode := range configs.Modes() {
+		for _, level := range []int{0, 1, 59} {
+			p := levels.At(api.Config{Bits: 59, Rows: 1, Width: 1, Mode: mode}, level)
+			want := levels.Updates(7, configs.Count(59, level))
+			if mode == api.Conservative {
+				want = levels.Rises(7, configs.Count(59, level))
+			}
+			if got := levels.Taken(7, p); !slices.Equal(got, want) {
+				t.Errorf("in %v is taken %v, not %v", p, got, want)
+			}
+		}
+	}
+}
+
 func TestSums(t *testing.T) {
 	all := []api.Update{{Key: 3, Delta: 5}, {Key: 0, Delta: -2}, {Key: 3, Delta: 7}}
 	if got := levels.Sums(4, all); !slices.Equal(got, []int64{-2, 0, 0, 12}) {
