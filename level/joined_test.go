@@ -7,6 +7,7 @@ import (
 
 	"gauger/api"
 	"gauger/configs"
+	"gauger/either"
 	"gauger/inner"
 	"gauger/level"
 	"gauger/levels"
@@ -32,7 +33,7 @@ func tells(l level.Level) told {
 	if l == nil {
 		return told{is: "nil"}
 	}
-	return told{is: what(l), place: levels.At(l.Config(), l.Level()), cells: l.Cells()}
+	return told{is: either.What(l), place: levels.At(l.Config(), l.Level()), cells: l.Cells()}
 }
 
 // holdTold holds what the level tells of itself against what it told.
@@ -88,15 +89,15 @@ func turns() [][]int64 {
 // A sketch and an array: of unlike levels of a config, and of the same one, which is exact.
 func TestOneOfEach(t *testing.T) {
 	unlike := 0
-	for _, p := range places() {
+	for _, p := range either.Places() {
 		for _, row := range turns() {
 			first := configs.Exact(p.Config)
-			if kindOf(p) == "an array" {
-				holdIncompatible(t, full(p, row...), shared(p, row...))
+			if either.KindOf(p) == either.Array {
+				holdIncompatible(t, either.Full(p, row...), shared(p, row...))
 				continue
 			}
 			for _, at := range []int{first, p.Config.Bits} {
-				holdIncompatible(t, full(p, row...), full(levels.At(p.Config, at), row...))
+				holdIncompatible(t, either.Full(p, row...), either.Full(levels.At(p.Config, at), row...))
 				unlike++
 			}
 		}
@@ -109,8 +110,8 @@ func TestOneOfEach(t *testing.T) {
 // Nil, and levels of other kinds: on either side, and on both.
 func TestOfNone(t *testing.T) {
 	holdIncompatible(t, nil, nil)
-	for _, p := range places() {
-		for _, l := range []level.Level{full(p, 7), shared(p, 7), full(p, lowest), shared(p, lowest)} {
+	for _, p := range either.Places() {
+		for _, l := range []level.Level{either.Full(p, 7), shared(p, 7), either.Full(p, lowest), shared(p, lowest)} {
 			for _, o := range others(p) {
 				holdIncompatible(t, l, o)
 			}
@@ -126,17 +127,17 @@ func TestOfNone(t *testing.T) {
 // Levels of the same kind: of configs unlike in one field each, and of unlike levels.
 func TestIncompatible(t *testing.T) {
 	alike := map[string]int{}
-	for i, p := range places() {
+	for i, p := range either.Places() {
 		row := turns()[i%len(turns())]
 		for _, other := range levels.Others(p) {
-			if kindOf(other) == kindOf(p) {
-				holdIncompatible(t, full(p, row...), full(other, row...))
-				alike[kindOf(p)]++
+			if either.KindOf(other) == either.KindOf(p) {
+				holdIncompatible(t, either.Full(p, row...), either.Full(other, row...))
+				alike[either.KindOf(p)]++
 			}
 			holdIncompatible(t, shared(p, row...), shared(other, row...))
 		}
 	}
-	if alike["a sketch"] < 1000 || alike["an array"] < 1000 {
+	if alike[either.Sketch] < 1000 || alike[either.Array] < 1000 {
 		t.Errorf("too few pairs of the same kind: %v", alike)
 	}
 }
@@ -155,15 +156,15 @@ func TestJoinedNamed(t *testing.T) {
 	for _, mode := range configs.Modes() {
 		for _, p := range fours(mode) {
 			a, b := []int64{1, 2, 3, 4}, []int64{10, -20, 30, -40}
-			kind().HoldJoined(t, p, a, b, []int64{11, -18, 33, -36}, []int64{-9, 22, -27, 44})
-			kind().HoldJoined(t, p, b, a, []int64{11, -18, 33, -36}, []int64{9, -22, 27, -44})
+			either.Kind().HoldJoined(t, p, a, b, []int64{11, -18, 33, -36}, []int64{-9, 22, -27, 44})
+			either.Kind().HoldJoined(t, p, b, a, []int64{11, -18, 33, -36}, []int64{9, -22, 27, -44})
 			// The last ones that fit, and one that just does not, at the first cell and the last.
 			a, b = []int64{highest, lowest, 0, -1}, []int64{0, 0, highest, lowest + 1}
-			kind().HoldJoined(t, p, a, b, []int64{highest, lowest, highest, lowest}, []int64{highest, lowest, -highest, highest - 1})
+			either.Kind().HoldJoined(t, p, a, b, []int64{highest, lowest, highest, lowest}, []int64{highest, lowest, -highest, highest - 1})
 			a, b = []int64{highest, 1, 2, 3}, []int64{1, 1, 1, 1}
-			kind().HoldJoined(t, p, a, b, nil, []int64{highest - 1, 0, 1, 2})
+			either.Kind().HoldJoined(t, p, a, b, nil, []int64{highest - 1, 0, 1, 2})
 			a = []int64{1, 2, 3, lowest}
-			kind().HoldJoined(t, p, a, b, []int64{2, 3, 4, lowest + 1}, nil)
+			either.Kind().HoldJoined(t, p, a, b, []int64{2, 3, 4, lowest + 1}, nil)
 		}
 	}
 }
@@ -181,7 +182,7 @@ func TestSketchesOfExactLevels(t *testing.T) {
 		if e := level.Merge(a, b); e != api.OK {
 			t.Errorf("Merge: %v", e)
 		}
-		hold(t, a, "a sketch", p, []int64{6, 8, 10, 12})
+		hold(t, a, either.Sketch, p, []int64{6, 8, 10, 12})
 		if mode == api.Conservative {
 			holdOne(t, "Subtract", level.Subtract, a, b, api.ErrMode)
 			continue
@@ -189,7 +190,7 @@ func TestSketchesOfExactLevels(t *testing.T) {
 		if e := level.Subtract(a, b); e != api.OK {
 			t.Errorf("Subtract: %v", e)
 		}
-		hold(t, a, "a sketch", p, []int64{1, 2, 3, 4})
+		hold(t, a, either.Sketch, p, []int64{1, 2, 3, 4})
 	}
 }
 
@@ -227,7 +228,7 @@ func TestInnerNamed(t *testing.T) {
 			levels.At(api.Config{Bits: 6, Rows: 1, Width: 128, Mode: api.Linear, Seed: 5}, 4),
 			levels.At(api.Config{Bits: 6, Rows: 1, Width: 4, Mode: api.Linear, Seed: 5}, 3),
 		} {
-			holdInner(t, filled(p, x.a...), filled(p, x.b...), x.want, x.fails)
+			holdInner(t, either.Filled(p, x.a...), either.Filled(p, x.b...), x.want, x.fails)
 		}
 	}
 }
@@ -247,14 +248,14 @@ func TestInnerOfRows(t *testing.T) {
 		{[]int64{0, lowest, lowest, 0}, []int64{0, lowest, lowest, 0}, api.Wide{Hi: 1 << 62}, api.OK},
 	} {
 		p := levels.At(api.Config{Bits: 6, Rows: 2, Width: 2, Mode: api.Linear, Seed: 5}, 4)
-		holdInner(t, filled(p, x.a...), filled(p, x.b...), x.want, x.fails)
+		holdInner(t, either.Filled(p, x.a...), either.Filled(p, x.b...), x.want, x.fails)
 	}
 }
 
 // product tells what Inner has to tell of two levels of a place with these cells, by the
 // layer of their kind.
 func product(p levels.Place, a, b []int64) (api.Wide, api.Errno) {
-	if kindOf(p) == "a sketch" {
+	if either.KindOf(p) == either.Sketch {
 		return inner.Inner(sketches.Kind().Filled(p, a...), sketches.Kind().Filled(p, b...))
 	}
 	if p.Config.Mode != api.Linear {
@@ -269,17 +270,17 @@ func product(p levels.Place, a, b []int64) (api.Wide, api.Errno) {
 // Strewn cells at each place, in each mode, of which some do not fit; two levels may be
 // the same one.
 func TestInnerOfAll(t *testing.T) {
-	count := map[string]map[api.Errno]int{"a sketch": {}, "an array": {}}
-	for i, p := range places() {
+	count := map[string]map[api.Errno]int{either.Sketch: {}, either.Array: {}}
+	for i, p := range either.Places() {
 		for _, shift := range []uint{0, 1, 7} {
-			a, b := kind().Strewn(p, i, shift), kind().Strewn(p, i+31, shift/2)
+			a, b := either.Kind().Strewn(p, i, shift), either.Kind().Strewn(p, i+31, shift/2)
 			want, fails := product(p, a, b)
-			holdInner(t, filled(p, a...), filled(p, b...), want, fails)
-			l := filled(p, a...)
+			holdInner(t, either.Filled(p, a...), either.Filled(p, b...), want, fails)
+			l := either.Filled(p, a...)
 			want, fails = product(p, a, a)
 			holdInner(t, l, l, want, fails)
 			holdInner(t, l, level.Copy(l), want, fails)
-			count[kindOf(p)][fails]++
+			count[either.KindOf(p)][fails]++
 		}
 	}
 	for is, all := range count {
@@ -292,18 +293,18 @@ func TestInnerOfAll(t *testing.T) {
 // Each cell of an array has its part in the product, at its own place, be it in the first
 // or in the second one.
 func TestInnerOfEachKey(t *testing.T) {
-	for _, p := range places() {
-		if kindOf(p) == "a sketch" || p.Config.Mode != api.Linear {
+	for _, p := range either.Places() {
+		if either.KindOf(p) == either.Sketch || p.Config.Mode != api.Linear {
 			continue
 		}
-		b := kind().Full(p, 0)
+		b := either.Kind().Full(p, 0)
 		for key := range b {
 			b[key] = int64(key + 2)
 		}
 		for key := range b {
-			a := kind().Full(p, 0)
+			a := either.Kind().Full(p, 0)
 			a[key] = 3
-			holdInner(t, filled(p, a...), filled(p, b...), wide.Of(3*b[key]), api.OK)
+			holdInner(t, either.Filled(p, a...), either.Filled(p, b...), wide.Of(3*b[key]), api.OK)
 		}
 	}
 }
@@ -316,9 +317,9 @@ func TestErrorsInTheirOrder(t *testing.T) {
 			other := p
 			other.Config.Seed++
 			for _, n := range []int64{3, lowest} {
-				l, same, unlike := full(p, n), full(p, n), full(other, n)
+				l, same, unlike := either.Full(p, n), either.Full(p, n), either.Full(other, n)
 				holdIncompatible(t, l, unlike)
-				holdIncompatible(t, l, full(fours(mode)[(i+2)%4], n))
+				holdIncompatible(t, l, either.Full(fours(mode)[(i+2)%4], n))
 				want, fails := product(p, l.Cells(), same.Cells())
 				if (fails == api.ErrMode) != (mode != api.Linear) {
 					t.Errorf("the product of %v is %v, %v", p, want, fails)
@@ -329,9 +330,9 @@ func TestErrorsInTheirOrder(t *testing.T) {
 				}
 				if mode == api.Conservative {
 					holdOne(t, "Subtract", level.Subtract, l, same, api.ErrMode)
-					holdOne(t, "Subtract", level.Subtract, l, full(p, 1), api.ErrMode)
+					holdOne(t, "Subtract", level.Subtract, l, either.Full(p, 1), api.ErrMode)
 				} else if n == lowest {
-					holdOne(t, "Subtract", level.Subtract, l, full(p, 1), api.ErrOverflow)
+					holdOne(t, "Subtract", level.Subtract, l, either.Full(p, 1), api.ErrOverflow)
 				}
 			}
 		}
@@ -344,7 +345,7 @@ func TestInnerKeepsNothing(t *testing.T) {
 		levels.At(api.Config{Bits: 2, Rows: 3, Width: 2, Mode: api.Linear, Seed: 5}, 1),
 		levels.At(api.Config{Bits: 6, Rows: 1, Width: 2, Mode: api.Linear, Seed: 5}, 0),
 	} {
-		l, o := filled(p, 3, 4), filled(p, 5, 6)
+		l, o := either.Filled(p, 3, 4), either.Filled(p, 5, 6)
 		holdInner(t, l, o, wide.Of(39), api.OK)
 		if !l.Load([]int64{1, 0}) {
 			t.Errorf("%v is not loaded", p)
@@ -360,8 +361,8 @@ func TestInnerKeepsNothing(t *testing.T) {
 // The chapter's section "What follows": of two arrays Inner is the sum of the products of
 // what the same keys have.
 func TestWhatFollows(t *testing.T) {
-	for i, p := range places() {
-		if kindOf(p) == "a sketch" || p.Config.Mode != api.Linear {
+	for i, p := range either.Places() {
+		if either.KindOf(p) == either.Sketch || p.Config.Mode != api.Linear {
 			continue
 		}
 		first, second := levels.Taken(i, p), levels.Taken(i+20, p)
@@ -370,6 +371,6 @@ func TestWhatFollows(t *testing.T) {
 		for key, n := range has {
 			want, _ = wide.Add(want, wide.Times(n, have[key]))
 		}
-		holdInner(t, kind().Fed(p, first).held, kind().Fed(p, second).held, want, api.OK)
+		holdInner(t, either.Kind().Fed(p, first).Held, either.Kind().Fed(p, second).Held, want, api.OK)
 	}
 }

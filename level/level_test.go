@@ -8,7 +8,7 @@ import (
 	"gauger/api"
 	"gauger/arrays"
 	"gauger/configs"
-	"gauger/exact"
+	"gauger/either"
 	"gauger/level"
 	"gauger/levels"
 	"gauger/shape"
@@ -27,88 +27,19 @@ var (
 	_ levels.Level = level.Level(nil)
 )
 
-// held is a level by another name, as one that is embedded as Level would hide its call.
-type held = level.Level
-
-// either is a level of either kind, with what is done to levels as calls of its own. It
-// has all calls of a level, but is one of another kind.
-type either struct{ held }
-
-func (l either) Copy() either { return either{level.Copy(l.held)} }
-
-func (l either) Merge(o either) api.Errno { return level.Merge(l.held, o.held) }
-
-func (l either) Subtract(o either) api.Errno { return level.Subtract(l.held, o.held) }
-
-// kind tells the kind of level that either of both is, for its trials.
-func kind() levels.Kind[either] {
-	count := func(c api.Config, at int) int {
-		if at < configs.Exact(c) {
-			return sketches.Kind().Count(c, at)
-		}
-		return arrays.Kind().Count(c, at)
-	}
-	made := func(c api.Config, at int) (either, api.Errno) {
-		l, e := level.New(c, at)
-		return either{l}, e
-	}
-	return levels.Kind[either]{New: made, Count: count}
-}
-
-// filled tells the level of a place, with these cells.
-func filled(p levels.Place, l ...int64) level.Level {
-	return kind().Filled(p, l...).held
-}
-
-// full tells the level of a place, with these numbers in its cells, by turns.
-func full(p levels.Place, turns ...int64) level.Level {
-	return filled(p, kind().Full(p, turns...)...)
-}
-
 // shared tells the sketch of a place, be it exact or not, with these numbers in its cells,
 // by turns.
 func shared(p levels.Place, turns ...int64) level.Level {
 	return sketches.Kind().Filled(p, sketches.Kind().Full(p, turns...)...)
 }
 
-// places tells the levels of configs of each mode and size, be they exact or not.
-func places() []levels.Place {
-	_, other := arrays.Parted(append(sketches.Configs(), sketches.Small()...))
-	return append(arrays.Places(), other...)
-}
-
-// what tells what a level is.
-func what(l level.Level) string {
-	switch x := l.(type) {
-	case nil:
-		return "nil"
-	case *sketch.Sketch:
-		if x != nil {
-			return "a sketch"
-		}
-	case *exact.Array:
-		if x != nil {
-			return "an array"
-		}
-	}
-	return "none of both"
-}
-
 // hold holds what a level is, and tells of itself, against what is wanted.
 func hold(t *testing.T, l level.Level, is string, p levels.Place, want []int64) {
 	t.Helper()
-	if got := what(l); got != is {
+	if got := either.What(l); got != is {
 		t.Fatalf("of %v there is %s, not %s", p, got, is)
 	}
 	levels.Hold(t, l, p, want)
-}
-
-// kindOf tells what New has to make of a place, by the words of chapter 7.
-func kindOf(p levels.Place) string {
-	if p.Level < configs.Exact(p.Config) {
-		return "a sketch"
-	}
-	return "an array"
 }
 
 // holdNew holds New of a place against what is wanted, with noughts in as many cells.
@@ -126,9 +57,9 @@ func TestExample(t *testing.T) {
 	for _, mode := range configs.Modes() {
 		for rows := 1; rows <= api.MaxRows; rows++ {
 			c := api.Config{Bits: 2, Rows: rows, Width: 2, Mode: mode, Seed: 5}
-			holdNew(t, levels.At(c, 0), "a sketch", 2*rows)
-			holdNew(t, levels.At(c, 1), "an array", 2)
-			holdNew(t, levels.At(c, 2), "an array", 1)
+			holdNew(t, levels.At(c, 0), either.Sketch, 2*rows)
+			holdNew(t, levels.At(c, 1), either.Array, 2)
+			holdNew(t, levels.At(c, 2), either.Array, 1)
 		}
 	}
 }
@@ -138,11 +69,11 @@ func TestNew(t *testing.T) {
 	for _, c := range configs.Right() {
 		for _, at := range configs.Levels(c.Bits) {
 			p := levels.At(c, at)
-			holdNew(t, p, kindOf(p), kind().Count(c, at))
-			count[kindOf(p)]++
+			holdNew(t, p, either.KindOf(p), either.Kind().Count(c, at))
+			count[either.KindOf(p)]++
 		}
 	}
-	if count["a sketch"] < 1000 || count["an array"] < 1000 {
+	if count[either.Sketch] < 1000 || count[either.Array] < 1000 {
 		t.Errorf("too few levels that are exact, or are not: %v", count)
 	}
 }
@@ -155,13 +86,13 @@ func TestNewAtTheEdges(t *testing.T) {
 			c := api.Config{Bits: bits, Rows: 1 + bits%8, Width: width, Mode: 1 + width%3, Seed: uint64(width)}
 			first := configs.Exact(c)
 			for _, at := range []int{first, bits} {
-				holdNew(t, levels.At(c, at), "an array", 1<<(bits-at))
+				holdNew(t, levels.At(c, at), either.Array, 1<<(bits-at))
 			}
 			if first > 0 {
-				holdNew(t, levels.At(c, first-1), "a sketch", c.Rows*width)
-				holdNew(t, levels.At(c, 0), "a sketch", c.Rows*width)
+				holdNew(t, levels.At(c, first-1), either.Sketch, c.Rows*width)
+				holdNew(t, levels.At(c, 0), either.Sketch, c.Rows*width)
 			}
-			kind().NoneMade(t, []levels.Place{levels.At(c, -1), levels.At(c, bits+1)})
+			either.Kind().NoneMade(t, []levels.Place{levels.At(c, -1), levels.At(c, bits+1)})
 		}
 	}
 }
@@ -175,17 +106,17 @@ func TestNewNamed(t *testing.T) {
 		is    string
 		cells int
 	}{
-		{"the lowest level, exact", api.Config{Bits: 3, Rows: 2, Width: 8, Mode: linear}, 0, "an array", 8},
-		{"the lowest level, a column too few", api.Config{Bits: 3, Rows: 2, Width: 7, Mode: linear}, 0, "a sketch", 14},
-		{"above it", api.Config{Bits: 3, Rows: 2, Width: 7, Mode: conservative}, 1, "an array", 4},
-		{"the highest level", api.Config{Bits: 3, Rows: 2, Width: 1, Mode: median}, 3, "an array", 1},
-		{"below it", api.Config{Bits: 3, Rows: 2, Width: 1, Mode: median}, 2, "a sketch", 2},
+		{"the lowest level, exact", api.Config{Bits: 3, Rows: 2, Width: 8, Mode: linear}, 0, either.Array, 8},
+		{"the lowest level, a column too few", api.Config{Bits: 3, Rows: 2, Width: 7, Mode: linear}, 0, either.Sketch, 14},
+		{"above it", api.Config{Bits: 3, Rows: 2, Width: 7, Mode: conservative}, 1, either.Array, 4},
+		{"the highest level", api.Config{Bits: 3, Rows: 2, Width: 1, Mode: median}, 3, either.Array, 1},
+		{"below it", api.Config{Bits: 3, Rows: 2, Width: 1, Mode: median}, 2, either.Sketch, 2},
 		{"one beyond", api.Config{Bits: 3, Rows: 2, Width: 8, Mode: median}, 4, "nil", 0},
 		{"one below", api.Config{Bits: 3, Rows: 2, Width: 8, Mode: median}, -1, "nil", 0},
-		{"far up, exact", api.Config{Bits: 59, Rows: 8, Width: 128, Mode: conservative}, 52, "an array", 128},
-		{"far up, not exact", api.Config{Bits: 59, Rows: 8, Width: 128, Mode: conservative}, 51, "a sketch", 1024},
-		{"as many keys as there may be", api.Config{Bits: 59, Rows: 8, Width: 128, Mode: linear}, 0, "a sketch", 1024},
-		{"the highest level of all", api.Config{Bits: 59, Rows: 8, Width: 128, Mode: linear}, 59, "an array", 1},
+		{"far up, exact", api.Config{Bits: 59, Rows: 8, Width: 128, Mode: conservative}, 52, either.Array, 128},
+		{"far up, not exact", api.Config{Bits: 59, Rows: 8, Width: 128, Mode: conservative}, 51, either.Sketch, 1024},
+		{"as many keys as there may be", api.Config{Bits: 59, Rows: 8, Width: 128, Mode: linear}, 0, either.Sketch, 1024},
+		{"the highest level of all", api.Config{Bits: 59, Rows: 8, Width: 128, Mode: linear}, 59, either.Array, 1},
 		{"one beyond all", api.Config{Bits: 59, Rows: 8, Width: 128, Mode: linear}, 60, "nil", 0},
 		{"the empty config", api.Config{}, 0, "nil", 0},
 		{"no bits", api.Config{Rows: 2, Width: 8, Mode: linear}, 0, "nil", 0},
@@ -206,7 +137,7 @@ func TestNewNamed(t *testing.T) {
 		t.Run(x.name, func(t *testing.T) {
 			p := levels.At(x.c, x.level)
 			if x.is == "nil" {
-				kind().NoneMade(t, []levels.Place{p})
+				either.Kind().NoneMade(t, []levels.Place{p})
 				return
 			}
 			holdNew(t, p, x.is, x.cells)
@@ -217,7 +148,7 @@ func TestNewNamed(t *testing.T) {
 // Configs that are not right in one of their fields, and levels that are not there: a
 // level that is told beside the error would not be nil, be it a pointer to none.
 func TestNewOfNone(t *testing.T) {
-	kind().NoneMade(t, levels.Nowhere())
+	either.Kind().NoneMade(t, levels.Nowhere())
 	if l, e := level.New(api.Config{}, 0); l != nil || e != api.ErrArg {
 		t.Errorf("New of nothing: %v, %v", l, e)
 	}
@@ -226,8 +157,8 @@ func TestNewOfNone(t *testing.T) {
 // What is updated, refused, loaded, told, copied, and put together, as each kind of level
 // has to do it.
 func TestTrials(t *testing.T) {
-	for _, x := range kind().Trials() {
-		t.Run(x.Name, func(t *testing.T) { x.Try(t, places()) })
+	for _, x := range either.Kind().Trials() {
+		t.Run(x.Name, func(t *testing.T) { x.Try(t, either.Places()) })
 	}
 }
 
@@ -242,8 +173,8 @@ func lower(t *testing.T, p levels.Place) levels.Level {
 
 // A level does what the layer of its kind does, update by update.
 func TestAsItsKind(t *testing.T) {
-	for i, p := range places() {
-		l, o := full(p, 0), lower(t, p)
+	for i, p := range either.Places() {
+		l, o := either.Full(p, 0), lower(t, p)
 		for turn, u := range levels.Updates(i, 2*configs.Count(p.Config.Bits, p.Level)) {
 			// Some that do not fit, and some keys that are not there.
 			if turn%9 == 0 {
@@ -260,13 +191,13 @@ func TestAsItsKind(t *testing.T) {
 // Cells that were told, loaded into a level of the same config, make it the same: with
 // what is told of keys, and taken further on.
 func TestLoadedIsTheSame(t *testing.T) {
-	for i, p := range places() {
-		l, o := kind().Fed(p, levels.Taken(i, p)), full(p, 0)
+	for i, p := range either.Places() {
+		l, o := either.Kind().Fed(p, levels.Taken(i, p)), either.Full(p, 0)
 		cells := l.Cells()
 		if !o.Load(cells) {
 			t.Errorf("the cells of %v are not loaded", p)
 		}
-		hold(t, o, kindOf(p), p, cells)
+		hold(t, o, either.KindOf(p), p, cells)
 		for _, key := range configs.Within(configs.Count(p.Config.Bits, p.Level)) {
 			n, fails := l.Point(key)
 			levels.HoldPoint(t, o, key, n, fails)
@@ -279,14 +210,14 @@ func TestLoadedIsTheSame(t *testing.T) {
 // others tells levels that are neither sketches nor arrays, with 7 in each cell, and none
 // at all.
 func others(p levels.Place) map[string]level.Level {
-	return map[string]level.Level{"nil": nil, "another kind": either{full(p, 7)}, "a pointer to it": &either{full(p, 7)}}
+	return map[string]level.Level{"nil": nil, "another kind": either.Level{Held: either.Full(p, 7)}, "a pointer to it": &either.Level{Held: either.Full(p, 7)}}
 }
 
 // A copy is of the kind that was copied, and another one; sketches of exact levels are
 // sketches.
 func TestCopy(t *testing.T) {
-	for _, p := range places() {
-		for is, l := range map[string]level.Level{kindOf(p): full(p, 4, -3), "a sketch": shared(p, 4, -3)} {
+	for _, p := range either.Places() {
+		for is, l := range map[string]level.Level{either.KindOf(p): either.Full(p, 4, -3), either.Sketch: shared(p, 4, -3)} {
 			copied, cells := level.Copy(l), l.Cells()
 			hold(t, copied, is, p, cells)
 			if copied == l {
@@ -301,7 +232,7 @@ func TestCopy(t *testing.T) {
 }
 
 func TestCopyOfNone(t *testing.T) {
-	for _, p := range places() {
+	for _, p := range either.Places() {
 		for name, l := range others(p) {
 			if copied := level.Copy(l); copied != nil {
 				t.Errorf("the copy of %s is %v", name, copied)
@@ -346,20 +277,20 @@ func holdSketch(t *testing.T, l level.Level, want *sketch.Sketch) {
 // it is done to the level.
 func TestAsSketch(t *testing.T) {
 	count := map[bool]int{}
-	for _, p := range places() {
-		l := full(p, 4, -3)
+	for _, p := range either.Places() {
+		l := either.Full(p, 4, -3)
 		cells := l.Cells()
-		if kindOf(p) == "an array" {
-			holdNoSketch(t, "an array", l)
-			hold(t, l, "an array", p, cells)
+		if either.KindOf(p) == either.Array {
+			holdNoSketch(t, either.Array, l)
+			hold(t, l, either.Array, p, cells)
 		} else {
 			s, _ := level.AsSketch(l)
 			holdSketch(t, l, s)
-			hold(t, l, "a sketch", p, cells)
+			hold(t, l, either.Sketch, p, cells)
 			if fails := s.Update(0, 5); fails != api.OK {
 				t.Errorf("Update in %v: %v", p, fails)
 			}
-			hold(t, l, "a sketch", p, s.Cells())
+			hold(t, l, either.Sketch, p, s.Cells())
 			if slices.Equal(l.Cells(), cells) {
 				t.Errorf("%v was updated, but its cells are still %v", p, cells)
 			}
@@ -373,7 +304,7 @@ func TestAsSketch(t *testing.T) {
 
 // A sketch is one, whoever made it, be its level exact or not; a copy is another one.
 func TestAsSketchOfSketches(t *testing.T) {
-	for _, p := range places() {
+	for _, p := range either.Places() {
 		s := sketches.Kind().Fed(p, nil)
 		holdSketch(t, s, s)
 		copied := level.Copy(s)
@@ -384,7 +315,7 @@ func TestAsSketchOfSketches(t *testing.T) {
 }
 
 func TestAsSketchOfNone(t *testing.T) {
-	for _, p := range places() {
+	for _, p := range either.Places() {
 		for name, l := range others(p) {
 			holdNoSketch(t, name, l)
 		}
