@@ -123,6 +123,14 @@ func Count(bits, level int) uint64 {
 	return n
 }
 
+// Above tells, by halving, the key of the level to which the key of level 0 belongs.
+func Above(key uint64, level int) uint64 {
+	for range level {
+		key /= 2
+	}
+	return key
+}
+
 // Exact tells the lowest level of a right config that has at most as many keys as there
 // are columns, by doubling; the levels above it have less.
 func Exact(c api.Config) int {

@@ -118,6 +118,21 @@ func TestLevels(t *testing.T) {
 	}
 }
 
+func TestAbove(t *testing.T) {
+	for _, x := range []struct {
+		key   uint64
+		level int
+		want  uint64
+	}{
+		{6, 0, 6}, {6, 1, 3}, {6, 2, 1}, {6, 3, 0}, {7, 1, 3}, {0, 5, 0},
+		{1<<59 - 1, 27, 1<<32 - 1}, {1<<59 - 1, 58, 1}, {1<<59 - 1, 59, 0}, {1 << 58, 58, 1},
+	} {
+		if got := configs.Above(x.key, x.level); got != x.want {
+			t.Errorf("%d belongs to %d at level %d, not to %d", x.key, got, x.level, x.want)
+		}
+	}
+}
+
 func TestExact(t *testing.T) {
 	for _, x := range []struct{ bits, width, want int }{
 		{3, 1, 3}, {3, 2, 2}, {3, 3, 2}, {3, 4, 1}, {3, 7, 1}, {3, 8, 0}, {3, 128, 0},

@@ -10,8 +10,8 @@ import (
 	"gauger/either"
 	"gauger/levels"
 	"gauger/shape"
-	"gauger/sketches"
 	"gauger/stack"
+	"gauger/stacks"
 	"gauger/strewn"
 )
 
@@ -19,33 +19,6 @@ const (
 	lowest  = math.MinInt64
 	highest = math.MaxInt64
 )
-
-// cells are the numbers of all levels' cells, from level 0 on.
-type cells [][]int64
-
-// full tells cells of all levels of the config, with these numbers by turns.
-func full(c api.Config, turns ...int64) cells {
-	var all cells
-	for _, n := range configs.Levels(c.Bits) {
-		all = append(all, either.Kind().Full(levels.At(c, n), turns...))
-	}
-	return all
-}
-
-// tried tells configs of each mode: some all of whose levels are exact, some of which the
-// highest one is alone, and some between.
-func tried() []api.Config {
-	return append(sketches.Configs(), sketches.Small()...)
-}
-
-// greatest tells the configs with the most cells, one of each mode.
-func greatest() []api.Config {
-	var all []api.Config
-	for _, mode := range configs.Modes() {
-		all = append(all, api.Config{Bits: api.MaxBits, Rows: api.MaxRows, Width: api.MaxWidth, Mode: mode, Seed: 77})
-	}
-	return all
-}
 
 // made tells the stack of a config that is right.
 func made(t *testing.T, c api.Config) *stack.Stack {
@@ -55,43 +28,6 @@ func made(t *testing.T, c api.Config) *stack.Stack {
 		t.Fatalf("New of %v: %v, %v", c, s, e)
 	}
 	return s
-}
-
-// filled tells the stack of a config, with these cells.
-func filled(t *testing.T, c api.Config, all cells) *stack.Stack {
-	t.Helper()
-	s := made(t, c)
-	for n, l := range all {
-		if !s.Load(n, l) {
-			t.Fatalf("%d numbers are not loaded into level %d of %v", len(l), n, c)
-		}
-	}
-	return s
-}
-
-// told tells the cells of all levels.
-func told(s *stack.Stack) cells {
-	var all cells
-	for _, n := range configs.Levels(s.Config().Bits) {
-		all = append(all, s.Cells(n))
-	}
-	return all
-}
-
-// holdCells holds the config, and the cells of all levels, against what is wanted.
-func holdCells(t *testing.T, s *stack.Stack, c api.Config, want cells) {
-	t.Helper()
-	if got := s.Config(); got != c {
-		t.Errorf("a stack of %v, not of %v", got, c)
-	}
-	for n, l := range want {
-		if got := s.Cells(n); !slices.Equal(got, l) {
-			t.Errorf("level %d of %v has %v, not %v", n, c, got, l)
-		}
-	}
-	if got := s.Total(); got != want[c.Bits][0] {
-		t.Errorf("the total of %v is %d, not %d", c, got, want[c.Bits][0])
-	}
 }
 
 // holdNoLevel holds that there is no such level.
@@ -109,9 +45,9 @@ func holdNoLevel(t *testing.T, s *stack.Stack, n int) {
 }
 
 // hold holds all that a stack tells of itself against what is wanted.
-func hold(t *testing.T, s *stack.Stack, c api.Config, want cells) {
+func hold(t *testing.T, s *stack.Stack, c api.Config, want stacks.Cells) {
 	t.Helper()
-	holdCells(t, s, c, want)
+	stacks.Hold(t, s, c, want)
 	for n, l := range want {
 		p := levels.At(c, n)
 		got, ok := s.At(n)
@@ -133,35 +69,27 @@ func holdPoint(t *testing.T, s *stack.Stack, p api.Piece, want int64, fails api.
 }
 
 // holdUpdate updates the key by d, and holds the cells behind it against what is wanted.
-func holdUpdate(t *testing.T, s *stack.Stack, key uint64, d int64, fails api.Errno, want cells) {
+func holdUpdate(t *testing.T, s *stack.Stack, key uint64, d int64, fails api.Errno, want stacks.Cells) {
 	t.Helper()
 	if e := s.Update(key, d); e != fails {
 		t.Errorf("Update of %d by %d in %v: %v, not %v", key, d, s.Config(), e, fails)
 	}
-	holdCells(t, s, s.Config(), want)
-}
-
-// above tells, by halving, the key of the level to which the key of level 0 belongs.
-func above(key uint64, n int) uint64 {
-	for range n {
-		key /= 2
-	}
-	return key
+	stacks.Hold(t, s, s.Config(), want)
 }
 
 // after tells, level by level by what layer 13 does, what an update by d answers, and the
 // cells behind it.
-func after(c api.Config, all cells, key uint64, d int64) (cells, api.Errno) {
+func after(c api.Config, all stacks.Cells, key uint64, d int64) (stacks.Cells, api.Errno) {
 	if key >= configs.Count(c.Bits, 0) {
 		return all, api.ErrKey
 	}
 	if c.Mode == api.Conservative && d < 0 {
 		return all, api.ErrMode
 	}
-	var behind cells
+	var behind stacks.Cells
 	for n, numbers := range all {
 		l := either.Filled(levels.At(c, n), numbers...)
-		if e := l.Update(above(key, n), d); e != api.OK {
+		if e := l.Update(configs.Above(key, n), d); e != api.OK {
 			return all, e
 		}
 		behind = append(behind, l.Cells())
@@ -194,39 +122,11 @@ func TestNew(t *testing.T) {
 	for _, c := range configs.Right() {
 		// The greatest ones are all alike, but for their seeds.
 		if c.Bits < 33 || c.Seed == 99 {
-			hold(t, made(t, c), c, full(c, 0))
+			hold(t, made(t, c), c, stacks.Full(c, 0))
 		}
 	}
-	for _, c := range append(greatest(), tried()...) {
-		hold(t, made(t, c), c, full(c, 0))
-	}
-}
-
-// How many levels of what is tried are exact.
-func TestTried(t *testing.T) {
-	count := map[int]map[string]int{}
-	for _, c := range tried() {
-		exact := 0
-		for _, n := range configs.Levels(c.Bits) {
-			if shape.Exact(c, n) {
-				exact++
-			}
-		}
-		is := "some levels"
-		if exact == 1 {
-			is = "one level"
-		} else if exact == c.Bits+1 {
-			is = "all levels"
-		}
-		if count[c.Mode] == nil {
-			count[c.Mode] = map[string]int{}
-		}
-		count[c.Mode][is]++
-	}
-	for _, mode := range configs.Modes() {
-		if len(count[mode]) != 3 || count[mode]["some levels"] < 5 || count[mode]["one level"] < 3 || count[mode]["all levels"] < 3 {
-			t.Errorf("of the mode %d too few configs are exact at: %v", mode, count[mode])
-		}
+	for _, c := range append(stacks.Greatest(), stacks.Configs()...) {
+		hold(t, made(t, c), c, stacks.Full(c, 0))
 	}
 }
 
@@ -256,7 +156,7 @@ func TestNewNamed(t *testing.T) {
 				t.Fatalf("New of %v: %v, %v", x.c, s, e)
 			}
 			if s != nil {
-				hold(t, s, x.c, full(x.c, 0))
+				hold(t, s, x.c, stacks.Full(x.c, 0))
 			}
 		})
 	}
@@ -272,15 +172,15 @@ func TestNewOfNone(t *testing.T) {
 
 // Of stacks of one config each changes alone.
 func TestMadeApart(t *testing.T) {
-	for _, c := range tried() {
+	for _, c := range stacks.Configs() {
 		s, o := made(t, c), made(t, c)
-		want, _ := after(c, full(c, 0), 0, 4)
+		want, _ := after(c, stacks.Full(c, 0), 0, 4)
 		holdUpdate(t, s, 0, 4, api.OK, want)
-		holdCells(t, o, c, full(c, 0))
-		other, _ := after(c, full(c, 0), 1, 7)
+		stacks.Hold(t, o, c, stacks.Full(c, 0))
+		other, _ := after(c, stacks.Full(c, 0), 1, 7)
 		holdUpdate(t, o, 1, 7, api.OK, other)
-		holdCells(t, s, c, want)
-		holdCells(t, made(t, c), c, full(c, 0))
+		stacks.Hold(t, s, c, want)
+		stacks.Hold(t, made(t, c), c, stacks.Full(c, 0))
 	}
 }
 
@@ -309,14 +209,14 @@ func TestUpdateNamed(t *testing.T) {
 	} {
 		for _, mode := range configs.Modes() {
 			c := api.Config{Bits: 3, Rows: 2, Width: 8, Mode: mode, Seed: 9}
-			before := cells{{3, 0, 0, 0, 0, 0, 5, 1}, {3, 0, 0, 6}, {3, 6}, {9}}
-			s, fails := filled(t, c, before), x.sums
+			before := stacks.Cells{{3, 0, 0, 0, 0, 0, 5, 1}, {3, 0, 0, 6}, {3, 6}, {9}}
+			s, fails := stacks.Filled(c, before), x.sums
 			if mode == api.Conservative {
 				fails = x.conservative
 			}
 			if fails == api.OK {
 				for n, l := range before {
-					l[above(x.key, n)] += x.d
+					l[configs.Above(x.key, n)] += x.d
 				}
 			}
 			holdUpdate(t, s, x.key, x.d, fails, before)
@@ -352,19 +252,19 @@ func TestColumnsOfAKey(t *testing.T) {
 // The last key, the first one, and some between are updated at all levels; those that
 // there are not at none, whatever they are updated by.
 func TestKeys(t *testing.T) {
-	for _, c := range append(tried(), greatest()...) {
+	for _, c := range append(stacks.Configs(), stacks.Greatest()...) {
 		count := configs.Count(c.Bits, 0)
 		for _, key := range configs.Within(count) {
 			s := made(t, c)
 			for _, d := range []int64{9, 0, 4} {
-				want, fails := after(c, told(s), key, d)
+				want, fails := after(c, stacks.Told(s), key, d)
 				if fails != api.OK {
 					t.Fatalf("the levels of %v refuse %d of %d: %v", c, d, key, fails)
 				}
 				holdUpdate(t, s, key, d, api.OK, want)
 			}
 		}
-		s, want := filled(t, c, full(c, 7, highest, lowest)), full(c, 7, highest, lowest)
+		s, want := stacks.Filled(c, stacks.Full(c, 7, highest, lowest)), stacks.Full(c, 7, highest, lowest)
 		for _, key := range configs.Outside(count) {
 			for _, d := range []int64{0, 1, -1, highest, lowest} {
 				holdUpdate(t, s, key, d, api.ErrKey, want)
@@ -376,7 +276,7 @@ func TestKeys(t *testing.T) {
 // At each level alone a sum does not fit, and with one less it does: at the lowest level,
 // at the highest one, and between.
 func TestNoRoomAtOneLevel(t *testing.T) {
-	for _, c := range tried() {
+	for _, c := range stacks.Configs() {
 		for _, n := range configs.Levels(c.Bits) {
 			for _, key := range []uint64{0, configs.Count(c.Bits, 0) / 2, configs.Count(c.Bits, 0) - 1} {
 				holdRoom(t, c, n, key, highest, 1)
@@ -394,9 +294,9 @@ func TestNoRoomAtOneLevel(t *testing.T) {
 func holdRoom(t *testing.T, c api.Config, n int, key uint64, end, d int64) {
 	t.Helper()
 	for _, other := range []int64{0, ^end} {
-		before := full(c, other)
+		before := stacks.Full(c, other)
 		before[n] = either.Kind().Full(levels.At(c, n), end)
-		s := filled(t, c, before)
+		s := stacks.Filled(c, before)
 		holdUpdate(t, s, key, d, api.ErrOverflow, before)
 		// By nothing no sum grows.
 		holdUpdate(t, s, key, 0, api.OK, before)
@@ -405,7 +305,7 @@ func holdRoom(t *testing.T, c api.Config, n int, key uint64, end, d int64) {
 		if fails != api.OK || slices.Equal(want[n], before[n]) {
 			t.Fatalf("the levels of %v do not take %d of %d: %v", c, d, key, fails)
 		}
-		holdUpdate(t, filled(t, c, before), key, d, api.OK, want)
+		holdUpdate(t, stacks.Filled(c, before), key, d, api.OK, want)
 	}
 }
 
@@ -413,20 +313,20 @@ func holdRoom(t *testing.T, c api.Config, n int, key uint64, end, d int64) {
 // in the mode Conservative the least one counts alone.
 func TestNoRoomInOneCell(t *testing.T) {
 	count := map[api.Errno]int{}
-	for i, c := range tried() {
+	for i, c := range stacks.Configs() {
 		key := configs.Within(configs.Count(c.Bits, 0))[i%5]
 		for _, n := range configs.Levels(c.Bits) {
 			if either.KindOf(levels.At(c, n)) == either.Array {
 				continue
 			}
-			for row, col := range shape.Columns(c, n, above(key, n)) {
-				before := full(c, 0)
+			for row, col := range shape.Columns(c, n, configs.Above(key, n)) {
+				before := stacks.Full(c, 0)
 				before[n][row*c.Width+col] = highest
 				want, fails := after(c, before, key, 1)
 				if (fails == api.OK) != (c.Mode == api.Conservative && c.Rows > 1) {
 					t.Errorf("level %d of %v, without room in row %d: %v", n, c, row, fails)
 				}
-				holdUpdate(t, filled(t, c, before), key, 1, fails, want)
+				holdUpdate(t, stacks.Filled(c, before), key, 1, fails, want)
 				count[fails]++
 			}
 		}
@@ -439,13 +339,13 @@ func TestNoRoomInOneCell(t *testing.T) {
 // A key that is not there comes ahead of the mode, and this ahead of what does not fit, be
 // it at the level that is asked first, or last, or between.
 func TestErrorsInTheirOrder(t *testing.T) {
-	for _, c := range tried() {
+	for _, c := range stacks.Configs() {
 		count := configs.Count(c.Bits, 0)
 		for _, turns := range [][]int64{{highest}, {lowest}} {
 			for _, n := range configs.Levels(c.Bits) {
-				before := full(c, 0)
+				before := stacks.Full(c, 0)
 				before[n] = either.Kind().Full(levels.At(c, n), turns...)
-				s := filled(t, c, before)
+				s := stacks.Filled(c, before)
 				holdUpdate(t, s, count, lowest, api.ErrKey, before)
 				holdUpdate(t, s, count, -1, api.ErrKey, before)
 				holdUpdate(t, s, count, highest, api.ErrKey, before)
@@ -464,8 +364,8 @@ func TestErrorsInTheirOrder(t *testing.T) {
 // of layer 13.
 func TestUpdateOfAll(t *testing.T) {
 	answers := map[api.Errno]int{}
-	for i, c := range append(tried(), greatest()...) {
-		s, want := made(t, c), full(c, 0)
+	for i, c := range append(stacks.Configs(), stacks.Greatest()...) {
+		s, want := made(t, c), stacks.Full(c, 0)
 		keys := strewn.Numbers(i + 40)[i:]
 		for turn, d := range strewn.Signed(i, 40, uint(i%6)) {
 			// Of twice as many keys as there are.

@@ -12,18 +12,9 @@ import (
 	"gauger/levels"
 	"gauger/shape"
 	"gauger/stack"
+	"gauger/stacks"
 	"gauger/strewn"
 )
-
-// strewnCells tells cells of all levels of the config with strewn numbers, from the given
-// one on.
-func strewnCells(c api.Config, from int, shift uint) cells {
-	var all cells
-	for _, n := range configs.Levels(c.Bits) {
-		all = append(all, either.Kind().Strewn(levels.At(c, n), from+n, shift))
-	}
-	return all
-}
 
 // Of three bits and two columns, so that the levels 2 and 3 are exact: the first key of
 // each level, the last one, and the first one that there is not.
@@ -32,7 +23,7 @@ func TestPointNamed(t *testing.T) {
 		// By chapter 7 the columns of the key 6 are 0 0 at level 0, and those of the key 3
 		// are 1 0 at level 1.
 		c := api.Config{Bits: 3, Rows: 2, Width: 2, Mode: mode, Seed: 7}
-		s := filled(t, c, cells{{8, 1, 3, 2}, {2, 9, 4, 1}, {-5, 6}, {11}})
+		s := stacks.Filled(c, stacks.Cells{{8, 1, 3, 2}, {2, 9, 4, 1}, {-5, 6}, {11}})
 		for _, x := range []struct {
 			level int
 			index uint64
@@ -54,9 +45,9 @@ func TestPointNamed(t *testing.T) {
 // The first key of each level, the last one, and some between, and those that there are
 // not: as the level tells it. Nothing is changed by it.
 func TestPointOfAll(t *testing.T) {
-	for i, c := range append(tried(), greatest()...) {
-		all := strewnCells(c, i, uint(i%8))
-		s := filled(t, c, all)
+	for i, c := range append(stacks.Configs(), stacks.Greatest()...) {
+		all := stacks.Strewn(c, i, uint(i%8))
+		s := stacks.Filled(c, all)
 		for _, n := range configs.Levels(c.Bits) {
 			l := either.Filled(levels.At(c, n), all[n]...)
 			for _, index := range configs.Within(configs.Count(c.Bits, n)) {
@@ -70,15 +61,15 @@ func TestPointOfAll(t *testing.T) {
 				holdPoint(t, s, api.Piece{Level: n, Index: index}, 0, api.ErrKey)
 			}
 		}
-		holdCells(t, s, c, all)
+		stacks.Hold(t, s, c, all)
 	}
 }
 
 // Levels below 0, and beyond Bits: for each call that is handed a level.
 func TestNoSuchLevel(t *testing.T) {
-	for i, c := range append(tried(), greatest()...) {
-		all := strewnCells(c, i, 0)
-		s := filled(t, c, all)
+	for i, c := range append(stacks.Configs(), stacks.Greatest()...) {
+		all := stacks.Strewn(c, i, 0)
+		s := stacks.Filled(c, all)
 		for _, n := range configs.Beyond(c.Bits) {
 			holdNoLevel(t, s, n)
 			for _, l := range [][]int64{nil, {}, {5}, all[0], all[c.Bits], make([]int64, c.Rows*c.Width)} {
@@ -87,16 +78,16 @@ func TestNoSuchLevel(t *testing.T) {
 				}
 			}
 		}
-		holdCells(t, s, c, all)
+		stacks.Hold(t, s, c, all)
 	}
 }
 
 // Each level alone is loaded, the lowest one, the highest one, and those between: too few
 // numbers, and too many, change nothing.
 func TestLoad(t *testing.T) {
-	for i, c := range tried() {
-		want := strewnCells(c, i, 0)
-		s := filled(t, c, want)
+	for i, c := range stacks.Configs() {
+		want := stacks.Strewn(c, i, 0)
+		s := stacks.Filled(c, want)
 		for _, n := range configs.Levels(c.Bits) {
 			count := len(want[n])
 			numbers := strewn.Signed(i+7, 2*count+8, 0)
@@ -108,12 +99,12 @@ func TestLoad(t *testing.T) {
 			if s.Load(n, nil) {
 				t.Errorf("nil is loaded into %d cells", count)
 			}
-			holdCells(t, s, c, want)
+			stacks.Hold(t, s, c, want)
 			if !s.Load(n, numbers[:count]) {
 				t.Errorf("%d numbers are not loaded", count)
 			}
 			want[n] = numbers[:count]
-			holdCells(t, s, c, want)
+			stacks.Hold(t, s, c, want)
 		}
 		hold(t, s, c, want)
 	}
@@ -122,35 +113,35 @@ func TestLoad(t *testing.T) {
 // What was handed to Load stays, with what lies behind it, whatever changes the stack, and
 // may be written over.
 func TestLoadKeepsNothing(t *testing.T) {
-	for i, c := range tried() {
-		want := strewnCells(c, i, 2)
+	for i, c := range stacks.Configs() {
+		want := stacks.Strewn(c, i, 2)
 		for _, n := range configs.Levels(c.Bits) {
 			whole := slices.Concat(want[n], []int64{77, 78})
-			was, s := slices.Clone(whole), filled(t, c, want)
+			was, s := slices.Clone(whole), stacks.Filled(c, want)
 			if !s.Load(n, whole[:len(want[n])]) || s.Update(0, 9) != api.OK || !slices.Equal(whole, was) {
 				t.Errorf("%v became %v", was, whole)
 			}
-			s = filled(t, c, want)
+			s = stacks.Filled(c, want)
 			if !s.Load(n, whole[:len(want[n])]) {
 				t.Errorf("%d numbers are not loaded", len(want[n]))
 			}
 			clear(whole)
-			holdCells(t, s, c, want)
+			stacks.Hold(t, s, c, want)
 		}
 	}
 }
 
 // What Cells told may be written over, and made longer, and stays when the stack changes.
 func TestCellsApart(t *testing.T) {
-	for i, c := range tried() {
-		want := strewnCells(c, i, 2)
-		s := filled(t, c, want)
-		first, second, third := told(s), told(s), told(s)
+	for i, c := range stacks.Configs() {
+		want := stacks.Strewn(c, i, 2)
+		s := stacks.Filled(c, want)
+		first, second, third := stacks.Told(s), stacks.Told(s), stacks.Told(s)
 		for n := range first {
 			clear(first[n])
 			_ = append(third[n][:len(third[n])-1], 77)
 		}
-		holdCells(t, s, c, want)
+		stacks.Hold(t, s, c, want)
 		if e := s.Update(0, 9); e != api.OK {
 			t.Errorf("Update: %v", e)
 		}
@@ -167,7 +158,7 @@ func TestCellsApart(t *testing.T) {
 
 // holdChange changes a stack with these cells by an update, and by a load of each level,
 // and holds it against what is wanted; apart holds behind each change what stays.
-func holdChange(t *testing.T, s *stack.Stack, c api.Config, before cells, apart func()) {
+func holdChange(t *testing.T, s *stack.Stack, c api.Config, before stacks.Cells, apart func()) {
 	t.Helper()
 	want, fails := after(c, before, 1, 6)
 	holdUpdate(t, s, 1, 6, fails, want)
@@ -178,49 +169,49 @@ func holdChange(t *testing.T, s *stack.Stack, c api.Config, before cells, apart 
 		if !s.Load(n, want[n]) {
 			t.Errorf("level %d of %v is not loaded", n, c)
 		}
-		holdCells(t, s, c, want)
+		stacks.Hold(t, s, c, want)
 		apart()
 	}
 }
 
 // A copy is the same at first, and each of both changes alone.
 func TestCopy(t *testing.T) {
-	for i, c := range tried() {
-		before := strewnCells(c, i, 2)
-		s := filled(t, c, before)
+	for i, c := range stacks.Configs() {
+		before := stacks.Strewn(c, i, 2)
+		s := stacks.Filled(c, before)
 		o := s.Copy()
 		again := o.Copy()
 		hold(t, o, c, before)
-		holdChange(t, o, c, before, func() { holdCells(t, s, c, before) })
-		changed := told(o)
-		holdChange(t, s, c, before, func() { holdCells(t, o, c, changed) })
+		holdChange(t, o, c, before, func() { stacks.Hold(t, s, c, before) })
+		changed := stacks.Told(o)
+		holdChange(t, s, c, before, func() { stacks.Hold(t, o, c, changed) })
 		hold(t, again, c, before)
 	}
 }
 
 // A copy goes on as what was copied does, refusals among it.
 func TestCopyGoesOn(t *testing.T) {
-	for i, c := range append(tried(), greatest()...) {
+	for i, c := range append(stacks.Configs(), stacks.Greatest()...) {
 		all := levels.Updates(i, configs.Count(c.Bits, 0)+1)
-		s := fed(t, c, levels.Taken(i, levels.At(c, 0)))
+		s := stacks.Fed(c, levels.Taken(i, levels.At(c, 0)))
 		o := s.Copy()
 		for _, u := range all[:20] {
 			fails := s.Update(u.Key, u.Delta)
-			holdUpdate(t, o, u.Key, u.Delta, fails, told(s))
+			holdUpdate(t, o, u.Key, u.Delta, fails, stacks.Told(s))
 		}
 	}
 }
 
 // Cells that were told, loaded into a stack of the same config, make it the same.
 func TestLoadedIsTheSame(t *testing.T) {
-	for i, c := range tried() {
-		s := fed(t, c, levels.Taken(i, levels.At(c, 0)))
-		all := told(s)
-		o := filled(t, c, all)
+	for i, c := range stacks.Configs() {
+		s := stacks.Fed(c, levels.Taken(i, levels.At(c, 0)))
+		all := stacks.Told(s)
+		o := stacks.Filled(c, all)
 		hold(t, o, c, all)
 		for _, u := range levels.Taken(i+3, levels.At(c, 0))[:5] {
 			fails := s.Update(u.Key, u.Delta)
-			holdUpdate(t, o, u.Key, u.Delta, fails, told(s))
+			holdUpdate(t, o, u.Key, u.Delta, fails, stacks.Told(s))
 		}
 	}
 }
@@ -238,10 +229,10 @@ func at(t *testing.T, s *stack.Stack, n int) level.Level {
 // What At tells is of the level's kind, and a copy: what is done to it leaves the stack,
 // and what is done to the stack leaves it. It is told anew each time.
 func TestAt(t *testing.T) {
-	for i, c := range tried() {
-		before := strewnCells(c, i, 2)
+	for i, c := range stacks.Configs() {
+		before := stacks.Strewn(c, i, 2)
 		for _, n := range configs.Levels(c.Bits) {
-			p, s := levels.At(c, n), filled(t, c, before)
+			p, s := levels.At(c, n), stacks.Filled(c, before)
 			l, other := at(t, s, n), at(t, s, n)
 			if is := either.What(l); is != either.KindOf(p) {
 				t.Errorf("%v is %s", p, is)
@@ -250,11 +241,11 @@ func TestAt(t *testing.T) {
 			if e := l.Update(0, 9); e != api.OK {
 				t.Errorf("Update of %v: %v", p, e)
 			}
-			holdCells(t, s, c, before)
+			stacks.Hold(t, s, c, before)
 			if !l.Load(either.Kind().Full(p, 4, -4)) {
 				t.Errorf("%v is not loaded", p)
 			}
-			holdCells(t, s, c, before)
+			stacks.Hold(t, s, c, before)
 			levels.Hold(t, other, p, before[n])
 			if e := s.Update(1, 5); e != api.OK {
 				t.Errorf("Update of %v: %v", c, e)
@@ -273,9 +264,9 @@ func TestAt(t *testing.T) {
 
 // What one level is merged into by layer 13 leaves the stack, too.
 func TestAtMerged(t *testing.T) {
-	for i, c := range tried() {
-		before := strewnCells(c, i, 2)
-		s := filled(t, c, before)
+	for i, c := range stacks.Configs() {
+		before := stacks.Strewn(c, i, 2)
+		s := stacks.Filled(c, before)
 		for _, n := range configs.Levels(c.Bits) {
 			l, o := at(t, s, n), at(t, s, n)
 			if e := level.Merge(l, o); e != api.OK {
@@ -286,14 +277,14 @@ func TestAtMerged(t *testing.T) {
 			}
 			levels.Hold(t, o, levels.At(c, n), before[n])
 		}
-		holdCells(t, s, c, before)
+		stacks.Hold(t, s, c, before)
 	}
 }
 
 func TestAtNamed(t *testing.T) {
 	for _, mode := range configs.Modes() {
 		c := api.Config{Bits: 3, Rows: 2, Width: 2, Mode: mode, Seed: 7}
-		s := filled(t, c, cells{{8, 1, 3, 2}, {2, 9, 4, 1}, {-5, 6}, {11}})
+		s := stacks.Filled(c, stacks.Cells{{8, 1, 3, 2}, {2, 9, 4, 1}, {-5, 6}, {11}})
 		for n, is := range map[int]string{-1: either.None, 0: either.Sketch, 1: either.Sketch, 2: either.Array, 3: either.Array, 4: either.None} {
 			l, ok := s.At(n)
 			if either.What(l) != is || ok != (is != either.None) || (l == nil) == ok {
@@ -303,22 +294,10 @@ func TestAtNamed(t *testing.T) {
 	}
 }
 
-// fed tells the stack of a config that was fed these updates.
-func fed(t *testing.T, c api.Config, all []api.Update) *stack.Stack {
-	t.Helper()
-	s := made(t, c)
-	for _, u := range all {
-		if e := s.Update(u.Key, u.Delta); e != api.OK {
-			t.Fatalf("Update of %d by %d in %v: %v", u.Key, u.Delta, c, e)
-		}
-	}
-	return s
-}
-
 // The chapter's section "What follows": Total is the sum of all that was added, whatever
 // was refused between.
 func TestTotal(t *testing.T) {
-	for i, c := range append(tried(), greatest()...) {
+	for i, c := range append(stacks.Configs(), stacks.Greatest()...) {
 		s, sum := made(t, c), int64(0)
 		for _, u := range levels.Taken(i, levels.At(c, 0)) {
 			if e := s.Update(u.Key, u.Delta); e != api.OK {
@@ -340,13 +319,13 @@ func TestTotal(t *testing.T) {
 // key, in each mode.
 func TestWhatFollows(t *testing.T) {
 	sketched := 0
-	for i, c := range tried() {
+	for i, c := range stacks.Configs() {
 		// All keys are gone through, so there may be but few.
 		if c.Bits > 10 {
 			continue
 		}
 		all := levels.Taken(i, levels.At(c, 0))
-		s, has := fed(t, c, all), levels.Sums(configs.Count(c.Bits, 0), all)
+		s, has := stacks.Fed(c, all), levels.Sums(configs.Count(c.Bits, 0), all)
 		for _, n := range configs.Levels(c.Bits) {
 			p := levels.At(c, n)
 			exact := either.KindOf(p) == either.Array
@@ -355,7 +334,7 @@ func TestWhatFollows(t *testing.T) {
 			}
 			want := either.Kind().Full(p, 0)
 			for key, sum := range has {
-				add(c, n, above(uint64(key), n), sum, want)
+				add(c, n, configs.Above(uint64(key), n), sum, want)
 			}
 			if got := s.Cells(n); !slices.Equal(got, want) {
 				t.Errorf("level %d of %v has %v, not %v", n, c, got, want)

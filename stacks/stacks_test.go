@@ -1,0 +1,176 @@
+package stacks_test
+
+import (
+	"math"
+	"slices"
+	"testing"
+
+	"gauger/api"
+	"gauger/configs"
+	"gauger/shape"
+	"gauger/stacks"
+)
+
+// small tells a config of which the levels 0 and 1 are not exact, and 2 and 3 are.
+func small(mode int) api.Config {
+	return api.Config{Bits: 3, Rows: 1, Width: 3, Mode: mode, Seed: 7}
+}
+
+// same tells whether the cells are the same, level by level.
+func same(a, b stacks.Cells) bool {
+	return slices.EqualFunc(a, b, slices.Equal[[]int64])
+}
+
+// In each mode there are stacks all of whose levels are exact, some of which the highest
+// one is alone, and some between; some with few keys, and some with as many as may be.
+func TestConfigs(t *testing.T) {
+	count, few, most := map[int]map[string]int{}, map[int]int{}, map[int]int{}
+	for _, c := range stacks.Configs() {
+		if c.Bits <= 6 {
+			few[c.Mode]++
+		} else if c.Bits == api.MaxBits {
+			most[c.Mode]++
+		}
+		exact := 0
+		for _, n := range configs.Levels(c.Bits) {
+			if shape.Exact(c, n) {
+				exact++
+			}
+		}
+		is := stacks.SomeExact
+		if exact == 1 {
+			is = stacks.OneExact
+		} else if exact == c.Bits+1 {
+			is = stacks.AllExact
+		}
+		if got := stacks.Exact(c); got != is {
+			t.Errorf("of %v %s are exact, not %s", c, is, got)
+		}
+		if count[c.Mode] == nil {
+			count[c.Mode] = map[string]int{}
+		}
+		count[c.Mode][is]++
+	}
+	for _, mode := range configs.Modes() {
+		all := count[mode]
+		if len(all) != 3 || all[stacks.SomeExact] < 5 || all[stacks.OneExact] < 3 || all[stacks.AllExact] < 3 {
+			t.Errorf("of the mode %d too few configs are exact at: %v", mode, all)
+		}
+		if few[mode] < 15 || most[mode] == 0 {
+			t.Errorf("of the mode %d %d configs have few keys, and %d as many as may be", mode, few[mode], most[mode])
+		}
+	}
+}
+
+func TestGreatest(t *testing.T) {
+	var modes []int
+	for _, c := range stacks.Greatest() {
+		if !shape.Right(c) || c.Bits != 59 || c.Rows != 8 || c.Width != 128 {
+			t.Errorf("%v is not right, or not among the greatest", c)
+		}
+		modes = append(modes, c.Mode)
+	}
+	if !slices.Equal(modes, configs.Modes()) {
+		t.Errorf("the modes are %v", modes)
+	}
+}
+
+func TestFullAndFilled(t *testing.T) {
+	for _, mode := range configs.Modes() {
+		c, want := small(mode), stacks.Cells{{4, -5, 4}, {4, -5, 4}, {4, -5}, {4}}
+		all := stacks.Full(c, 4, -5)
+		if !same(all, want) {
+			t.Errorf("4 and -5 by turns are %v", all)
+		}
+		s := stacks.Filled(c, all)
+		stacks.Hold(t, s, c, want)
+		if got := stacks.Told(s); !same(got, want) {
+			t.Errorf("what is told is %v", got)
+		}
+		stacks.Hold(t, stacks.Filled(c, nil), c, stacks.Full(c, 0))
+		if s := stacks.Filled(c, stacks.Cells{{4, -5, 4}, {4, -5}}); s != nil {
+			t.Errorf("a stack is filled with too few: %v", s)
+		}
+		if s := stacks.Filled(c, append(want, []int64{4})); s != nil {
+			t.Errorf("a level too much is filled: %v", s)
+		}
+	}
+	for _, c := range configs.Wrong() {
+		for _, all := range []stacks.Cells{nil, {{4}}} {
+			if s := stacks.Filled(c, all); s != nil {
+				t.Errorf("%v is filled: %v", c, s)
+			}
+		}
+	}
+}
+
+func TestStrewn(t *testing.T) {
+	for _, mode := range configs.Modes() {
+		c := small(mode)
+		all, other := stacks.Strewn(c, 5, 2), stacks.Strewn(c, 6, 2)
+		for n, l := range all {
+			if len(l) != []int{3, 3, 2, 1}[n] || slices.Max(l) >= 1<<61 || slices.Min(l) < -1<<61 {
+				t.Errorf("level %d has %v", n, l)
+			}
+		}
+		// Each level begins one further on.
+		if !same(other[:2], stacks.Cells{all[1], append(all[1][1:3:3], other[1][2])}) {
+			t.Errorf("from number 6 on there are %v, behind %v", other, all)
+		}
+		stacks.Hold(t, stacks.Filled(c, all), c, all)
+	}
+}
+
+func TestFed(t *testing.T) {
+	all := []api.Update{{Key: 6, Delta: 5}, {Key: 1, Delta: 2}, {Key: 6, Delta: 7}}
+	for _, mode := range configs.Modes() {
+		c := api.Config{Bits: 3, Rows: 2, Width: 8, Mode: mode, Seed: 7}
+		stacks.Hold(t, stacks.Fed(c, nil), c, stacks.Full(c, 0))
+		want := stacks.Cells{{0, 2, 0, 0, 0, 0, 12, 0}, {2, 0, 0, 12}, {2, 12}, {14}}
+		stacks.Hold(t, stacks.Fed(c, all), c, want)
+		for _, refused := range []api.Update{{Key: 8, Delta: 1}, {Key: 6, Delta: math.MaxInt64}} {
+			if s := stacks.Fed(c, append(all[:3:3], refused)); s != nil {
+				t.Errorf("%v was fed to %v", refused, s)
+			}
+		}
+	}
+	for _, c := range configs.Wrong() {
+		for _, updates := range [][]api.Update{nil, {{Key: 0, Delta: 1}}} {
+			if s := stacks.Fed(c, updates); s != nil {
+				t.Errorf("%v is fed: %v", c, s)
+			}
+		}
+	}
+}
+
+// counter counts what it is told is wrong.
+type counter int
+
+func (n *counter) Helper() {}
+
+func (n *counter) Errorf(string, ...any) { *n++ }
+
+// Hold finds another config, and a cell that is another one, at whichever level it is.
+func TestHold(t *testing.T) {
+	for _, c := range stacks.Configs() {
+		s := stacks.Filled(c, stacks.Full(c, 3))
+		other := c
+		other.Seed++
+		var wrong counter
+		if stacks.Hold(&wrong, s, other, stacks.Full(c, 3)); wrong != 1 {
+			t.Errorf("%v is taken for %v: %d", c, other, wrong)
+		}
+		for n := range stacks.Full(c, 3) {
+			want := stacks.Full(c, 3)
+			want[n][len(want[n])-1] = 4
+			wrong = 0
+			if stacks.Hold(&wrong, s, c, want); wrong == 0 {
+				t.Errorf("at level %d of %v another cell is not found", n, c)
+			}
+		}
+		wrong = 0
+		if stacks.Hold(&wrong, s, c, stacks.Full(c, 3)); wrong != 0 {
+			t.Errorf("in %v something is found that is not wrong: %d", c, wrong)
+		}
+	}
+}
