@@ -123,6 +123,11 @@ func Count(bits, level int) uint64 {
 	return n
 }
 
+// Last tells the last key of so many bits.
+func Last(bits int) uint64 {
+	return Count(bits, 0) - 1
+}
+
 // Above tells, by halving, the key of the level to which the key of level 0 belongs.
 func Above(key uint64, level int) uint64 {
 	for range level {

@@ -118,6 +118,17 @@ func TestLevels(t *testing.T) {
 	}
 }
 
+func TestLast(t *testing.T) {
+	for _, x := range []struct {
+		bits int
+		want uint64
+	}{{1, 1}, {2, 3}, {3, 7}, {10, 1023}, {58, 1<<58 - 1}, {59, 1<<59 - 1}} {
+		if got := configs.Last(x.bits); got != x.want {
+			t.Errorf("the last key of %d bits is %d, not %d", x.bits, got, x.want)
+		}
+	}
+}
+
 func TestAbove(t *testing.T) {
 	for _, x := range []struct {
 		key   uint64

@@ -130,6 +130,16 @@ func Rises(from int, keys uint64) []api.Update {
 	return all
 }
 
+// Less tells the updates by so much less that they are together not more than 2^55: what
+// each level tells, whatever others have in its columns, fits together then.
+func Less(all []api.Update) []api.Update {
+	few := slices.Clone(all)
+	for i := range few {
+		few[i].Delta /= 1 << 7
+	}
+	return few
+}
+
 // Taken tells strewn updates of the place's keys that its mode takes.
 func Taken(from int, p Place) []api.Update {
 	keys := configs.Count(p.Config.Bits, p.Level)
@@ -137,6 +147,17 @@ func Taken(from int, p Place) []api.Update {
 		return Rises(from, keys)
 	}
 	return Updates(from, keys)
+}
+
+// Has tells what the keys from lo to hi have by the updates.
+func Has(all []api.Update, lo, hi uint64) int64 {
+	n := int64(0)
+	for _, u := range all {
+		if lo <= u.Key && u.Key <= hi {
+			n += u.Delta
+		}
+	}
+	return n
 }
 
 // Sums tells what each of so many keys has by the updates.

@@ -108,6 +108,25 @@ func TestUpdatesAndRises(t *testing.T) {
 	}
 }
 
+// Less tells the same keys, with numbers of the same sign, or 0, and few enough together.
+func TestLess(t *testing.T) {
+	for from := range 50 {
+		all, other := levels.Updates(from, 64), levels.Updates(from, 64)
+		few := levels.Less(all)
+		if !slices.Equal(all, other) {
+			t.Errorf("%v became %v", other, all)
+		}
+		if sum := sized(few); len(few) != len(all) || sum.Cmp(big.NewInt(1<<55)) > 0 || sum.Cmp(big.NewInt(1<<50)) < 0 {
+			t.Errorf("%d of %d updates are %d together", len(few), len(all), sum)
+		}
+		for i, u := range all {
+			if few[i].Key != u.Key || few[i].Delta > 0 && u.Delta < 0 || few[i].Delta < 0 && u.Delta > 0 {
+				t.Errorf("of %v became %v", u, few[i])
+			}
+		}
+	}
+}
+
 func TestTaken(t *testing.T) {
 	for _, mode := range configs.Modes() {
 		for _, level := range []int{0, 1, 59} {
@@ -127,6 +146,18 @@ func TestSums(t *testing.T) {
 	all := []api.Update{{Key: 3, Delta: 5}, {Key: 0, Delta: -2}, {Key: 3, Delta: 7}}
 	if got := levels.Sums(4, all); !slices.Equal(got, []int64{-2, 0, 0, 12}) {
 		t.Errorf("the keys have %v", got)
+	}
+}
+
+func TestHas(t *testing.T) {
+	all := []api.Update{{Key: 3, Delta: 5}, {Key: 0, Delta: -2}, {Key: 3, Delta: 7}, {Key: 1<<59 - 1, Delta: 1}}
+	for _, x := range []struct {
+		lo, hi uint64
+		want   int64
+	}{{0, 1<<59 - 1, 11}, {0, 0, -2}, {0, 2, -2}, {0, 3, 10}, {1, 2, 0}, {3, 3, 12}, {3, 4, 12}, {4, 1<<59 - 2, 0}, {4, 1<<59 - 1, 1}} {
+		if got := levels.Has(all, x.lo, x.hi); got != x.want {
+			t.Errorf("the keys from %d to %d have %d, not %d", x.lo, x.hi, got, x.want)
+		}
 	}
 }
 

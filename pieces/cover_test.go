@@ -281,7 +281,7 @@ func TestAllKeysButTheEnds(t *testing.T) {
 			rising = append(rising, piece(level, 1))
 			falling = append(falling, piece(bits-1-level, configs.Count(level+1, 0)-2))
 		}
-		last := configs.Count(bits, 0) - 1
+		last := configs.Last(bits)
 		holdCover(t, bits, 0, last, row(uint64(bits), 0))
 		holdCover(t, bits, 1, last, rising)
 		holdCover(t, bits, 0, last-1, falling)

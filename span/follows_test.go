@@ -32,25 +32,9 @@ func feed(t *testing.T, c api.Config, updates []api.Update) fed {
 	return fed{s, updates}
 }
 
-// less tells the updates by so much less that they are together not more than 2^55: as many
-// parts as a span may have fit together then, whatever others have in their columns.
-func less(updates []api.Update) []api.Update {
-	few := slices.Clone(updates)
-	for i := range few {
-		few[i].Delta /= 1 << 7
-	}
-	return few
-}
-
 // has tells what the keys of the span have by the updates.
 func (f fed) has(x keys) int64 {
-	n := int64(0)
-	for _, u := range f.updates {
-		if x.lo <= u.Key && u.Key <= x.hi {
-			n += u.Delta
-		}
-	}
-	return n
+	return levels.Has(f.updates, x.lo, x.hi)
 }
 
 // spans tells spans of the stack, some of which begin or end with keys that were updated,
@@ -61,7 +45,7 @@ func (f fed) spans() []keys {
 	for i, u := range f.updates[:12] {
 		other := f.updates[12+i].Key
 		lo, hi := min(u.Key, other), max(u.Key, other)
-		some = append(some, keys{lo, hi}, keys{lo, last(bits)}, keys{0, lo})
+		some = append(some, keys{lo, hi}, keys{lo, configs.Last(bits)}, keys{0, lo})
 		if lo < hi {
 			some = append(some, keys{lo + 1, hi}, keys{lo, hi - 1})
 		}
@@ -94,7 +78,7 @@ func TestExample(t *testing.T) {
 // or not.
 func TestAllLevelsExact(t *testing.T) {
 	below := map[int]int{}
-	for i, c := range tried() {
+	for i, c := range stacks.All() {
 		if stacks.Exact(c) != stacks.AllExact {
 			continue
 		}
@@ -114,13 +98,13 @@ func TestAllLevelsExact(t *testing.T) {
 
 // Of all keys Range is Total, be the levels' cells fed or loaded.
 func TestTotal(t *testing.T) {
-	for i, c := range tried() {
+	for i, c := range stacks.All() {
 		f := feed(t, c, levels.Taken(i, levels.At(c, 0)))
-		f.holdRange(t, keys{0, last(c.Bits)}, f.s.Total())
-		f.holdRange(t, keys{0, last(c.Bits)}, f.has(keys{0, last(c.Bits)}))
+		f.holdRange(t, keys{0, configs.Last(c.Bits)}, f.s.Total())
+		f.holdRange(t, keys{0, configs.Last(c.Bits)}, f.has(keys{0, configs.Last(c.Bits)}))
 		for _, cells := range []stacks.Cells{stacks.Strewn(c, i, 0), stacks.Full(c, highest), stacks.Full(c, lowest), stacks.Full(c, 0)} {
 			s := stacks.Filled(c, cells)
-			holdSum(t, s, 0, last(c.Bits), s.Total(), api.OK)
+			holdSum(t, s, 0, configs.Last(c.Bits), s.Total(), api.OK)
 		}
 	}
 }
@@ -129,11 +113,11 @@ func TestTotal(t *testing.T) {
 // Conservative; nor more than in the mode Linear, in the mode Conservative.
 func TestNothingTooLittle(t *testing.T) {
 	more := map[int]int{}
-	for i, c := range tried() {
+	for i, c := range stacks.All() {
 		if c.Mode == api.Median {
 			continue
 		}
-		f := feed(t, c, less(levels.Rises(i, configs.Count(c.Bits, 0))))
+		f := feed(t, c, levels.Less(levels.Rises(i, configs.Count(c.Bits, 0))))
 		c.Mode = api.Linear
 		sums := feed(t, c, f.updates)
 		for _, x := range f.spans() {
@@ -181,12 +165,12 @@ func (f fed) shared(p api.Piece) int64 {
 // than 0 or not.
 func TestLinear(t *testing.T) {
 	answers := map[api.Errno]map[string]int{api.OK: {}, api.ErrOverflow: {}}
-	for i, c := range tried() {
+	for i, c := range stacks.All() {
 		if c.Mode != api.Linear {
 			continue
 		}
 		count := configs.Count(c.Bits, 0)
-		for _, updates := range [][]api.Update{levels.Updates(i, count), levels.Rises(i+7, count), less(levels.Updates(i+3, count))} {
+		for _, updates := range [][]api.Update{levels.Updates(i, count), levels.Rises(i+7, count), levels.Less(levels.Updates(i+3, count))} {
 			f, told := feed(t, c, updates), map[api.Piece]int64{}
 			for _, x := range f.spans() {
 				parts := f.parts(x, told)
@@ -223,8 +207,8 @@ func (f fed) parts(x keys, told map[api.Piece]int64) []int64 {
 // As long as all that was added is together not more than 2^55, each span fits, in each
 // mode, however many keys share its columns.
 func TestRoom(t *testing.T) {
-	for i, c := range tried() {
-		for _, updates := range [][]api.Update{less(levels.Taken(i, levels.At(c, 0))), {{Key: 0, Delta: 1 << 55}}, {{Key: last(c.Bits), Delta: 1 << 55}}} {
+	for i, c := range stacks.All() {
+		for _, updates := range [][]api.Update{levels.Less(levels.Taken(i, levels.At(c, 0))), {{Key: 0, Delta: 1 << 55}}, {{Key: configs.Last(c.Bits), Delta: 1 << 55}}} {
 			s := feed(t, c, updates).s
 			for _, x := range spans(c.Bits) {
 				if n, e := span.Range(s, x.lo, x.hi); e != api.OK {

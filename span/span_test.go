@@ -21,17 +21,6 @@ const (
 	full    = math.MaxUint64
 )
 
-// tried tells configs of each mode and of all sizes, the least number of bits and the
-// greatest one among them.
-func tried() []api.Config {
-	return append(stacks.Configs(), stacks.Greatest()...)
-}
-
-// last tells the last key of so many bits.
-func last(bits int) uint64 {
-	return configs.Count(bits, 0) - 1
-}
-
 // sum tells by whole numbers what Range answers, if these are the parts.
 func sum(parts []int64) (int64, api.Errno) {
 	whole := new(big.Int)
@@ -150,17 +139,6 @@ func TestPartsOfSharedCells(t *testing.T) {
 	}
 }
 
-// each tells cells of all levels of the config, at each level with one number.
-func each(c api.Config, numbers ...int64) stacks.Cells {
-	cells := stacks.Full(c, 0)
-	for n, l := range cells {
-		for i := range l {
-			l[i] = numbers[n]
-		}
-	}
-	return cells
-}
-
 // Of each number of bits, the least and the greatest among them: all keys, all but the
 // first or the last one, and one at each end. Each level's keys have the level's number.
 func TestPartsOfTheEnds(t *testing.T) {
@@ -168,8 +146,8 @@ func TestPartsOfTheEnds(t *testing.T) {
 		for _, mode := range configs.Modes() {
 			for _, width := range []int{1, 2, 5, 128} {
 				c := api.Config{Bits: int(bits), Rows: 3, Width: width, Mode: mode, Seed: uint64(bits)}
-				cells := each(c, rising(0, bits)...)
-				s, end := stacks.Filled(c, cells), last(c.Bits)
+				cells := stacks.Each(c, rising(0, bits)...)
+				s, end := stacks.Filled(c, cells), configs.Last(c.Bits)
 				hold(t, s, 0, end, bits)
 				hold(t, s, 1, end, rising(0, bits-1)...)
 				hold(t, s, 0, end-1, falling(bits-1, 0)...)
@@ -193,7 +171,7 @@ func TestPartsOfTheEnds(t *testing.T) {
 // halves have.
 func TestPartsOfAllSpans(t *testing.T) {
 	answers := map[api.Errno]int{}
-	for i, c := range tried() {
+	for i, c := range stacks.All() {
 		cells := stacks.Strewn(c, i, uint(i%4))
 		s := stacks.Filled(c, cells)
 		for _, x := range spans(c.Bits) {
@@ -305,7 +283,7 @@ func TestRefusedNamed(t *testing.T) {
 // Spans of keys that are not there are refused, whatever the stack has, and ahead of sums
 // that would not fit.
 func TestRefused(t *testing.T) {
-	for _, c := range tried() {
+	for _, c := range stacks.All() {
 		count := configs.Count(c.Bits, 0)
 		for _, n := range []int64{7, highest} {
 			s := stacks.Filled(c, stacks.Full(c, n))
@@ -393,7 +371,7 @@ func rows() []row {
 // but the last one: in whichever order parts stand, at whichever levels, their sum is told,
 // if it fits, and they are told, be it that it fits or not.
 func TestSumsAtTheEdges(t *testing.T) {
-	for _, c := range tried() {
+	for _, c := range stacks.All() {
 		for _, x := range rows() {
 			if len(x.parts) > c.Bits {
 				continue
@@ -414,8 +392,8 @@ func TestSumsAtTheEdges(t *testing.T) {
 func holdRow(t *testing.T, c api.Config, x row) {
 	t.Helper()
 	// The piece of all keys is in neither span.
-	cells := each(c, slices.Concat(x.parts, []int64{77})...)
-	s, end := stacks.Filled(c, cells), last(c.Bits)
+	cells := stacks.Each(c, slices.Concat(x.parts, []int64{77})...)
+	s, end := stacks.Filled(c, cells), configs.Last(c.Bits)
 	hold(t, s, 1, end, x.parts...)
 	holdSum(t, s, 1, end, x.want, x.fails)
 	back := slices.Clone(x.parts)
@@ -427,13 +405,13 @@ func holdRow(t *testing.T, c api.Config, x row) {
 
 // One part alone fits, be it as great or as little as may be.
 func TestOnePartAtTheEdges(t *testing.T) {
-	for _, c := range tried() {
+	for _, c := range stacks.All() {
 		for _, n := range []int64{highest, lowest} {
 			s := stacks.Filled(c, stacks.Full(c, n))
 			for _, key := range configs.Within(configs.Count(c.Bits, 0)) {
 				hold(t, s, key, key, n)
 			}
-			hold(t, s, 0, last(c.Bits), n)
+			hold(t, s, 0, configs.Last(c.Bits), n)
 		}
 	}
 }
@@ -444,12 +422,15 @@ func TestPartsApart(t *testing.T) {
 	for i, c := range stacks.Configs() {
 		cells := stacks.Strewn(c, i, 8)
 		s := stacks.Filled(c, cells)
-		for _, x := range []keys{{0, last(c.Bits)}, {1, last(c.Bits)}, {0, last(c.Bits) - 1}, {0, 0}} {
+		for _, x := range []keys{{0, configs.Last(c.Bits)}, {1, configs.Last(c.Bits)}, {0, configs.Last(c.Bits) - 1}, {0, 0}} {
 			want := points(t, s, x)
 			first, _ := span.Parts(s, x.lo, x.hi)
 			second, _ := span.Parts(s, x.lo, x.hi)
 			clear(first)
 			_ = append(first[:len(first)-1], 77)
+			if !slices.Equal(second, want) {
+				t.Errorf("what was told of %v became %v", c, second)
+			}
 			stacks.Hold(t, s, c, cells)
 			hold(t, s, x.lo, x.hi, want...)
 			o := stacks.Filled(c, cells)
@@ -466,7 +447,7 @@ func TestStacksApart(t *testing.T) {
 	for i, c := range stacks.Configs() {
 		one := stacks.Fed(c, levels.Taken(i, levels.At(c, 0)))
 		other := stacks.Fed(c, levels.Taken(i+5, levels.At(c, 0)))
-		for _, x := range []keys{{0, last(c.Bits)}, {1, last(c.Bits)}, {0, last(c.Bits) - 1}} {
+		for _, x := range []keys{{0, configs.Last(c.Bits)}, {1, configs.Last(c.Bits)}, {0, configs.Last(c.Bits) - 1}} {
 			a, b := points(t, one, x), points(t, other, x)
 			hold(t, one, x.lo, x.hi, a...)
 			hold(t, other, x.lo, x.hi, b...)

@@ -125,7 +125,7 @@ func TestNew(t *testing.T) {
 			hold(t, made(t, c), c, stacks.Full(c, 0))
 		}
 	}
-	for _, c := range append(stacks.Greatest(), stacks.Configs()...) {
+	for _, c := range stacks.All() {
 		hold(t, made(t, c), c, stacks.Full(c, 0))
 	}
 }
@@ -252,7 +252,7 @@ func TestColumnsOfAKey(t *testing.T) {
 // The last key, the first one, and some between are updated at all levels; those that
 // there are not at none, whatever they are updated by.
 func TestKeys(t *testing.T) {
-	for _, c := range append(stacks.Configs(), stacks.Greatest()...) {
+	for _, c := range stacks.All() {
 		count := configs.Count(c.Bits, 0)
 		for _, key := range configs.Within(count) {
 			s := made(t, c)
@@ -278,7 +278,7 @@ func TestKeys(t *testing.T) {
 func TestNoRoomAtOneLevel(t *testing.T) {
 	for _, c := range stacks.Configs() {
 		for _, n := range configs.Levels(c.Bits) {
-			for _, key := range []uint64{0, configs.Count(c.Bits, 0) / 2, configs.Count(c.Bits, 0) - 1} {
+			for _, key := range []uint64{0, configs.Count(c.Bits, 0) / 2, configs.Last(c.Bits)} {
 				holdRoom(t, c, n, key, highest, 1)
 				if c.Mode != api.Conservative {
 					holdRoom(t, c, n, key, lowest, -1)
@@ -364,7 +364,7 @@ func TestErrorsInTheirOrder(t *testing.T) {
 // of layer 13.
 func TestUpdateOfAll(t *testing.T) {
 	answers := map[api.Errno]int{}
-	for i, c := range append(stacks.Configs(), stacks.Greatest()...) {
+	for i, c := range stacks.All() {
 		s, want := made(t, c), stacks.Full(c, 0)
 		keys := strewn.Numbers(i + 40)[i:]
 		for turn, d := range strewn.Signed(i, 40, uint(i%6)) {

@@ -45,7 +45,7 @@ func TestPointNamed(t *testing.T) {
 // The first key of each level, the last one, and some between, and those that there are
 // not: as the level tells it. Nothing is changed by it.
 func TestPointOfAll(t *testing.T) {
-	for i, c := range append(stacks.Configs(), stacks.Greatest()...) {
+	for i, c := range stacks.All() {
 		all := stacks.Strewn(c, i, uint(i%8))
 		s := stacks.Filled(c, all)
 		for _, n := range configs.Levels(c.Bits) {
@@ -67,7 +67,7 @@ func TestPointOfAll(t *testing.T) {
 
 // Levels below 0, and beyond Bits: for each call that is handed a level.
 func TestNoSuchLevel(t *testing.T) {
-	for i, c := range append(stacks.Configs(), stacks.Greatest()...) {
+	for i, c := range stacks.All() {
 		all := stacks.Strewn(c, i, 0)
 		s := stacks.Filled(c, all)
 		for _, n := range configs.Beyond(c.Bits) {
@@ -191,7 +191,7 @@ func TestCopy(t *testing.T) {
 
 // A copy goes on as what was copied does, refusals among it.
 func TestCopyGoesOn(t *testing.T) {
-	for i, c := range append(stacks.Configs(), stacks.Greatest()...) {
+	for i, c := range stacks.All() {
 		all := levels.Updates(i, configs.Count(c.Bits, 0)+1)
 		s := stacks.Fed(c, levels.Taken(i, levels.At(c, 0)))
 		o := s.Copy()
@@ -297,7 +297,7 @@ func TestAtNamed(t *testing.T) {
 // The chapter's section "What follows": Total is the sum of all that was added, whatever
 // was refused between.
 func TestTotal(t *testing.T) {
-	for i, c := range append(stacks.Configs(), stacks.Greatest()...) {
+	for i, c := range stacks.All() {
 		s, sum := made(t, c), int64(0)
 		for _, u := range levels.Taken(i, levels.At(c, 0)) {
 			if e := s.Update(u.Key, u.Delta); e != api.OK {

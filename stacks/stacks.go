@@ -31,6 +31,12 @@ func Greatest() []api.Config {
 	return all
 }
 
+// All tells both: configs of each mode and of all sizes, the least number of bits and the
+// greatest one among them.
+func All() []api.Config {
+	return append(Configs(), Greatest()...)
+}
+
 // What levels of a config are exact.
 const (
 	AllExact  = "all levels"
@@ -54,6 +60,16 @@ func Full(c api.Config, turns ...int64) Cells {
 	var all Cells
 	for _, n := range configs.Levels(c.Bits) {
 		all = append(all, either.Kind().Full(levels.At(c, n), turns...))
+	}
+	return all
+}
+
+// Each tells cells of all levels of the config, at each level with one number: whichever key
+// of it is asked for, it is told that.
+func Each(c api.Config, numbers ...int64) Cells {
+	var all Cells
+	for n, l := range Full(c, 0) {
+		all = append(all, slices.Repeat(numbers[n:n+1], len(l)))
 	}
 	return all
 }

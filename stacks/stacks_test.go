@@ -75,6 +75,25 @@ func TestGreatest(t *testing.T) {
 	}
 }
 
+// All tells both, of the least number of bits to the greatest one.
+func TestAll(t *testing.T) {
+	all, bits := stacks.All(), map[int]int{}
+	for _, c := range append(stacks.Configs(), stacks.Greatest()...) {
+		if !slices.Contains(all, c) {
+			t.Errorf("%v is not among all", c)
+		}
+	}
+	for _, c := range all {
+		if !shape.Right(c) {
+			t.Errorf("%v is not right", c)
+		}
+		bits[c.Bits]++
+	}
+	if bits[1] == 0 || bits[api.MaxBits] < len(stacks.Greatest()) {
+		t.Errorf("too few of the least number of bits, or of the greatest one: %v", bits)
+	}
+}
+
 func TestFullAndFilled(t *testing.T) {
 	for _, mode := range configs.Modes() {
 		c, want := small(mode), stacks.Cells{{4, -5, 4}, {4, -5, 4}, {4, -5}, {4}}
@@ -99,6 +118,25 @@ func TestFullAndFilled(t *testing.T) {
 		for _, all := range []stacks.Cells{nil, {{4}}} {
 			if s := stacks.Filled(c, all); s != nil {
 				t.Errorf("%v is filled: %v", c, s)
+			}
+		}
+	}
+}
+
+// Whichever key of a level is asked for, it is told the level's number.
+func TestEach(t *testing.T) {
+	for _, mode := range configs.Modes() {
+		c := small(mode)
+		all := stacks.Each(c, 4, -5, math.MaxInt64, 0)
+		if !same(all, stacks.Cells{{4, 4, 4}, {-5, -5, -5}, {math.MaxInt64, math.MaxInt64}, {0}}) {
+			t.Errorf("a number for each level: %v", all)
+		}
+		s := stacks.Filled(c, all)
+		for n, l := range all {
+			for index := range configs.Count(c.Bits, n) {
+				if got, e := s.Point(api.Piece{Level: n, Index: index}); got != l[0] || e != api.OK {
+					t.Errorf("the key %d of level %d is told %d, %v", index, n, got, e)
+				}
 			}
 		}
 	}
