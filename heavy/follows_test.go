@@ -36,30 +36,21 @@ func much(updates []api.Update, bits, i int) []int64 {
 	return slices.DeleteFunc(slices.Compact(some), func(n int64) bool { return n < 1 })
 }
 
-// little tells the updates by numbers so small that many prefixes have the same.
-func little(all []api.Update) []api.Update {
-	few := slices.Clone(all)
-	for i := range few {
-		few[i].Delta %= 4
-	}
-	return few
-}
-
 // Where no key has less than 0, in the modes Linear and Conservative, each prefix that has
 // not less than least is told, at every level, and not less than it has; with each one all
 // those in which it lies. Else more pieces would have to be asked than may be.
 func TestEachPrefix(t *testing.T) {
-	answers, more, keys := kinds{}, map[int]int{}, map[int]int{}
+	answers, more, keys := stacks.Answers{}, map[int]int{}, map[int]int{}
 	for i, c := range stacks.All() {
 		if c.Mode == api.Median {
 			continue
 		}
 		rises := levels.Rises(i, configs.Count(c.Bits, 0))
-		for _, updates := range [][]api.Update{rises, little(rises), rises[:9], little(rises[:20])} {
+		for _, updates := range [][]api.Update{rises, levels.Little(rises), rises[:9], levels.Little(rises[:20])} {
 			s, has := stacks.Fed(c, updates), sums(c.Bits, updates)
 			for _, least := range much(updates, c.Bits, i) {
 				all, e := heavy.Heavy(s, least, api.MaxBudget)
-				answers.add(c, e)
+				answers.Add(c, e)
 				if e != api.OK {
 					holdRefused(t, s, least, api.MaxBudget, api.ErrBudget)
 					continue
@@ -80,7 +71,7 @@ func TestEachPrefix(t *testing.T) {
 		}
 	}
 	for is, n := range answers {
-		if is.fails == api.OK && n < 200 {
+		if is.Fails == api.OK && n < 200 {
 			t.Errorf("only %d answers of the kind %v", n, is)
 		}
 	}

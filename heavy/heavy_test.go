@@ -51,12 +51,6 @@ func holdRefused(t *testing.T, s *stack.Stack, least int64, budget int, fails ap
 	}
 }
 
-// exact tells a config of so many bits of whose levels all are exact, if the keys are at
-// most 128.
-func exact(bits, mode int) api.Config {
-	return api.Config{Bits: bits, Rows: 2, Width: api.MaxWidth, Mode: mode, Seed: 9}
-}
-
 // The chapter's example, in each mode: of exact levels of two bits, and the keys 1 and 2
 // that have 5 and 3.
 func TestExample(t *testing.T) {
@@ -75,7 +69,7 @@ func TestExample(t *testing.T) {
 func TestNamed(t *testing.T) {
 	cells := stacks.Cells{{1, 2, -3, 14, 5, 6, 70, 80}, {11, 12, 13, -14}, {21, 22}, {31}}
 	for _, mode := range configs.Modes() {
-		c := exact(3, mode)
+		c := stacks.Own(3, mode)
 		s := stacks.Filled(c, cells)
 		top, left, right := found(3, 0, 31), found(2, 0, 21), found(2, 1, 22)
 		first, second, third := found(1, 0, 11), found(1, 1, 12), found(1, 2, 13)
@@ -318,25 +312,6 @@ func TestRefused(t *testing.T) {
 	}
 }
 
-// rough tells stacks of the config with strewn numbers, so that a piece has not what its
-// halves have: most of them with few that are below 0, the last two with many.
-func rough(c api.Config, i int) []*stack.Stack {
-	var all []*stack.Stack
-	for j, shift := range []uint{57, 40, 4, 1, 0, 57, 1} {
-		cells := stacks.Strewn(c, i+j, shift)
-		for level, l := range cells {
-			for at, n := range l {
-				if j < 5 && (i+j+level+at)%16 > 0 {
-					l[at] = max(n, -n, 1)
-				}
-			}
-		}
-		cells[c.Bits][0] = highest >> shift
-		all = append(all, stacks.Filled(c, cells))
-	}
-	return all
-}
-
 // leasts tells numbers of which some are told of few pieces, some of many, and some of none:
 // the least and the greatest one, and those that are told of pieces of all levels, just so
 // and one more.
@@ -387,67 +362,39 @@ func reckoned(t *testing.T, s *stack.Stack, least int64) ([]heavy.Found, int) {
 	return told, asked
 }
 
-// kind is a kind of answer.
-type kind struct {
-	mode  int
-	exact string
-	fails api.Errno
-}
-
-// kinds counts answers.
-type kinds map[kind]int
-
-// add counts one of the stack's answers.
-func (all kinds) add(c api.Config, fails api.Errno) {
-	all[kind{c.Mode, stacks.Exact(c), fails}]++
-}
-
-// holdMany holds that of each mode, where each of these levels are exact, there are so many
-// answers with this error.
-func (all kinds) holdMany(t *testing.T, fails api.Errno, few int, exact ...string) {
-	t.Helper()
-	for _, mode := range configs.Modes() {
-		for _, exact := range exact {
-			if n := all[kind{mode, exact, fails}]; n < few {
-				t.Errorf("only %d answers with %v of the mode %d where %s are exact", n, fails, mode, exact)
-			}
-		}
-	}
-}
-
 // Of strewn numbers, as of those that were fed, in each mode, whichever levels are exact:
 // what is told one piece within another, or more pieces than may be asked.
 func TestOfAll(t *testing.T) {
-	answers := kinds{}
+	answers := stacks.Answers{}
 	for i, c := range stacks.All() {
-		for _, s := range append(rough(c, i), stacks.Fed(c, levels.Taken(i, levels.At(c, 0)))) {
+		for _, s := range append(stacks.Rough(c, i), stacks.Fed(c, levels.Taken(i, levels.At(c, 0)))) {
 			before := stacks.Told(s)
 			for _, least := range leasts(s, i) {
 				want, asked := reckoned(t, s, least)
 				if asked > api.MaxBudget {
 					holdRefused(t, s, least, api.MaxBudget, api.ErrBudget)
-					answers.add(c, api.ErrBudget)
+					answers.Add(c, api.ErrBudget)
 				} else {
 					hold(t, s, least, asked, want...)
-					answers.add(c, api.OK)
+					answers.Add(c, api.OK)
 				}
 			}
 			stacks.Hold(t, s, c, before)
 		}
 	}
-	answers.holdMany(t, api.OK, 300, stacks.AllExact, stacks.SomeExact, stacks.OneExact)
-	answers.holdMany(t, api.ErrBudget, 10, stacks.SomeExact, stacks.OneExact)
+	answers.HoldMany(t, api.OK, 300, stacks.AllExact, stacks.SomeExact, stacks.OneExact)
+	answers.HoldMany(t, api.ErrBudget, 10, stacks.SomeExact, stacks.OneExact)
 }
 
 // By the words of P2: of each piece that there is, be it asked or not, it is told, if it is
 // told not less than least, and lies in none that is told less.
 func TestEachPiece(t *testing.T) {
-	answers := kinds{}
+	answers := stacks.Answers{}
 	for i, c := range stacks.Configs() {
 		if c.Bits > 7 {
 			continue
 		}
-		for _, s := range append(rough(c, i), stacks.Fed(c, levels.Taken(i, levels.At(c, 0)))) {
+		for _, s := range append(stacks.Rough(c, i), stacks.Fed(c, levels.Taken(i, levels.At(c, 0)))) {
 			for _, least := range leasts(s, i) {
 				var want []heavy.Found
 				for level := c.Bits; level >= 0; level-- {
@@ -460,11 +407,11 @@ func TestEachPiece(t *testing.T) {
 				if got, e := heavy.Heavy(s, least, api.MaxBudget); !slices.Equal(got, want) || e != api.OK {
 					t.Errorf("Heavy of %d in %v: %v, %v, not %v", least, c, got, e, want)
 				}
-				answers.add(c, api.OK)
+				answers.Add(c, api.OK)
 			}
 		}
 	}
-	answers.holdMany(t, api.OK, 100, stacks.AllExact, stacks.SomeExact, stacks.OneExact)
+	answers.HoldMany(t, api.OK, 100, stacks.AllExact, stacks.SomeExact, stacks.OneExact)
 }
 
 // among tells what the piece is told, and whether it, and each one in which it lies, is told

@@ -122,7 +122,7 @@ func TestKeptNamed(t *testing.T) {
 	} {
 		t.Run(x.name, func(t *testing.T) {
 			for _, mode := range configs.Modes() {
-				c := exact(3, mode)
+				c := stacks.Own(3, mode)
 				s := stacks.Filled(c, x.cells)
 				holdKept(t, s, x.least, x.asked, x.want...)
 				stacks.Hold(t, s, c, x.cells)
@@ -331,16 +331,16 @@ func reckonedRests(bits int, told []heavy.Found, least int64) (all []heavy.Rest,
 // what whole numbers and spans of keys tell of the pieces that Heavy tells. A kept piece of
 // level 0 is each key that Heavy tells, with all that it is told.
 func TestHierOfAll(t *testing.T) {
-	answers, below, part := kinds{}, 0, 0
+	answers, below, part := stacks.Answers{}, 0, 0
 	for i, c := range stacks.All() {
-		for _, s := range append(rough(c, i), stacks.Fed(c, levels.Less(levels.Taken(i, levels.At(c, 0))))) {
+		for _, s := range append(stacks.Rough(c, i), stacks.Fed(c, levels.Less(levels.Taken(i, levels.At(c, 0))))) {
 			for _, least := range leasts(s, i) {
 				told, asked := reckoned(t, s, least)
 				if asked > 300 {
 					continue
 				}
 				want, less, fails := reckonedRests(c.Bits, told, least)
-				answers.add(c, fails)
+				answers.Add(c, fails)
 				if fails != api.OK {
 					holdOverflow(t, s, least, asked)
 					continue
@@ -356,8 +356,8 @@ func TestHierOfAll(t *testing.T) {
 			}
 		}
 	}
-	answers.holdMany(t, api.OK, 300, stacks.AllExact, stacks.SomeExact, stacks.OneExact)
-	answers.holdMany(t, api.ErrOverflow, 10, stacks.AllExact, stacks.SomeExact, stacks.OneExact)
+	answers.HoldMany(t, api.OK, 300, stacks.AllExact, stacks.SomeExact, stacks.OneExact)
+	answers.HoldMany(t, api.ErrOverflow, 10, stacks.AllExact, stacks.SomeExact, stacks.OneExact)
 	if below < 1000 || part < 1000 {
 		t.Errorf("only %d rests are below 0, and only of %d kept pieces a part is taken away", below, part)
 	}

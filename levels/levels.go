@@ -140,6 +140,15 @@ func Less(all []api.Update) []api.Update {
 	return few
 }
 
+// Little tells the updates by numbers from -3 to 3, so small that many keys have the same.
+func Little(all []api.Update) []api.Update {
+	few := slices.Clone(all)
+	for i := range few {
+		few[i].Delta %= 4
+	}
+	return few
+}
+
 // Taken tells strewn updates of the place's keys that its mode takes.
 func Taken(from int, p Place) []api.Update {
 	keys := configs.Count(p.Config.Bits, p.Level)

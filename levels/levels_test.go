@@ -127,6 +127,28 @@ func TestLess(t *testing.T) {
 	}
 }
 
+// Little tells the same keys, with small numbers of the same sign, or 0: each number that is
+// so small is among them, and nothing is changed by telling.
+func TestLittle(t *testing.T) {
+	seen := map[int64]int{}
+	for from := range 10 {
+		all := levels.Updates(from, 9)
+		few := levels.Little(all)
+		if !slices.Equal(all, levels.Updates(from, 9)) || len(few) != len(all) {
+			t.Fatalf("%v became %v, and %v", levels.Updates(from, 9), all, few)
+		}
+		for i, u := range few {
+			if d := all[i].Delta; u.Key != all[i].Key || u.Delta < -3 || u.Delta > 3 || u.Delta < 0 && d > 0 || u.Delta > 0 && d < 0 {
+				t.Errorf("little of %v is %v", all[i], u)
+			}
+			seen[u.Delta]++
+		}
+	}
+	if len(seen) != 7 {
+		t.Errorf("not all numbers that are so small: %v", seen)
+	}
+}
+
 func TestTaken(t *testing.T) {
 	for _, mode := range configs.Modes() {
 		for _, level := range []int{0, 1, 59} {

@@ -2,7 +2,6 @@ package quant_test
 
 import (
 	"math/big"
-	"slices"
 	"testing"
 
 	"gauger/api"
@@ -54,15 +53,6 @@ func (f fed) tooMuch(t *testing.T, way []api.Piece) *big.Int {
 		sum.Sub(sum, big.NewInt(levels.Has(f.updates, lo, hi)))
 	}
 	return sum
-}
-
-// small tells the updates with numbers that are so small that each rank can be tried.
-func small(all []api.Update) []api.Update {
-	few := slices.Clone(all)
-	for i := range few {
-		few[i].Delta %= 3
-	}
-	return few
 }
 
 // all tells each rank that the stack has.
@@ -135,7 +125,7 @@ func TestRanks(t *testing.T) {
 			continue
 		}
 		rises := levels.Rises(i, configs.Count(c.Bits, 0))
-		much, few := feed(t, c, rises), feed(t, c, small(rises))
+		much, few := feed(t, c, rises), feed(t, c, levels.Little(rises))
 		try(much, ranks(t, much.s))
 		try(few, few.all())
 	}
@@ -160,7 +150,7 @@ func TestAllLevelsExact(t *testing.T) {
 		}
 		tried[c.Mode]++
 		rises := levels.Rises(i, configs.Count(c.Bits, 0))
-		for _, updates := range [][]api.Update{rises, small(rises), rises[:3], small(rises[:5]), {{Key: 1, Delta: highest}}} {
+		for _, updates := range [][]api.Update{rises, levels.Little(rises), rises[:3], levels.Little(rises[:5]), {{Key: 1, Delta: highest}}} {
 			f := feed(t, c, updates)
 			from := int64(0)
 			for key := range configs.Count(c.Bits, 0) {
@@ -194,7 +184,7 @@ func TestGreaterRanks(t *testing.T) {
 	for i, c := range stacks.All() {
 		count := configs.Count(c.Bits, 0)
 		rises := levels.Rises(i, count)
-		all := append(filled(c, i), stacks.Fed(c, rises), stacks.Fed(c, small(rises)), stacks.Fed(c, levels.Taken(i, levels.At(c, 0))))
+		all := append(filled(c, i), stacks.Fed(c, rises), stacks.Fed(c, levels.Little(rises)), stacks.Fed(c, levels.Taken(i, levels.At(c, 0))))
 		for _, s := range all {
 			least, led := uint64(0), int64(0)
 			for _, k := range ranks(t, s) {

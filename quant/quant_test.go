@@ -395,12 +395,7 @@ func filled(c api.Config, i int) []*stack.Stack {
 // Of strewn numbers, as of those that were fed, in each mode, whichever levels are exact:
 // each rank leads where whole numbers and spans of keys lead it, or fails as they do.
 func TestOfAll(t *testing.T) {
-	type kind struct {
-		mode  int
-		exact string
-		fails api.Errno
-	}
-	answers := map[kind]int{}
+	answers := stacks.Answers{}
 	for i, c := range stacks.All() {
 		for _, s := range append(filled(c, i), stacks.Fed(c, levels.Taken(i, levels.At(c, 0)))) {
 			before := stacks.Told(s)
@@ -411,19 +406,14 @@ func TestOfAll(t *testing.T) {
 				} else {
 					holdRefused(t, s, k, fails)
 				}
-				answers[kind{c.Mode, stacks.Exact(c), fails}]++
+				answers.Add(c, fails)
 			}
 			holdNoRanks(t, s)
 			stacks.Hold(t, s, c, before)
 		}
 	}
-	for _, mode := range configs.Modes() {
-		for _, exact := range []string{stacks.AllExact, stacks.SomeExact, stacks.OneExact} {
-			if answers[kind{mode, exact, api.OK}] < 400 || answers[kind{mode, exact, api.ErrOverflow}] < 40 {
-				t.Errorf("too few answers of the mode %d where %s are exact: %v", mode, exact, answers)
-			}
-		}
-	}
+	answers.HoldMany(t, api.OK, 400, stacks.AllExact, stacks.SomeExact, stacks.OneExact)
+	answers.HoldMany(t, api.ErrOverflow, 40, stacks.AllExact, stacks.SomeExact, stacks.OneExact)
 }
 
 // The way begins with the piece of all keys, and ends with that of Quantile's answer; each

@@ -3,6 +3,7 @@
 package stacks
 
 import (
+	"math"
 	"slices"
 
 	"gauger/api"
@@ -53,6 +54,12 @@ func Exact(c api.Config) string {
 		return OneExact
 	}
 	return SomeExact
+}
+
+// Own tells a config of so many bits, each key of each level of which has a number of its own,
+// if there are at most 128.
+func Own(bits, mode int) api.Config {
+	return api.Config{Bits: bits, Rows: 2, Width: api.MaxWidth, Mode: mode, Seed: 9}
 }
 
 // Full tells cells of all levels of the config, with these numbers by turns.
@@ -112,6 +119,26 @@ func Fed(c api.Config, all []api.Update) *stack.Stack {
 		}
 	}
 	return s
+}
+
+// Rough tells stacks of a right config with strewn numbers, from the given one on, so that a
+// piece has not what its halves have, and with the greatest total that their size lets be:
+// most of them with few numbers that are below 0, the last two with many.
+func Rough(c api.Config, from int) []*stack.Stack {
+	var all []*stack.Stack
+	for i, shift := range []uint{57, 40, 4, 1, 0, 57, 1} {
+		cells := Strewn(c, from+i, shift)
+		for level, l := range cells {
+			for at, n := range l {
+				if i < 5 && (from+i+level+at)%16 > 0 {
+					l[at] = max(n, -n, 1)
+				}
+			}
+		}
+		cells[c.Bits][0] = math.MaxInt64 >> shift
+		all = append(all, Filled(c, cells))
+	}
+	return all
 }
 
 // Told tells the cells of all levels.

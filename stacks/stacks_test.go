@@ -1,6 +1,7 @@
 package stacks_test
 
 import (
+	"maps"
 	"math"
 	"slices"
 	"testing"
@@ -94,6 +95,18 @@ func TestAll(t *testing.T) {
 	}
 }
 
+// All levels are exact, as long as there are few keys.
+func TestOwn(t *testing.T) {
+	for bits := 1; bits <= api.MaxBits; bits++ {
+		for _, mode := range configs.Modes() {
+			c := stacks.Own(bits, mode)
+			if !shape.Right(c) || c.Bits != bits || c.Mode != mode || (stacks.Exact(c) == stacks.AllExact) != (bits <= 7) {
+				t.Errorf("%d bits and the mode %d: %v, of which %s are exact", bits, mode, c, stacks.Exact(c))
+			}
+		}
+	}
+}
+
 func TestFullAndFilled(t *testing.T) {
 	for _, mode := range configs.Modes() {
 		c, want := small(mode), stacks.Cells{{4, -5, 4}, {4, -5, 4}, {4, -5}, {4}}
@@ -159,6 +172,42 @@ func TestStrewn(t *testing.T) {
 	}
 }
 
+// Of each config there are stacks with few numbers below 0, and with many, each with as much
+// as its size lets be; no two are the same.
+func TestRough(t *testing.T) {
+	for i, c := range stacks.All() {
+		all := stacks.Rough(c, i)
+		if len(all) != 7 {
+			t.Fatalf("%d stacks of %v", len(all), c)
+		}
+		for j, s := range all {
+			cells := stacks.Told(s)
+			stacks.Hold(t, s, c, cells)
+			if want := []int64{63, 1<<23 - 1, 1<<59 - 1, 1<<62 - 1, math.MaxInt64, 63, 1<<62 - 1}[j]; s.Total() != want {
+				t.Errorf("the total of number %d of %v is %d, not %d", j, c, s.Total(), want)
+			}
+			below, count := 0, 0
+			for _, l := range cells {
+				for _, n := range l {
+					count++
+					if n < 0 {
+						below++
+					}
+				}
+			}
+			// Of few numbers it may be none, or all.
+			if count > 100 && (below*4 > count) != (j >= 5) {
+				t.Errorf("of %d numbers of number %d of %v %d are below 0", count, j, c, below)
+			}
+			for _, other := range all[:j] {
+				if c.Bits > 3 && same(cells, stacks.Told(other)) {
+					t.Errorf("number %d of %v is as one ahead of it", j, c)
+				}
+			}
+		}
+	}
+}
+
 func TestFed(t *testing.T) {
 	all := []api.Update{{Key: 6, Delta: 5}, {Key: 1, Delta: 2}, {Key: 6, Delta: 7}}
 	for _, mode := range configs.Modes() {
@@ -187,6 +236,44 @@ type counter int
 func (n *counter) Helper() {}
 
 func (n *counter) Errorf(string, ...any) { *n++ }
+
+// Answers are counted by the mode, by which levels are exact, and by the error; too few of a
+// kind are found.
+func TestAnswers(t *testing.T) {
+	every := []string{stacks.AllExact, stacks.SomeExact, stacks.OneExact}
+	all, count := stacks.Answers{}, map[stacks.Answer]int{}
+	for i, c := range stacks.All() {
+		fails := []api.Errno{api.OK, api.ErrRank, api.ErrKey}[i%3]
+		all.Add(c, fails)
+		count[stacks.Answer{Mode: c.Mode, Exact: stacks.Exact(c), Fails: fails}]++
+		all.Add(c, api.OK)
+		count[stacks.Answer{Mode: c.Mode, Exact: stacks.Exact(c), Fails: api.OK}]++
+	}
+	if !maps.Equal(all, count) {
+		t.Errorf("counted are %v, not %v", all, count)
+	}
+	least := math.MaxInt
+	for _, mode := range configs.Modes() {
+		for _, exact := range every {
+			least = min(least, count[stacks.Answer{Mode: mode, Exact: exact, Fails: api.OK}])
+		}
+	}
+	var wrong counter
+	if all.HoldMany(&wrong, api.OK, least, every...); wrong != 0 || least < 3 {
+		t.Errorf("%d kinds are less than %d", wrong, least)
+	}
+	if all.HoldMany(&wrong, api.OK, least+1, every...); wrong == 0 {
+		t.Errorf("no kind is less than %d", least+1)
+	}
+	wrong = 0
+	if all.HoldMany(&wrong, api.ErrOverflow, 1, every...); wrong != 9 {
+		t.Errorf("of nine kinds of which there is none %d are found", wrong)
+	}
+	wrong = 0
+	if all.HoldMany(&wrong, api.ErrOverflow, 1, stacks.OneExact); wrong != 3 {
+		t.Errorf("of three kinds of which there is none %d are found", wrong)
+	}
+}
 
 // Hold finds another config, and a cell that is another one, at whichever level it is.
 func TestHold(t *testing.T) {
